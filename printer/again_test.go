@@ -8,6 +8,7 @@ import (
 
 	"martello/api"
 	"martello/printer"
+	. "martello/samples"
 	"martello/syntax"
 	"martello/trees"
 )
@@ -26,7 +27,7 @@ func flat(t api.Tree) api.Tree {
 	}
 	switch {
 	case joins && len(kids) == 0:
-		return empty()
+		return Empty()
 	case joins && len(kids) == 1:
 		return kids[0]
 	}
@@ -49,7 +50,7 @@ func again(t *testing.T, tree api.Tree) {
 		t.Errorf("Parse of %q, printed of %.400s: %+v", text, fmt.Sprint(tree), wrong)
 		return
 	}
-	if !same(read, flat(tree)) {
+	if !Same(read, flat(tree)) {
 		t.Errorf("%q is read as %.400s; printed of %.400s", text, fmt.Sprint(read), fmt.Sprint(tree))
 	}
 	if names := trees.Caps(tree); !slices.Equal(trees.Caps(read), names) {
@@ -181,7 +182,7 @@ func TestAgainLength(t *testing.T) {
 		t.Errorf("%d texts were read again, %d are too long", short, long)
 	}
 	for n := 1000; n <= 1030; n++ {
-		tree := star(cat(slices.Repeat([]api.Tree{letter('a')}, n-len("(?:)*"))...))
+		tree := Star(Cat(slices.Repeat([]api.Tree{Letter('a')}, n-len("(?:)*"))...))
 		prints(t, tree, "(?:"+strings.Repeat("a", n-len("(?:)*"))+")*")
 		again(t, tree)
 	}

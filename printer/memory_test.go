@@ -1,53 +1,31 @@
 package printer_test
 
 import (
-	"slices"
 	"testing"
 
 	"martello/api"
 	"martello/printer"
+	. "martello/samples"
 )
-
-// roomy is a copy of a tree whose lists have spare room, with something in it.
-func roomy(t api.Tree) api.Tree {
-	t.Set = append(slices.Clone(t.Set), ranges(7, 7, 9, 9)...)[:len(t.Set)]
-	kids := append(slices.Clone(t.Kids), letter('!'), star(letter('?')))
-	for i, kid := range t.Kids {
-		kids[i] = roomy(kid)
-	}
-	t.Kids = kids[:len(t.Kids)]
-	return t
-}
-
-// whole is a copy of a tree with what its lists' spare room has as well.
-func whole(t api.Tree) api.Tree {
-	t.Set = slices.Clone(t.Set[:cap(t.Set)])
-	kids := slices.Clone(t.Kids[:cap(t.Kids)])
-	for i, kid := range kids {
-		kids[i] = whole(kid)
-	}
-	t.Kids = kids
-	return t
-}
 
 // memoryTrees are right trees with each kind of part, and some that are not right.
 func memoryTrees() []api.Tree {
-	all := []api.Tree{{}, set(5, 4), cat(set('a', 'b'), letter(-1)), of(13, letter('a')), grp(2, "x", set('a', 'b')), nested(50, set('a', 'b'), star)}
+	all := []api.Tree{{}, Set(5, 4), Cat(Set('a', 'b'), Letter(-1)), Of(13, Letter('a')), Group(2, "x", Set('a', 'b')), Nested(50, Set('a', 'b'), Star)}
 	for _, w := range wTrees(1, wLeaves()...) {
-		all = append(all, numbered(w.tree))
+		all = append(all, Numbered(w.tree))
 	}
-	all = append(all, cat(set('a', 'b', 'd', 'd'), grp(1, "x", cat(set(0, 9), letter('a'), at(1))), lazy(repeat(1, 2, alt(set(0, 9), cat(letter('b'), grp(2, "y", none()))))), empty(), cat(), alt(cat(alt(letter('a'), letter('b')))))) // each Op
+	all = append(all, Cat(Set('a', 'b', 'd', 'd'), Group(1, "x", Cat(Set(0, 9), Letter('a'), At(1))), Lazy(Repeat(1, 2, Alt(Set(0, 9), Cat(Letter('b'), Group(2, "y", None()))))), Empty(), Cat(), Alt(Cat(Alt(Letter('a'), Letter('b')))))) // each Op
 	return all
 }
 
 // TestUnchanged: rule P3: what is handed in, and its spare room, stays as it was, right or not.
 func TestUnchanged(t *testing.T) {
 	for _, tree := range memoryTrees() {
-		tree = roomy(tree)
-		before := whole(tree)
+		tree = Roomy(tree)
+		before := Whole(tree)
 		text, e := printer.Print(tree)
-		if !same(whole(tree), before) {
-			t.Errorf("%v: was %v", whole(tree), before)
+		if !Same(Whole(tree), before) {
+			t.Errorf("%v: was %v", Whole(tree), before)
 		}
 		if more, f := printer.Print(tree); more != text || f != e {
 			t.Errorf("Print of %v: %q, %d; and %q, %d", tree, text, e, more, f)
@@ -100,6 +78,6 @@ func TestAtOnce(t *testing.T) {
 
 // TestShared: a tree in which parts share their lists prints as one in which they do not.
 func TestShared(t *testing.T) {
-	kid := cat(set('a', 'b'), letter('c'))
-	prints(t, cat(kid, star(kid), kid, alt(kid, kid)), `[\x{61}-\x{62}]c(?:[\x{61}-\x{62}]c)*[\x{61}-\x{62}]c(?:[\x{61}-\x{62}]c|[\x{61}-\x{62}]c)`)
+	kid := Cat(Set('a', 'b'), Letter('c'))
+	prints(t, Cat(kid, Star(kid), kid, Alt(kid, kid)), `[\x{61}-\x{62}]c(?:[\x{61}-\x{62}]c)*[\x{61}-\x{62}]c(?:[\x{61}-\x{62}]c|[\x{61}-\x{62}]c)`)
 }

@@ -6,6 +6,7 @@ import (
 	"testing"
 
 	"martello/api"
+	. "martello/samples"
 )
 
 // written is a tree, put together with its text from below: the text is never told by going through a tree. Groups have no numbers yet, and a name is @.
@@ -38,7 +39,7 @@ func wGroup(name string, kid written) written {
 	if name != "" {
 		begin = "(?P<@>"
 	}
-	return written{grp(0, name, kid.tree), begin + kid.text + ")", firm}
+	return written{Group(0, name, kid.tree), begin + kid.text + ")", firm}
 }
 
 // wTimes is a repeat: a tree of no Kid yet, and its sign.
@@ -51,7 +52,7 @@ func wTimes(tree api.Tree, sign string, kid written) written {
 }
 
 func wCat(kids ...written) written {
-	tree, text := cat(), ""
+	tree, text := Cat(), ""
 	for _, kid := range kids {
 		tree.Kids = append(tree.Kids, kid.tree)
 		text += kid.in(chain)
@@ -66,7 +67,7 @@ func wCat(kids ...written) written {
 }
 
 func wAlt(kids ...written) written {
-	tree := alt()
+	tree := Alt()
 	var texts []string
 	for _, kid := range kids {
 		tree.Kids = append(tree.Kids, kid.tree)
@@ -85,16 +86,16 @@ func wRepeats() []func(written) written {
 		tree api.Tree
 		sign string
 	}{
-		{of(api.OpStar), "*"}, {of(api.OpPlus), "+"}, {of(api.OpQuest), "?"}, {api.Tree{Op: api.OpRepeat, Min: 2, Max: 2}, "{2}"}, {api.Tree{Op: api.OpRepeat, Min: 1, Max: -1}, "{1,}"}, {api.Tree{Op: api.OpRepeat, Max: 3}, "{0,3}"}, {api.Tree{Op: api.OpRepeat}, "{0}"},
+		{Of(api.OpStar), "*"}, {Of(api.OpPlus), "+"}, {Of(api.OpQuest), "?"}, {api.Tree{Op: api.OpRepeat, Min: 2, Max: 2}, "{2}"}, {api.Tree{Op: api.OpRepeat, Min: 1, Max: -1}, "{1,}"}, {api.Tree{Op: api.OpRepeat, Max: 3}, "{0,3}"}, {api.Tree{Op: api.OpRepeat}, "{0}"},
 	} {
-		all = append(all, func(kid written) written { return wTimes(x.tree, x.sign, kid) }, func(kid written) written { return wTimes(lazy(x.tree), x.sign, kid) })
+		all = append(all, func(kid written) written { return wTimes(x.tree, x.sign, kid) }, func(kid written) written { return wTimes(Lazy(x.tree), x.sign, kid) })
 	}
 	return all
 }
 
 // wOuters are all trees that stand around one other, alone or with others beside it.
 func wOuters() []func(written) written {
-	x, y := written{letter('x'), "x", firm}, written{star(letter('y')), "y*", times}
+	x, y := written{Letter('x'), "x", firm}, written{Star(Letter('y')), "y*", times}
 	return append(wRepeats(),
 		func(kid written) written { return wGroup("", kid) },
 		func(kid written) written { return wGroup("name", kid) },
@@ -114,8 +115,8 @@ func wOuters() []func(written) written {
 // wLeaves are trees of each Op without Kids.
 func wLeaves() []written {
 	return []written{
-		{none(), `[^\x{0}-\x{10ffff}]`, firm}, {empty(), `(?:)`, firm}, {cat(), `(?:)`, firm}, {letter('a'), `a`, firm}, {letter('|'), `\|`, firm}, {letter(0xe9), `\x{e9}`, firm}, {set('a', 'a'), `[\x{61}]`, firm}, {set('0', '9', 'a', 'a'), `[\x{30}-\x{39}\x{61}]`, firm},
-		{at(api.AtBegin), `\A`, firm}, {at(api.AtEnd), `\z`, firm}, {at(api.AtBeginLine), `(?m:^)`, firm}, {at(api.AtEndLine), `(?m:$)`, firm}, {at(api.AtWord), `\b`, firm}, {at(api.AtNoWord), `\B`, firm},
+		{None(), `[^\x{0}-\x{10ffff}]`, firm}, {Empty(), `(?:)`, firm}, {Cat(), `(?:)`, firm}, {Letter('a'), `a`, firm}, {Letter('|'), `\|`, firm}, {Letter(0xe9), `\x{e9}`, firm}, {Set('a', 'a'), `[\x{61}]`, firm}, {Set('0', '9', 'a', 'a'), `[\x{30}-\x{39}\x{61}]`, firm},
+		{At(api.AtBegin), `\A`, firm}, {At(api.AtEnd), `\z`, firm}, {At(api.AtBeginLine), `(?m:^)`, firm}, {At(api.AtEndLine), `(?m:$)`, firm}, {At(api.AtWord), `\b`, firm}, {At(api.AtNoWord), `\B`, firm},
 	}
 }
 
@@ -205,11 +206,11 @@ func TestModel(t *testing.T) {
 		t    api.Tree
 		want string
 	}{
-		{cat(letter('a'), alt(letter('b'), letter('.')), cat(letter('\n'), letter(' '))), `a(?:b|\.)\x{a} `},
-		{star(grp(1, "x", lazy(repeat(2, -1, cat(at(4), none()))))), `(?P<x>(?:(?m:^)[^\x{0}-\x{10ffff}]){2,}?)*`},
-		{alt(set(0, 0x10ffff), set('a', 'a'), set(1, 2, 4, 4, 6, 7)), `[\x{0}-\x{10ffff}]|[\x{61}]|[\x{1}-\x{2}\x{4}\x{6}-\x{7}]`},
-		{plus(cat(alt(alt(empty(), cat()), letter('`')))), "(?:(?:)|(?:)|`)+"},
-		{quest(repeat(0, 0, repeat(1, 2, cat(letter('a'))))), `(?:(?:a{1,2}){0})?`},
+		{Cat(Letter('a'), Alt(Letter('b'), Letter('.')), Cat(Letter('\n'), Letter(' '))), `a(?:b|\.)\x{a} `},
+		{Star(Group(1, "x", Lazy(Repeat(2, -1, Cat(At(4), None()))))), `(?P<x>(?:(?m:^)[^\x{0}-\x{10ffff}]){2,}?)*`},
+		{Alt(Set(0, 0x10ffff), Set('a', 'a'), Set(1, 2, 4, 4, 6, 7)), `[\x{0}-\x{10ffff}]|[\x{61}]|[\x{1}-\x{2}\x{4}\x{6}-\x{7}]`},
+		{Plus(Cat(Alt(Alt(Empty(), Cat()), Letter('`')))), "(?:(?:)|(?:)|`)+"},
+		{Quest(Repeat(0, 0, Repeat(1, 2, Cat(Letter('a'))))), `(?:(?:a{1,2}){0})?`},
 	} {
 		if w := rewritten(x.t); w.text != x.want {
 			t.Errorf("%v: %q; not %q", x.t, w.text, x.want)
@@ -219,10 +220,10 @@ func TestModel(t *testing.T) {
 
 // TestSmallTrees: P9.1 and P9.2 of all small trees.
 func TestSmallTrees(t *testing.T) {
-	a, s := written{letter('a'), "a", firm}, written{set('b', 'c'), `[\x{62}-\x{63}]`, firm}
+	a, s := written{Letter('a'), "a", firm}, written{Set('b', 'c'), `[\x{62}-\x{63}]`, firm}
 	all := append(wTrees(2, wLeaves()...), wTrees(3, a)...)
 	for _, w := range append(all, wTrees(2, a, s, wAlt(a, s), wCat(a, s))...) {
-		tree, text := numbered(w.tree), named(w.text)
+		tree, text := Numbered(w.tree), named(w.text)
 		prints(t, tree, text)
 		again(t, tree)
 		if t.Failed() {
@@ -238,7 +239,7 @@ func TestPairs(t *testing.T) {
 		for j, v := range all {
 			outer := wOuters()[(i+j)%len(wOuters())]
 			for _, both := range []written{wCat(w, v), wAlt(w, v), outer(wCat(w, v)), outer(wAlt(v, w))} {
-				tree := numbered(both.tree)
+				tree := Numbered(both.tree)
 				prints(t, tree, named(both.text))
 				if (i+j)%5 == 0 {
 					again(t, tree)

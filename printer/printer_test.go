@@ -5,6 +5,7 @@ import (
 
 	"martello/api"
 	"martello/printer"
+	. "martello/samples"
 	"martello/syntax"
 )
 
@@ -72,10 +73,10 @@ func TestEmpty(t *testing.T) {
 		tree api.Tree
 		want string
 	}{
-		{none(), nothing}, {empty(), "(?:)"}, {cat(), "(?:)"}, {cat(none()), nothing}, {cat(empty()), "(?:)"}, {cat(cat()), "(?:)"}, {alt(empty()), "(?:)"}, {alt(cat()), "(?:)"}, {alt(none()), nothing},
-		{cat(empty(), empty()), "(?:)(?:)"}, {cat(cat(), empty(), cat()), "(?:)(?:)(?:)"}, {alt(empty(), empty()), "(?:)|(?:)"}, {alt(cat(), letter('a'), empty()), "(?:)|a|(?:)"}, {alt(letter('a'), cat()), "a|(?:)"}, {cat(letter('a'), cat(), letter('b')), "a(?:)b"}, {cat(none(), empty(), none()), nothing + "(?:)" + nothing}, {alt(none(), none()), nothing + "|" + nothing},
-		{star(none()), nothing + "*"}, {star(empty()), "(?:)*"}, {star(cat()), "(?:)*"}, {lazy(plus(cat())), "(?:)+?"}, {quest(alt(cat(cat()))), "(?:)?"}, {repeat(0, 0, cat()), "(?:){0}"}, {repeat(1, -1, none()), nothing + "{1,}"}, {star(cat(cat(), cat())), "(?:(?:)(?:))*"}, {star(alt(empty(), cat())), "(?:(?:)|(?:))*"},
-		{grp(1, "", empty()), "((?:))"}, {grp(1, "", cat()), "((?:))"}, {grp(1, "x", cat()), "(?P<x>(?:))"}, {grp(1, "", none()), "(" + nothing + ")"}, {grp(1, "", alt(cat(), cat())), "((?:)|(?:))"},
+		{None(), nothing}, {Empty(), "(?:)"}, {Cat(), "(?:)"}, {Cat(None()), nothing}, {Cat(Empty()), "(?:)"}, {Cat(Cat()), "(?:)"}, {Alt(Empty()), "(?:)"}, {Alt(Cat()), "(?:)"}, {Alt(None()), nothing},
+		{Cat(Empty(), Empty()), "(?:)(?:)"}, {Cat(Cat(), Empty(), Cat()), "(?:)(?:)(?:)"}, {Alt(Empty(), Empty()), "(?:)|(?:)"}, {Alt(Cat(), Letter('a'), Empty()), "(?:)|a|(?:)"}, {Alt(Letter('a'), Cat()), "a|(?:)"}, {Cat(Letter('a'), Cat(), Letter('b')), "a(?:)b"}, {Cat(None(), Empty(), None()), nothing + "(?:)" + nothing}, {Alt(None(), None()), nothing + "|" + nothing},
+		{Star(None()), nothing + "*"}, {Star(Empty()), "(?:)*"}, {Star(Cat()), "(?:)*"}, {Lazy(Plus(Cat())), "(?:)+?"}, {Quest(Alt(Cat(Cat()))), "(?:)?"}, {Repeat(0, 0, Cat()), "(?:){0}"}, {Repeat(1, -1, None()), nothing + "{1,}"}, {Star(Cat(Cat(), Cat())), "(?:(?:)(?:))*"}, {Star(Alt(Empty(), Cat())), "(?:(?:)|(?:))*"},
+		{Group(1, "", Empty()), "((?:))"}, {Group(1, "", Cat()), "((?:))"}, {Group(1, "x", Cat()), "(?P<x>(?:))"}, {Group(1, "", None()), "(" + nothing + ")"}, {Group(1, "", Alt(Cat(), Cat())), "((?:)|(?:))"},
 	} {
 		prints(t, x.tree, x.want)
 		again(t, x.tree)
@@ -84,24 +85,24 @@ func TestEmpty(t *testing.T) {
 
 // TestOneKid: P9.1: an OpCat, an OpAlt of one Kid is written as that Kid, and counts as it, also one in another.
 func TestOneKid(t *testing.T) {
-	a, b := letter('a'), letter('b')
+	a, b := Letter('a'), Letter('b')
 	for _, one := range []func(api.Tree) api.Tree{
-		func(kid api.Tree) api.Tree { return cat(kid) },
-		func(kid api.Tree) api.Tree { return alt(kid) },
-		func(kid api.Tree) api.Tree { return cat(alt(kid)) },
-		func(kid api.Tree) api.Tree { return alt(cat(kid)) },
-		func(kid api.Tree) api.Tree { return cat(cat(kid)) },
-		func(kid api.Tree) api.Tree { return alt(alt(cat(alt(kid)))) },
+		func(kid api.Tree) api.Tree { return Cat(kid) },
+		func(kid api.Tree) api.Tree { return Alt(kid) },
+		func(kid api.Tree) api.Tree { return Cat(Alt(kid)) },
+		func(kid api.Tree) api.Tree { return Alt(Cat(kid)) },
+		func(kid api.Tree) api.Tree { return Cat(Cat(kid)) },
+		func(kid api.Tree) api.Tree { return Alt(Alt(Cat(Alt(kid)))) },
 	} {
 		for _, x := range []struct {
 			tree api.Tree
 			want string
 		}{
-			{one(a), "a"}, {one(none()), `[^\x{0}-\x{10ffff}]`}, {one(at(4)), "(?m:^)"}, {one(star(a)), "a*"}, {one(grp(1, "", a)), "(a)"}, {one(cat(a, b)), "ab"}, {one(alt(a, b)), "a|b"}, {one(set('a', 'c')), `[\x{61}-\x{63}]`},
-			{star(one(a)), "a*"}, {plus(one(grp(1, "x", a))), "(?P<x>a)+"}, {quest(one(empty())), "(?:)?"}, {star(one(star(a))), "(?:a*)*"}, {lazy(plus(one(lazy(quest(a))))), "(?:a??)+?"}, {repeat(2, 3, one(repeat(4, 5, a))), "(?:a{4,5}){2,3}"}, {star(one(cat(a, b))), "(?:ab)*"}, {star(one(alt(a, b))), "(?:a|b)*"}, {star(one(at(8))), "(?m:$)*"},
-			{cat(one(a), b), "ab"}, {cat(one(alt(a, b)), b), "(?:a|b)b"}, {cat(b, one(alt(a, b))), "b(?:a|b)"}, {cat(one(cat(a, b)), b), "abb"}, {cat(one(star(a)), b), "a*b"},
-			{alt(one(a), b), "a|b"}, {alt(one(alt(a, b)), b), "a|b|b"}, {alt(b, one(alt(a, b))), "b|a|b"}, {alt(one(cat(a, b)), b), "ab|b"}, {alt(b, one(cat())), "b|(?:)"},
-			{grp(1, "", one(a)), "(a)"}, {grp(1, "", one(alt(a, b))), "(a|b)"}, {grp(1, "", one(cat(a, b))), "(ab)"}, {grp(1, "", one(grp(2, "", a))), "((a))"}, {star(grp(1, "", one(alt(a, b)))), "(a|b)*"},
+			{one(a), "a"}, {one(None()), `[^\x{0}-\x{10ffff}]`}, {one(At(4)), "(?m:^)"}, {one(Star(a)), "a*"}, {one(Group(1, "", a)), "(a)"}, {one(Cat(a, b)), "ab"}, {one(Alt(a, b)), "a|b"}, {one(Set('a', 'c')), `[\x{61}-\x{63}]`},
+			{Star(one(a)), "a*"}, {Plus(one(Group(1, "x", a))), "(?P<x>a)+"}, {Quest(one(Empty())), "(?:)?"}, {Star(one(Star(a))), "(?:a*)*"}, {Lazy(Plus(one(Lazy(Quest(a))))), "(?:a??)+?"}, {Repeat(2, 3, one(Repeat(4, 5, a))), "(?:a{4,5}){2,3}"}, {Star(one(Cat(a, b))), "(?:ab)*"}, {Star(one(Alt(a, b))), "(?:a|b)*"}, {Star(one(At(8))), "(?m:$)*"},
+			{Cat(one(a), b), "ab"}, {Cat(one(Alt(a, b)), b), "(?:a|b)b"}, {Cat(b, one(Alt(a, b))), "b(?:a|b)"}, {Cat(one(Cat(a, b)), b), "abb"}, {Cat(one(Star(a)), b), "a*b"},
+			{Alt(one(a), b), "a|b"}, {Alt(one(Alt(a, b)), b), "a|b|b"}, {Alt(b, one(Alt(a, b))), "b|a|b"}, {Alt(one(Cat(a, b)), b), "ab|b"}, {Alt(b, one(Cat())), "b|(?:)"},
+			{Group(1, "", one(a)), "(a)"}, {Group(1, "", one(Alt(a, b))), "(a|b)"}, {Group(1, "", one(Cat(a, b))), "(ab)"}, {Group(1, "", one(Group(2, "", a))), "((a))"}, {Star(Group(1, "", one(Alt(a, b)))), "(a|b)*"},
 		} {
 			prints(t, x.tree, x.want)
 			again(t, x.tree)
@@ -111,16 +112,16 @@ func TestOneKid(t *testing.T) {
 
 // TestSeveral: P9.1: parts one behind the other, and one or the other, in each other.
 func TestSeveral(t *testing.T) {
-	a, b, c, d := letter('a'), letter('b'), letter('c'), letter('d')
+	a, b, c, d := Letter('a'), Letter('b'), Letter('c'), Letter('d')
 	for _, x := range []struct {
 		tree api.Tree
 		want string
 	}{
-		{cat(a, b), "ab"}, {cat(a, b, c, d), "abcd"}, {cat(cat(a, b), cat(c, d)), "abcd"}, {cat(a, cat(b, cat(c, d))), "abcd"}, {cat(star(a), plus(b), quest(c)), "a*b+c?"}, {cat(grp(1, "", a), grp(2, "", b)), "(a)(b)"},
-		{alt(a, b), "a|b"}, {alt(a, b, c, d), "a|b|c|d"}, {alt(alt(a, b), alt(c, d)), "a|b|c|d"}, {alt(a, alt(b, alt(c, d))), "a|b|c|d"}, {alt(star(a), lazy(plus(b)), quest(c)), "a*|b+?|c?"}, {alt(grp(1, "", a), grp(2, "", b)), "(a)|(b)"},
-		{cat(alt(a, b), c), "(?:a|b)c"}, {cat(c, alt(a, b)), "c(?:a|b)"}, {cat(c, alt(a, b), d), "c(?:a|b)d"}, {cat(alt(a, b), alt(c, d)), "(?:a|b)(?:c|d)"}, {cat(cat(alt(a, b), c), d), "(?:a|b)cd"}, {cat(a, cat(b, alt(c, d))), "ab(?:c|d)"},
-		{alt(cat(a, b), c), "ab|c"}, {alt(c, cat(a, b)), "c|ab"}, {alt(cat(a, b), cat(c, d)), "ab|cd"}, {alt(cat(alt(a, b), c), d), "(?:a|b)c|d"}, {alt(a, cat(b, alt(c, cat(d, a)))), "a|b(?:c|da)"}, {cat(alt(cat(a, b), alt(c, d)), a), "(?:ab|c|d)a"},
-		{cat(alt(empty(), a), b), "(?:(?:)|a)b"}, {cat(grp(1, "", alt(a, b)), c), "(a|b)c"}, {grp(1, "", cat(alt(a, b), c)), "((?:a|b)c)"}, {grp(1, "", alt(cat(a, b), c)), "(ab|c)"}, {cat(at(1), alt(at(4), at(8)), at(2)), `\A(?:(?m:^)|(?m:$))\z`},
+		{Cat(a, b), "ab"}, {Cat(a, b, c, d), "abcd"}, {Cat(Cat(a, b), Cat(c, d)), "abcd"}, {Cat(a, Cat(b, Cat(c, d))), "abcd"}, {Cat(Star(a), Plus(b), Quest(c)), "a*b+c?"}, {Cat(Group(1, "", a), Group(2, "", b)), "(a)(b)"},
+		{Alt(a, b), "a|b"}, {Alt(a, b, c, d), "a|b|c|d"}, {Alt(Alt(a, b), Alt(c, d)), "a|b|c|d"}, {Alt(a, Alt(b, Alt(c, d))), "a|b|c|d"}, {Alt(Star(a), Lazy(Plus(b)), Quest(c)), "a*|b+?|c?"}, {Alt(Group(1, "", a), Group(2, "", b)), "(a)|(b)"},
+		{Cat(Alt(a, b), c), "(?:a|b)c"}, {Cat(c, Alt(a, b)), "c(?:a|b)"}, {Cat(c, Alt(a, b), d), "c(?:a|b)d"}, {Cat(Alt(a, b), Alt(c, d)), "(?:a|b)(?:c|d)"}, {Cat(Cat(Alt(a, b), c), d), "(?:a|b)cd"}, {Cat(a, Cat(b, Alt(c, d))), "ab(?:c|d)"},
+		{Alt(Cat(a, b), c), "ab|c"}, {Alt(c, Cat(a, b)), "c|ab"}, {Alt(Cat(a, b), Cat(c, d)), "ab|cd"}, {Alt(Cat(Alt(a, b), c), d), "(?:a|b)c|d"}, {Alt(a, Cat(b, Alt(c, Cat(d, a)))), "a|b(?:c|da)"}, {Cat(Alt(Cat(a, b), Alt(c, d)), a), "(?:ab|c|d)a"},
+		{Cat(Alt(Empty(), a), b), "(?:(?:)|a)b"}, {Cat(Group(1, "", Alt(a, b)), c), "(a|b)c"}, {Group(1, "", Cat(Alt(a, b), c)), "((?:a|b)c)"}, {Group(1, "", Alt(Cat(a, b), c)), "(ab|c)"}, {Cat(At(1), Alt(At(4), At(8)), At(2)), `\A(?:(?m:^)|(?m:$))\z`},
 	} {
 		prints(t, x.tree, x.want)
 		again(t, x.tree)
@@ -129,13 +130,13 @@ func TestSeveral(t *testing.T) {
 
 // TestGroups: P9.1: with a name and without; whatever stands in one stands as it is.
 func TestGroups(t *testing.T) {
-	a, b := letter('a'), letter('b')
+	a, b := Letter('a'), Letter('b')
 	for _, x := range []struct {
 		tree api.Tree
 		want string
 	}{
-		{grp(1, "", a), "(a)"}, {grp(1, "x", a), "(?P<x>a)"}, {grp(1, "P", a), "(?P<P>a)"}, {grp(1, "_9", cat(a, b)), "(?P<_9>ab)"}, {grp(1, "Name_1", alt(a, b)), "(?P<Name_1>a|b)"}, {grp(1, "", alt(a, b)), "(a|b)"}, {grp(1, "", star(a)), "(a*)"}, {grp(1, "", grp(2, "", grp(3, "", a))), "(((a)))"}, {grp(1, "x", grp(2, "", grp(3, "y", a))), "(?P<x>((?P<y>a)))"},
-		{cat(grp(1, "x", a), grp(2, "", b), grp(3, "X", a)), "(?P<x>a)(b)(?P<X>a)"}, {alt(grp(1, "", a), cat(grp(2, "y", b), a)), "(a)|(?P<y>b)a"}, {star(grp(1, "", a)), "(a)*"}, {lazy(repeat(2, 3, grp(1, "x", alt(a, b)))), "(?P<x>a|b){2,3}?"}, {plus(grp(1, "", cat(grp(2, "", a), star(grp(3, "z", b))))), "((a)(?P<z>b)*)+"},
+		{Group(1, "", a), "(a)"}, {Group(1, "x", a), "(?P<x>a)"}, {Group(1, "P", a), "(?P<P>a)"}, {Group(1, "_9", Cat(a, b)), "(?P<_9>ab)"}, {Group(1, "Name_1", Alt(a, b)), "(?P<Name_1>a|b)"}, {Group(1, "", Alt(a, b)), "(a|b)"}, {Group(1, "", Star(a)), "(a*)"}, {Group(1, "", Group(2, "", Group(3, "", a))), "(((a)))"}, {Group(1, "x", Group(2, "", Group(3, "y", a))), "(?P<x>((?P<y>a)))"},
+		{Cat(Group(1, "x", a), Group(2, "", b), Group(3, "X", a)), "(?P<x>a)(b)(?P<X>a)"}, {Alt(Group(1, "", a), Cat(Group(2, "y", b), a)), "(a)|(?P<y>b)a"}, {Star(Group(1, "", a)), "(a)*"}, {Lazy(Repeat(2, 3, Group(1, "x", Alt(a, b)))), "(?P<x>a|b){2,3}?"}, {Plus(Group(1, "", Cat(Group(2, "", a), Star(Group(3, "z", b))))), "((a)(?P<z>b)*)+"},
 	} {
 		prints(t, x.tree, x.want)
 		again(t, x.tree)

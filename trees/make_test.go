@@ -6,61 +6,26 @@ import (
 	"strings"
 
 	"martello/api"
+	. "martello/samples"
 )
-
-// The trees of each Op.
-
-func none() api.Tree                      { return api.Tree{Op: api.OpNone} }
-func empty() api.Tree                     { return api.Tree{Op: api.OpEmpty} }
-func letter(c rune) api.Tree              { return api.Tree{Op: api.OpRune, Rune: c} }
-func set(ends ...rune) api.Tree           { return api.Tree{Op: api.OpSet, Set: ranges(ends...)} }
-func at(a api.At) api.Tree                { return api.Tree{Op: api.OpAt, At: a} }
-func star(kid api.Tree) api.Tree          { return of(api.OpStar, kid) }
-func plus(kid api.Tree) api.Tree          { return of(api.OpPlus, kid) }
-func quest(kid api.Tree) api.Tree         { return of(api.OpQuest, kid) }
-func cat(kids ...api.Tree) api.Tree       { return of(api.OpCat, kids...) }
-func alt(kids ...api.Tree) api.Tree       { return of(api.OpAlt, kids...) }
-func of(o api.Op, k ...api.Tree) api.Tree { return api.Tree{Op: o, Kids: k} }
-
-func grp(n int, name string, kid api.Tree) api.Tree {
-	return api.Tree{Op: api.OpCap, Cap: n, Name: name, Kids: []api.Tree{kid}}
-}
-
-func repeat(least, most int, kid api.Tree) api.Tree {
-	return api.Tree{Op: api.OpRepeat, Min: least, Max: most, Kids: []api.Tree{kid}}
-}
-
-func lazy(t api.Tree) api.Tree {
-	t.Lazy = true
-	return t
-}
-
-// ranges are a list of them, by both ends each.
-func ranges(ends ...rune) []api.Range {
-	var l []api.Range
-	for i := 0; i+1 < len(ends); i += 2 {
-		l = append(l, api.Range{Lo: ends[i], Hi: ends[i+1]})
-	}
-	return l
-}
 
 // chain is a tree of that depth, and that weight.
 func chain(depth int) api.Tree {
-	t := letter('a')
+	t := Letter('a')
 	for range depth - 1 {
-		t = star(t)
+		t = Star(t)
 	}
 	return t
 }
 
 // letters is an OpCat of so many: of one more weight.
 func letters(n int) api.Tree {
-	return cat(slices.Repeat([]api.Tree{letter('a')}, n)...)
+	return Cat(slices.Repeat([]api.Tree{Letter('a')}, n)...)
 }
 
 // shared is a tree so deep, of whose parts each has another one twice: more than could be gone through.
 func shared(depth int, of func(...api.Tree) api.Tree) api.Tree {
-	t := letter('a')
+	t := Letter('a')
 	for range depth - 1 {
 		t = of(t, t)
 	}
@@ -70,9 +35,9 @@ func shared(depth int, of func(...api.Tree) api.Tree) api.Tree {
 // eachOp are right trees, one of each Op at least.
 func eachOp() []api.Tree {
 	return []api.Tree{
-		none(), empty(), letter('a'), set('0', '9', 'a', 'z'), at(api.AtWord), grp(1, "x", letter('a')), grp(1, "", none()),
-		star(letter('a')), plus(empty()), lazy(quest(set('a', 'b'))), repeat(2, 3, letter('a')), lazy(repeat(0, -1, letter('a'))),
-		cat(), cat(letter('a')), cat(letter('a'), grp(1, "", letter('b')), empty()), alt(letter('a')), alt(none(), grp(1, "y", letter('b')), star(letter('c'))),
+		None(), Empty(), Letter('a'), Set('0', '9', 'a', 'z'), At(api.AtWord), Group(1, "x", Letter('a')), Group(1, "", None()),
+		Star(Letter('a')), Plus(Empty()), Lazy(Quest(Set('a', 'b'))), Repeat(2, 3, Letter('a')), Lazy(Repeat(0, -1, Letter('a'))),
+		Cat(), Cat(Letter('a')), Cat(Letter('a'), Group(1, "", Letter('b')), Empty()), Alt(Letter('a')), Alt(None(), Group(1, "y", Letter('b')), Star(Letter('c'))),
 	}
 }
 
@@ -85,7 +50,7 @@ func changes() []change {
 	for _, v := range []rune{0, 1, 'a', 0xd800, 0x10ffff, 0x110000, -1, math.MinInt32, math.MaxInt32} {
 		all = append(all, func(t *api.Tree) { t.Rune = v })
 	}
-	for _, v := range [][]api.Range{nil, {}, ranges('a', 'z'), ranges(0, 0x10ffff), ranges(5, 5, 7, 7), ranges(5, 5, 6, 7), ranges(5, 4), ranges(7, 7, 5, 5), ranges(0, 0x110000), ranges(-1, 5), ranges('a', 'z', 'a', 'z')} {
+	for _, v := range [][]api.Range{nil, {}, Ranges('a', 'z'), Ranges(0, 0x10ffff), Ranges(5, 5, 7, 7), Ranges(5, 5, 6, 7), Ranges(5, 4), Ranges(7, 7, 5, 5), Ranges(0, 0x110000), Ranges(-1, 5), Ranges('a', 'z', 'a', 'z')} {
 		all = append(all, func(t *api.Tree) { t.Set = v })
 	}
 	for _, v := range []api.At{0, 1, 2, 3, 4, 8, 12, 16, 32, 48, 63, 64, -1, -32, math.MinInt, math.MaxInt} {
@@ -103,7 +68,7 @@ func changes() []change {
 	for _, v := range []bool{false, true} {
 		all = append(all, func(t *api.Tree) { t.Lazy = v })
 	}
-	for _, v := range [][]api.Tree{nil, {}, {letter('b')}, {letter('b'), empty()}, {letter(-1)}, {{}}, {empty(), letter('b'), star(letter('c'))}, {empty(), {Op: 13}}, {grp(1, "z", letter('b'))}, {grp(2, "x", letter('b'))}} {
+	for _, v := range [][]api.Tree{nil, {}, {Letter('b')}, {Letter('b'), Empty()}, {Letter(-1)}, {{}}, {Empty(), Letter('b'), Star(Letter('c'))}, {Empty(), {Op: 13}}, {Group(1, "z", Letter('b'))}, {Group(2, "x", Letter('b'))}} {
 		all = append(all, func(t *api.Tree) { t.Kids = v })
 	}
 	return all
@@ -121,11 +86,11 @@ func wrongNames() []string {
 func smallTrees(depth int, leaves ...api.Tree) []api.Tree {
 	all := leaves
 	for range depth - 1 {
-		next := append(slices.Clone(leaves), cat())
+		next := append(slices.Clone(leaves), Cat())
 		for _, t := range all {
-			next = append(next, grp(0, "", t), grp(0, "x", t), star(t), lazy(star(t)), plus(t), quest(t), repeat(0, 0, t), repeat(0, 2, t), lazy(repeat(2, -1, t)), cat(t), alt(t))
+			next = append(next, Group(0, "", t), Group(0, "x", t), Star(t), Lazy(Star(t)), Plus(t), Quest(t), Repeat(0, 0, t), Repeat(0, 2, t), Lazy(Repeat(2, -1, t)), Cat(t), Alt(t))
 			for _, u := range all {
-				next = append(next, cat(t, u), alt(t, u))
+				next = append(next, Cat(t, u), Alt(t, u))
 			}
 		}
 		all = next

@@ -5,46 +5,9 @@ import (
 	"testing"
 
 	"martello/api"
+	. "martello/samples"
 	"martello/trees"
 )
-
-// roomy is a copy of a tree whose lists have spare room, with something in it.
-func roomy(t api.Tree) api.Tree {
-	if t.Set != nil {
-		t.Set = append(slices.Clone(t.Set), ranges(7, 7, 9, 9)...)[:len(t.Set)]
-	}
-	if t.Kids != nil {
-		kids := append(slices.Clone(t.Kids), letter('!'), star(letter('?')))
-		for i, kid := range t.Kids {
-			kids[i] = roomy(kid)
-		}
-		t.Kids = kids[:len(t.Kids)]
-	}
-	return t
-}
-
-// whole is a copy of a tree with what its lists' spare room has as well.
-func whole(t api.Tree) api.Tree {
-	t.Set = slices.Clone(t.Set[:cap(t.Set)])
-	t.Kids = slices.Clone(t.Kids[:cap(t.Kids)])
-	for i, kid := range t.Kids {
-		t.Kids[i] = whole(kid)
-	}
-	return t
-}
-
-// spoil overwrites all lists of a tree, and their spare room.
-func spoil(t api.Tree) {
-	for _, kid := range t.Kids {
-		spoil(kid)
-	}
-	for i := range t.Set[:cap(t.Set)] {
-		t.Set[:cap(t.Set)][i] = api.Range{Lo: -7, Hi: -9}
-	}
-	for i := range t.Kids[:cap(t.Kids)] {
-		t.Kids[:cap(t.Kids)][i] = api.Tree{Op: 99}
-	}
-}
 
 // ask asks all that there is to ask.
 func ask(t api.Tree) (bool, bool, int, int, bool, bool) {
@@ -53,10 +16,10 @@ func ask(t api.Tree) (bool, bool, int, int, bool, bool) {
 
 // memoryTrees are right trees, and some that are not.
 func memoryTrees() []api.Tree {
-	set := set('0', '9', 'a', 'z')
-	all := append(eachOp(), cat(set, grp(1, "x", cat(set, letter('a'), at(1))), repeat(1, 2, alt(set, cat(letter('b'), set, grp(2, "y", set))))), cat(set, letter(-1)), of(13, set), chain(51))
+	set := Set('0', '9', 'a', 'z')
+	all := append(eachOp(), Cat(set, Group(1, "x", Cat(set, Letter('a'), At(1))), Repeat(1, 2, Alt(set, Cat(Letter('b'), set, Group(2, "y", set))))), Cat(set, Letter(-1)), Of(13, set), chain(51))
 	for i, t := range all {
-		all[i] = roomy(t)
+		all[i] = Roomy(t)
 	}
 	return all
 }
@@ -64,11 +27,11 @@ func memoryTrees() []api.Tree {
 // TestUnchanged: what is handed in, and its spare room, stays as it was.
 func TestUnchanged(t *testing.T) {
 	for _, tree := range memoryTrees() {
-		before := whole(tree)
+		before := Whole(tree)
 		ask(tree)
 		trees.Caps(tree)
 		trees.Turned(tree)
-		if after := whole(tree); !same(before, after) {
+		if after := Whole(tree); !Same(before, after) {
 			t.Errorf("%s: was %s", show(after), show(before))
 		}
 	}
@@ -77,25 +40,25 @@ func TestUnchanged(t *testing.T) {
 // TestToldAgain: what was told may be changed: what is told behind that is as before, and so is the tree.
 func TestToldAgain(t *testing.T) {
 	for _, tree := range memoryTrees() {
-		before := whole(tree)
+		before := Whole(tree)
 		right, shaped, depth, weight, empty, still := ask(tree)
 		caps, turned := trees.Caps(tree), trees.Turned(tree)
 		names, kept := slices.Clone(caps), copied(turned)
 		for i := range caps[:cap(caps)] {
 			caps[:cap(caps)][i] = "spoilt"
 		}
-		if !same(turned, kept) {
+		if !Same(turned, kept) {
 			t.Errorf("%s: Caps and Turned share", show(tree))
 		}
-		spoil(turned)
-		if after := whole(tree); !same(before, after) {
+		Spoil(turned)
+		if after := Whole(tree); !Same(before, after) {
 			t.Errorf("%s: was %s", show(after), show(before))
 		}
 		r, s, d, w, e, l := ask(tree)
 		if r != right || s != shaped || d != depth || w != weight || e != empty || l != still {
 			t.Errorf("%s: told otherwise", show(tree))
 		}
-		if c, u := trees.Caps(tree), trees.Turned(tree); !slices.Equal(c, names) || !same(u, kept) {
+		if c, u := trees.Caps(tree), trees.Turned(tree); !slices.Equal(c, names) || !Same(u, kept) {
 			t.Errorf("%s: Caps %q, turned %s; not %q, %s", show(tree), c, show(u), names, show(kept))
 		}
 	}
@@ -106,8 +69,8 @@ func TestNotKept(t *testing.T) {
 	for _, tree := range memoryTrees() {
 		caps, turned := trees.Caps(tree), trees.Turned(tree)
 		names, kept := slices.Clone(caps), copied(turned)
-		spoil(tree)
-		if !slices.Equal(caps, names) || !same(turned, kept) {
+		Spoil(tree)
+		if !slices.Equal(caps, names) || !Same(turned, kept) {
 			t.Errorf("%s: Caps %q, turned %s; not %q, %s", show(tree), caps, show(turned), names, show(kept))
 		}
 	}
@@ -115,15 +78,15 @@ func TestNotKept(t *testing.T) {
 
 // TestNoSharing: no two lists of a turned tree share any, also where the tree's do.
 func TestNoSharing(t *testing.T) {
-	kid := cat(set('a', 'b'), letter('c'))
-	tree := cat(kid, star(kid), kid)
+	kid := Cat(Set('a', 'b'), Letter('c'))
+	tree := Cat(kid, Star(kid), kid)
 	turned := trees.Turned(tree)
 	want := copied(turned)
-	spoil(turned.Kids[0])
-	if !same(turned.Kids[1], want.Kids[1]) || !same(turned.Kids[2], want.Kids[2]) {
+	Spoil(turned.Kids[0])
+	if !Same(turned.Kids[1], want.Kids[1]) || !Same(turned.Kids[2], want.Kids[2]) {
 		t.Errorf("%s; not %s", show(turned), show(want))
 	}
-	if !same(trees.Turned(tree), want) {
+	if !Same(trees.Turned(tree), want) {
 		t.Errorf("%s; not %s", show(trees.Turned(tree)), show(want))
 	}
 }

@@ -8,6 +8,7 @@ import (
 	"testing"
 
 	"martello/api"
+	. "martello/samples"
 )
 
 // chapterOps are the chapter's words of each Op: how many Kids it has, and which fields it may have beside them.
@@ -259,7 +260,7 @@ func (m model) has(t api.Tree, op string) bool {
 }
 
 // numbered is a copy of a tree whose groups have the numbers from next on; names that are not empty are x and the number.
-func numbered(t api.Tree, next *int) api.Tree {
+func renumbered(t api.Tree, next *int) api.Tree {
 	if t.Op == api.OpCap {
 		t.Cap = *next
 		*next++
@@ -270,7 +271,7 @@ func numbered(t api.Tree, next *int) api.Tree {
 	t.Set = slices.Clone(t.Set)
 	t.Kids = slices.Clone(t.Kids)
 	for i, kid := range t.Kids {
-		t.Kids[i] = numbered(kid, next)
+		t.Kids[i] = renumbered(kid, next)
 	}
 	return t
 }
@@ -278,7 +279,7 @@ func numbered(t api.Tree, next *int) api.Tree {
 // fromOne is a copy of a tree whose groups are numbered as they must be.
 func fromOne(t api.Tree) api.Tree {
 	next := 1
-	return numbered(t, &next)
+	return renumbered(t, &next)
 }
 
 // copied is a tree that shares no list with another one.
@@ -289,11 +290,6 @@ func copied(t api.Tree) api.Tree {
 		t.Kids[i] = copied(kid)
 	}
 	return t
-}
-
-// same: are two trees the same? A list that is nil, and an empty one, are.
-func same(a, b api.Tree) bool {
-	return a.Op == b.Op && a.Rune == b.Rune && slices.Equal(a.Set, b.Set) && a.At == b.At && a.Cap == b.Cap && a.Name == b.Name && a.Min == b.Min && a.Max == b.Max && a.Lazy == b.Lazy && slices.EqualFunc(a.Kids, b.Kids, same)
 }
 
 // show is a tree as a short text, all that is in it.
@@ -343,20 +339,20 @@ func TestModel(t *testing.T) {
 		t     api.Tree
 		wrong string
 	}{
-		{cat(grp(1, "x", letter('a')), grp(2, "", letter('b'))), ""},
-		{cat(grp(1, "x", letter('a')), grp(2, "x", letter('b'))), "twice"},
-		{cat(grp(2, "x", letter('a')), grp(1, "", letter('b'))), "number number"},
+		{Cat(Group(1, "x", Letter('a')), Group(2, "", Letter('b'))), ""},
+		{Cat(Group(1, "x", Letter('a')), Group(2, "x", Letter('b'))), "twice"},
+		{Cat(Group(2, "x", Letter('a')), Group(1, "", Letter('b'))), "number number"},
 		{api.Tree{Op: 3, Rune: -1, Lazy: true}, "Rune Lazy"},
 		{api.Tree{Op: 4}, "Set"},
 		{api.Tree{Op: 10, Min: 2, Max: 1}, "Max Kids"},
 		{chain(51), "deep"},
-		{repeat(1000, 1000, cat(letter('a'), letter('a'))), "heavy"},
+		{Repeat(1000, 1000, Cat(Letter('a'), Letter('a'))), "heavy"},
 	} {
 		if w := strings.Join(m.wrong(x.t), " "); w != x.wrong {
 			t.Errorf("%s: wrong is %q; not %q", show(x.t), w, x.wrong)
 		}
 	}
-	if n := m.wholeWeight(repeat(1000, 1000, cat(letter('a'), letter('a')))).Int64(); n != 4001 {
+	if n := m.wholeWeight(Repeat(1000, 1000, Cat(Letter('a'), Letter('a')))).Int64(); n != 4001 {
 		t.Errorf("weight %d", n)
 	}
 }

@@ -7,6 +7,7 @@ import (
 
 	"martello/api"
 	"martello/brackets"
+	"martello/samples"
 	"martello/sets"
 	"martello/tables"
 )
@@ -173,7 +174,7 @@ func TestOrbits(t *testing.T) {
 
 // TestBehind: P7.3: each byte behind a class, and each two of some, change nothing of it.
 func TestBehind(t *testing.T) {
-	more := texts(2, "]", "[", "^", "-", ":", `\`, "d", "{", "}", "é", "\xff")
+	more := samples.Texts(2, "]", "[", "^", "-", ":", `\`, "d", "{", "}", "é", "\xff")
 	for b := range 256 {
 		more = append(more, string([]byte{byte(b)}))
 	}

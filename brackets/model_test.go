@@ -201,21 +201,6 @@ func model(s string, at int, f api.Flag) answer {
 	return a
 }
 
-// texts are all of up to n of these pieces, one behind the other.
-func texts(n int, pieces ...string) []string {
-	all := []string{""}
-	for from := 0; n > 0; n-- {
-		to := len(all)
-		for _, s := range all[from:to] {
-			for _, piece := range pieces {
-				all = append(all, s+piece)
-			}
-		}
-		from = to
-	}
-	return all
-}
-
 // aheads are what may stand ahead of a class, behinds what may stand behind: nothing of it is looked at.
 func aheads() []string {
 	return []string{"", "a", "é", "\xff", "\xe2\x82", `\`, "[", "[^", "[[:", "]", "a-", "[a]"}

@@ -6,6 +6,7 @@ import (
 	"unicode/utf8"
 
 	"martello/api"
+	"martello/samples"
 	"martello/sets"
 )
 
@@ -88,13 +89,13 @@ func TestFirstError(t *testing.T) {
 // TestShort: K1, and rules P1 and P2: every short text that begins with a [, some not, in both flavours, with FlagFold and without, at each of its places, against the model; what is wrong lies in the text, and beside it all is zero.
 func TestShort(t *testing.T) {
 	var all []string
-	for _, s := range texts(5, "[", "]", "^", "-", ":", `\`, "d", "b", "é", "\xff") {
+	for _, s := range samples.Texts(5, "[", "]", "^", "-", ":", `\`, "d", "b", "é", "\xff") {
 		all = append(all, "["+s)
 	}
-	for _, s := range texts(4, "[:alpha:]", "[:^digit:]", "[:x:]", "[:", ":]", `\d`, `\x41`, `\x{6b}`, `\PL`, `\Q`, `\`, "-", "]", "k", "^", "世") {
+	for _, s := range samples.Texts(4, "[:alpha:]", "[:^digit:]", "[:x:]", "[:", ":]", `\d`, `\x41`, `\x{6b}`, `\PL`, `\Q`, `\`, "-", "]", "k", "^", "世") {
 		all = append(all, "["+s, "[^"+s+"]")
 	}
-	for _, s := range texts(4, "-", "]", "a", "\\", "x", "4", "p", "{", "}", "L") {
+	for _, s := range samples.Texts(4, "-", "]", "a", "\\", "x", "4", "p", "{", "}", "L") {
 		all = append(all, `[a-`+s, `[\`+s, `[\p{`+s, s+"[a]")
 	}
 	for i, s := range all {

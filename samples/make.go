@@ -1,4 +1,4 @@
-// Package samples has trees for the tests of the layers: short names by which they are made, right ones and wrong ones, and what is asked of them. The program itself does not need it.
+// Package samples has trees, patterns and texts for the tests of the layers: short names by which trees are made, right ones and wrong ones, and what is asked of them. The program itself does not need it.
 package samples
 
 import (

@@ -1,6 +1,7 @@
 package scan_test
 
 import (
+	"martello/samples"
 	"strconv"
 	"strings"
 	"testing"
@@ -77,8 +78,8 @@ func TestNoCount(t *testing.T) {
 
 // TestCountShort: C2: every short text, at each of its places, against the model.
 func TestCountShort(t *testing.T) {
-	all := texts(5, "{", "}", ",", "0", "1", "9", "-", "a", "é", "\xff")
-	for _, s := range texts(8, "0", "1", ",", "}") {
+	all := samples.Texts(5, "{", "}", ",", "0", "1", "9", "-", "a", "é", "\xff")
+	for _, s := range samples.Texts(8, "0", "1", ",", "}") {
 		all = append(all, "{"+s, "{100"+s)
 	}
 	for _, s := range all {

@@ -9,6 +9,7 @@ import (
 
 	"martello/api"
 	"martello/classes"
+	"martello/samples"
 )
 
 // flavours are both.
@@ -253,13 +254,13 @@ func TestEscapeNone(t *testing.T) {
 // TestEscapeShort: C1 and P6.2: every short text, at each of its places, in both flavours, against the model; and what is taken is the same if it stands alone.
 func TestEscapeShort(t *testing.T) {
 	pieces := []string{`\`, "x", "p", "P", "{", "}", "4", "F", "g", "L", "u", "^", "d", "Q", "é", "\xff"}
-	all := texts(4, pieces...)
+	all := samples.Texts(4, pieces...)
 	for _, ahead := range []string{`\`, `\x{`, `\p{`, `é\P`} {
-		for _, s := range texts(4, pieces...) {
+		for _, s := range samples.Texts(4, pieces...) {
 			all = append(all, ahead+s)
 		}
 	}
-	for _, s := range texts(6, "0", "1", "f", "}") {
+	for _, s := range samples.Texts(6, "0", "1", "f", "}") {
 		all = append(all, `\x{`+s, `\x{10F`+s)
 	}
 	m := newEscapeModel()
@@ -301,7 +302,7 @@ func shortEscape(t *testing.T, m escapeModel, s string, at int, perl bool) {
 
 // TestEscapeFields: rule P2: what a Kind does not name is zero, and with an error all is.
 func TestEscapeFields(t *testing.T) {
-	for _, s := range texts(4, `\`, "x", "p", "{", "}", "4", "L", "d", "z", "Q", "n", ".") {
+	for _, s := range samples.Texts(4, `\`, "x", "p", "{", "}", "4", "L", "d", "z", "Q", "n", ".") {
 		for _, perl := range flavours {
 			got := askEscape(s, 0, perl)
 			kinds := map[api.EscKind]api.Esc{api.EscRune: {Rune: got.esc.Rune}, api.EscSet: {Set: got.esc.Set}, api.EscAt: {At: got.esc.At}, api.EscQuote: {}}

@@ -7,6 +7,7 @@ import (
 	"unicode/utf8"
 
 	"martello/api"
+	"martello/samples"
 )
 
 // names holds Name of a text, behind each of what may stand ahead, against what it is at its beginning.
@@ -92,9 +93,9 @@ func TestNoName(t *testing.T) {
 // TestNameShort: C3: every short text, at each of its places, against the model.
 func TestNameShort(t *testing.T) {
 	pieces := []string{"(", "?", "P", "<", ">", "a", "1", "_", "-", "é", "\xff"}
-	all := texts(5, pieces...)
+	all := samples.Texts(5, pieces...)
 	for _, ahead := range []string{"(?P<", "(?<", "é(?P<", "(?P<a"} {
-		for _, s := range texts(4, pieces...) {
+		for _, s := range samples.Texts(4, pieces...) {
 			all = append(all, ahead+s)
 		}
 	}
@@ -208,9 +209,9 @@ func TestFlagsRunes(t *testing.T) {
 // TestFlagsShort: C4: every short text, at each of its places, on some flags, against the model.
 func TestFlagsShort(t *testing.T) {
 	pieces := []string{"(", "?", "i", "m", "s", "U", "-", ":", ")", "x", "é", "\xff"}
-	all := texts(4, pieces...)
+	all := samples.Texts(4, pieces...)
 	for _, ahead := range []string{"(?", "(?i-", "é(?"} {
-		for _, s := range texts(4, pieces...) {
+		for _, s := range samples.Texts(4, pieces...) {
 			all = append(all, ahead+s)
 		}
 	}

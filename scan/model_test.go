@@ -275,21 +275,6 @@ func wholeFlags(piece string, f api.Flag) (api.Flag, bool) {
 	return f, true
 }
 
-// texts are all of up to n of these pieces, one behind the other.
-func texts(n int, pieces ...string) []string {
-	all := []string{""}
-	for from := 0; n > 0; n-- {
-		to := len(all)
-		for _, s := range all[from:to] {
-			for _, piece := range pieces {
-				all = append(all, s+piece)
-			}
-		}
-		from = to
-	}
-	return all
-}
-
 // aheads are what may stand ahead of a part: nothing of it is looked at.
 func aheads() []string {
 	return []string{"", "a", "é", "世界", "\xff", "\xe2\x82", "\\", "{", "}", "<", ">", "(?", "(?P<", "-", "1", "\n"}

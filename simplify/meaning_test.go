@@ -235,7 +235,7 @@ func fitsAlike(t *testing.T, tree api.Tree, texts ...string) (asked int) {
 // TestMeaning: P10.3: what is told fits what the tree fits, in that order and with the same groups, from each place of small texts.
 func TestMeaning(t *testing.T) {
 	for n, each := range []int{1, 1, 1, 211} {
-		for _, tree := range around(n, each) {
+		for _, tree := range Around(n, each) {
 			fitsAlike(t, tree, "", "a", "xa", "aax")
 		}
 	}

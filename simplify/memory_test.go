@@ -11,8 +11,8 @@ import (
 // memoryTrees are right trees with each kind of part, and some that are not right.
 func memoryTrees() []api.Tree {
 	all := []api.Tree{{}, Set(5, 4), Cat(Set('a', 'b'), Letter(-1)), Of(13, Letter('a')), Group(2, "x", Set('a', 'b')), Nested(49, Set('a', 'b'), Star), Nested(50, Set('a', 'b'), Star)}
-	all = append(all, around(1, 1)...)
-	for _, c := range counts() {
+	all = append(all, Around(1, 1)...)
+	for _, c := range Counts() {
 		all = append(all, Repeat(c[0], c[1], Set('a', 'b')), Cat(Letter('x'), Repeat(c[0], c[1], Cat(Set('a', 'b'), Alt(Letter('c'), Set('d', 'd')))), Star(Set('e', 'f'))))
 	}
 	return append(all, Cat(Set('a', 'b', 'd', 'd'), Group(1, "x", Cat(Set(0, 9), Letter('a'), At(1))), Lazy(Repeat(1, 2, Alt(Set(0, 9), Cat(Letter('b'), Group(2, "y", Set(1, 2)))))), Empty(), Cat(), Alt(Cat(Alt(Letter('a'), Letter('b')))), Plus(Cat(At(1), At(2))), Alt(None(), Cat(Set('a', 'b'), Letter('c'))), Repeat(3, -1, Repeat(0, 2, Set(1, 2)))))

@@ -147,66 +147,10 @@ func modelTimes(x row, least, most int, mark string) row {
 	return all
 }
 
-// leaves are trees of each Op without Kids.
-func leaves() []api.Tree {
-	return []api.Tree{None(), Empty(), Letter('a'), Set('a', 'b'), At(api.AtWord), Cat()}
-}
-
-// outers are all trees that stand around one other, alone or with others beside it.
-func outers() []func(api.Tree) api.Tree {
-	x := Letter('x')
-	all := []func(api.Tree) api.Tree{
-		func(kid api.Tree) api.Tree { return Group(0, "", kid) },
-		func(kid api.Tree) api.Tree { return Group(0, "name", kid) },
-		func(kid api.Tree) api.Tree { return Cat(kid) },
-		func(kid api.Tree) api.Tree { return Cat(kid, x) },
-		func(kid api.Tree) api.Tree { return Cat(x, kid, At(1)) },
-		func(kid api.Tree) api.Tree { return Cat(Empty(), kid, kid) },
-		func(kid api.Tree) api.Tree { return Cat(kid, None()) },
-		func(kid api.Tree) api.Tree { return Alt(kid) },
-		func(kid api.Tree) api.Tree { return Alt(kid, x) },
-		func(kid api.Tree) api.Tree { return Alt(None(), Empty(), kid) },
-		func(kid api.Tree) api.Tree { return Alt(None(), kid) },
-		Star, Plus, Quest,
-		func(kid api.Tree) api.Tree { return Lazy(Star(kid)) },
-		func(kid api.Tree) api.Tree { return Lazy(Plus(kid)) },
-		func(kid api.Tree) api.Tree { return Lazy(Quest(kid)) },
-	}
-	for _, c := range counts() {
-		all = append(all, func(kid api.Tree) api.Tree { return Repeat(c[0], c[1], kid) })
-		if c[0] != c[1] {
-			all = append(all, func(kid api.Tree) api.Tree { return Lazy(Repeat(c[0], c[1], kid)) })
-		}
-	}
-	return all
-}
-
-// around are trees with so many of the outers, one in the other, around a leaf, with their groups numbered: all of them, or each so manieth.
-func around(n, each int) []api.Tree {
-	var all []api.Tree
-	count := 0
-	var put func(int, api.Tree)
-	put = func(n int, tree api.Tree) {
-		if n > 0 {
-			for _, in := range outers() {
-				put(n-1, in(tree))
-			}
-			return
-		}
-		if count++; count%each == 0 {
-			all = append(all, Numbered(tree))
-		}
-	}
-	for _, leaf := range leaves() {
-		put(n, leaf)
-	}
-	return all
-}
-
 // TestModel: P10.1, P10.2: all trees of up to two parts around a leaf, each Op in each other one, and some of three and four: what is told is what the model tells, is shaped, and has no counted repeat.
 func TestModel(t *testing.T) {
 	for n, each := range []int{1, 1, 1, 31, 3001} {
-		for _, tree := range around(n, each) {
+		for _, tree := range Around(n, each) {
 			if !trees.Right(tree) {
 				t.Fatal("not right:", Shown(tree))
 			}

@@ -28,14 +28,9 @@ func TestCounts(t *testing.T) {
 	}
 }
 
-// counts are a count of each kind.
-func counts() [][2]int {
-	return [][2]int{{0, 0}, {1, 1}, {2, 2}, {3, 3}, {0, 1}, {0, 2}, {0, 3}, {1, 2}, {1, 3}, {2, 4}, {0, -1}, {1, -1}, {2, -1}, {3, -1}}
-}
-
 // TestCountsOfNothing: repeats of None and of Empty.
 func TestCountsOfNothing(t *testing.T) {
-	for _, c := range counts() {
+	for _, c := range Counts() {
 		for _, kid := range []api.Tree{None(), Cat(None()), Alt(None(), None()), Group(1, "", None()), Cat(Letter('a'), None())} {
 			want := None()
 			if c[0] == 0 {

@@ -193,21 +193,6 @@ func greedy() []api.Flag     { return sums(0, api.FlagLit|api.FlagFold|api.FlagS
 func greedyPerl() []api.Flag { return sums(api.FlagPerl, api.FlagLit|api.FlagFold|api.FlagSwap) }
 func unfolded() []api.Flag   { return sums(0, api.FlagLit|api.FlagFold) }
 
-// texts are all of up to n of these pieces, one behind the other.
-func texts(n int, pieces ...string) []string {
-	all := []string{""}
-	for from := 0; n > 0; n-- {
-		to := len(all)
-		for _, s := range all[from:to] {
-			for _, piece := range pieces {
-				all = append(all, s+piece)
-			}
-		}
-		from = to
-	}
-	return all
-}
-
 // ranges are ranges, by their ends.
 func ranges(ends ...rune) []api.Range {
 	var l []api.Range

@@ -9,6 +9,7 @@ import (
 	"martello/api"
 	"martello/brackets"
 	"martello/classes"
+	"martello/samples"
 	"martello/scan"
 	"martello/syntax"
 	"martello/tables"
@@ -295,7 +296,7 @@ func TestShort(t *testing.T) {
 		4: {"k", "(", ")", "(?i)", "(?s:", "(?P<x>", "|", "*", "?", "{2,}", "{3,2}", `\Q`, `\E`, `\`, "[", "]", "."},
 		5: {"a", "(", ")", "|", "*", "?", "(?U)", `\Q\E`},
 	} {
-		for i, s := range texts(n, pieces...) {
+		for i, s := range samples.Texts(n, pieces...) {
 			for _, f := range []api.Flag{32, api.Flag(i * 7 % 64), api.Flag(i * 11 % 64)} {
 				if !likeModel(t, s, f) {
 					return
@@ -307,7 +308,7 @@ func TestShort(t *testing.T) {
 
 // TestShortAllFlags: Y1: short patterns on all flags against the model.
 func TestShortAllFlags(t *testing.T) {
-	for _, s := range texts(2, "a", "k", "ſ", "世", "(", ")", "(?i)", "(?-s)", "(?m-U)", "(?i:k)", "(?P<x>k)", "(?<x>", "()", "|", "*", "??", "{1}", "{5,2}", `\Qk*`, `\Qk\E`, `\Q\E`, `\w`, `\pL`, `\P{Any}`, `\x6b`, `\z`, `\q`, "[k]", "[^[:alpha:]]", "[b-a]", ".", "^", "$", "{", "(?") {
+	for _, s := range samples.Texts(2, "a", "k", "ſ", "世", "(", ")", "(?i)", "(?-s)", "(?m-U)", "(?i:k)", "(?P<x>k)", "(?<x>", "()", "|", "*", "??", "{1}", "{5,2}", `\Qk*`, `\Qk\E`, `\Q\E`, `\w`, `\pL`, `\P{Any}`, `\x6b`, `\z`, `\q`, "[k]", "[^[:alpha:]]", "[b-a]", ".", "^", "$", "{", "(?") {
 		for f := range api.FlagAll + 1 {
 			if !likeModel(t, s, f) {
 				return

@@ -7,6 +7,7 @@ import (
 	"unicode/utf8"
 
 	"martello/api"
+	"martello/samples"
 	"martello/syntax"
 )
 
@@ -44,7 +45,7 @@ func TestQuote(t *testing.T) {
 
 // quotable are texts, UTF-8 and not: every rune of the first ones, every byte, short ones of signs, long ones.
 func quotable() []string {
-	all := texts(4, "k", "é", `\`, "*", "(", ")", "{", "2", "}", "[", "|")
+	all := samples.Texts(4, "k", "é", `\`, "*", "(", ")", "{", "2", "}", "[", "|")
 	for c := rune(0); c < 0x3000; c++ {
 		all = append(all, string(c), "1"+string(c)+"k")
 	}

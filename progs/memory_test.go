@@ -1,0 +1,192 @@
+package progs_test
+
+import (
+	"fmt"
+	"slices"
+	"testing"
+
+	"martello/api"
+	"martello/progs"
+	. "martello/samples"
+)
+
+// roomy is a copy of a list with spare room, in which something stands.
+func roomy[Item any](list []Item, spare ...Item) []Item {
+	return append(slices.Clone(list), spare...)[:len(list)]
+}
+
+// memoryProgs are programs of each kind, right ones and wrong ones, whose lists have spare room.
+func memoryProgs() []api.Prog {
+	list := []api.Prog{eachOp(), {Insts: []api.Inst{fork(1, 2), read(0, 'a', 'b'), read(1, 'a', 'a', 'c', 'c'), match()}, Caps: 2}, of(Ranges('b', 'd'), Ranges('a', 'z'), Ranges(0, 0x10ffff)), {}, prog(read(0, 5, 4)), prog(read(0, 'a', 'b'), read(7, 'a', 'b')), {Insts: []api.Inst{read(0, 'a', 'b')}, Caps: 3}}
+	for i, p := range list {
+		insts := roomy(p.Insts, read(9, 'x', 'y'), fork(7, 8))
+		for pc := range insts {
+			insts[pc].Set = roomy(insts[pc].Set, Ranges(7, 7, 9, 9)...)
+		}
+		list[i].Insts = insts
+	}
+	return list
+}
+
+// memoryPcs are lists with spare room of places, some of which are none.
+func memoryPcs() [][]int {
+	var lists [][]int
+	for _, pcs := range [][]int{nil, {0}, {1}, {0, 1}, {2, 1, 0, 1}, {1, 2}, {0, -1}, {99}} {
+		lists = append(lists, roomy(pcs, 1, 0, -7))
+	}
+	return lists
+}
+
+// wholly is all that a program has, the spare room of its lists, too.
+func wholly(p api.Prog) string {
+	text := fmt.Sprint(p)
+	for _, i := range p.Insts[:cap(p.Insts)] {
+		text += fmt.Sprint(i, i.Set[:cap(i.Set)])
+	}
+	return text
+}
+
+// room is all that a list has, its spare room, too.
+func room[Item any](list []Item) string { return fmt.Sprint(list, list[:cap(list)]) }
+
+// answers are all that is told of a program, as a text; and all lists of it.
+func answers(p api.Prog, lists [][]int) (text string, outs [][]int, runes [][]rune) {
+	l := progs.Classes(p)
+	text = fmt.Sprint(progs.Check(p), l, progs.Class(l, 'b'))
+	runes = append(runes, l)
+	for _, pcs := range lists {
+		for _, longest := range []bool{false, true} {
+			reads, is := progs.Closure(p, pcs, 63, longest)
+			text += fmt.Sprint(reads, is)
+			outs = append(outs, reads)
+		}
+		for _, c := range []rune{'a', 'c', -1} {
+			next := progs.Next(p, pcs, c)
+			text += fmt.Sprint(next)
+			outs = append(outs, next)
+		}
+	}
+	return text, outs, runes
+}
+
+// fill writes over lists, and their spare room.
+func fill[Item any](lists [][]Item, with Item) {
+	for _, list := range lists {
+		for i := range list[:cap(list)] {
+			list[:cap(list)][i] = with
+		}
+	}
+}
+
+// TestUnchanged: rule P3: what is handed in, and its spare room, stays as it was, while it is asked, and when what was told is written over.
+func TestUnchanged(t *testing.T) {
+	for _, p := range memoryProgs() {
+		lists := memoryPcs()
+		before, pcs := wholly(p), fmt.Sprint(lists)
+		_, outs, runes := answers(p, lists)
+		for range 2 {
+			if now := wholly(p); now != before {
+				t.Errorf("%s; was %s", now, before)
+			}
+			if now := fmt.Sprint(lists); now != pcs {
+				t.Errorf("%s; was %s", now, pcs)
+			}
+			for i, list := range memoryPcs() {
+				if now := room(lists[i]); now != room(list) {
+					t.Errorf("%s; was %s", now, room(list))
+				}
+			}
+			fill(outs, -77)
+			fill(runes, -77)
+		}
+	}
+	l := roomy([]rune{5, 1, 3}, 0, 9)
+	before := room(l)
+	if n := progs.Class(l, 3); n != 1 || room(l) != before {
+		t.Error(n, room(l))
+	}
+}
+
+// TestNotKept: rule P3: when what was handed in is written over, what was told stays as it was.
+func TestNotKept(t *testing.T) {
+	for _, p := range memoryProgs() {
+		lists := memoryPcs()
+		_, outs, runes := answers(p, lists)
+		before := fmt.Sprint(outs, runes)
+		fill(lists, 3)
+		for i := range p.Insts[:cap(p.Insts)] {
+			inst := &p.Insts[:cap(p.Insts)][i]
+			fill([][]api.Range{inst.Set}, api.Range{Lo: 1, Hi: 2})
+			*inst = fork(1, 1)
+		}
+		if now := fmt.Sprint(outs, runes); now != before {
+			t.Errorf("%s; was %s", now, before)
+		}
+	}
+}
+
+// TestOwnLists: rule P3: no two lists that are told share any, be it spare room, nor does one with what was handed in.
+func TestOwnLists(t *testing.T) {
+	for _, p := range memoryProgs() {
+		lists := memoryPcs()
+		_, outs, _ := answers(p, lists)
+		_, more, _ := answers(p, lists)
+		seen := map[*int]bool{}
+		for _, list := range slices.Concat(lists, outs, more) {
+			for i := range list[:cap(list)] {
+				if at := &list[:cap(list)][i]; seen[at] {
+					t.Fatalf("%s: lists are shared", shown(p))
+				} else {
+					seen[at] = true
+				}
+			}
+		}
+	}
+}
+
+// TestToldAgain: rule P3: what is told hangs on the arguments alone, whatever was asked ahead, and though what was told is written over.
+func TestToldAgain(t *testing.T) {
+	list := memoryProgs()
+	var first []string
+	for _, p := range list {
+		text, outs, runes := answers(p, memoryPcs())
+		first = append(first, text)
+		fill(outs, 1)
+		fill(runes, 'b')
+	}
+	for i, p := range slices.Backward(list) {
+		if again, _, _ := answers(p, memoryPcs()); again != first[i] {
+			t.Errorf("%s: %s; was %s", shown(p), again, first[i])
+		}
+	}
+}
+
+// TestAtOnce: rule P3: calls at the same time, of the same programs, tell what they tell one by one.
+func TestAtOnce(t *testing.T) {
+	list, pcs := memoryProgs(), memoryPcs()
+	var want []string
+	for _, p := range list {
+		text, _, _ := answers(p, pcs)
+		want = append(want, text)
+	}
+	wrong := make(chan int)
+	for range 8 {
+		go func() {
+			bad := -1
+			for i, p := range list {
+				text, outs, runes := answers(p, pcs)
+				if text != want[i] {
+					bad = i
+				}
+				fill(outs, 5)
+				fill(runes, 5)
+			}
+			wrong <- bad
+		}()
+	}
+	for range 8 {
+		if i := <-wrong; i >= 0 {
+			t.Errorf("%s: told otherwise", shown(list[i]))
+		}
+	}
+}

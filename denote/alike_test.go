@@ -87,8 +87,7 @@ func TestAlike(t *testing.T) {
 // TestAlikePatterns: P11.3, P11.4: patterns of each kind, under several flags; and loops in one another.
 func TestAlikePatterns(t *testing.T) {
 	read := 0
-	loops := []string{"(a|ab)(c|bcd)?", "(|a)+", "(|a)*?", "(a*)*", "(?:a*?)*", "(?:a*)+?", "((a)|b)*?(b|)", "(a{0,2}){1,3}", "(a??){2,}", "(?:(a)|(b)){2,3}?", "(?:(|a)+b?)*", "((a*)b*){2}", `(?:\b(a)|b)*`, "(?m)(?:^|(a))*$", "(a|(b)|)+c?", "(?:(a){0}b|a)*", "(?:a(b)?)*?(?:ba)?"}
-	for _, pattern := range slices.Concat(Patterns(), loops) {
+	for _, pattern := range slices.Concat(Patterns(), Loops()) {
 		for _, flags := range []api.Flag{0, api.FlagPerl, api.FlagPerl | api.FlagFold | api.FlagMulti, api.FlagPerl | api.FlagSwap | api.FlagDot, api.FlagLit} {
 			tree, wrong := syntax.Parse(pattern, flags)
 			if wrong.E == api.OK && alike(t, tree, "", "aba", "abcdab", "kK\u212a.b\n\xff", "aab\nba") {

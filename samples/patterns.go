@@ -17,6 +17,14 @@ func Patterns() []string {
 	}
 }
 
+// Loops are patterns in which loops, groups and what fits nothing stand in one another.
+func Loops() []string {
+	return []string{
+		"(a|ab)(c|bcd)?", "(|a)+", "(|a)*?", "(a*)*", "(?:a*?)*", "(?:a*)+?", "((a)|b)*?(b|)", "(a{0,2}){1,3}", "(a??){2,}", "(?:(a)|(b)){2,3}?", "(?:(|a)+b?)*",
+		"((a*)b*){2}", `(?:\b(a)|b)*`, "(?m)(?:^|(a))*$", "(a|(b)|)+c?", "(?:(a){0}b|a)*", "(?:a(b)?)*?(?:ba)?", "(a*)+", "(a*?)+?", "(?:a+|b*?)+(?:ab)??", "(?:(?:)+|(?:a|)*)+b", "((((a)*)+)?)*b",
+	}
+}
+
 // Texts are all of up to n of these pieces, one behind the other.
 func Texts(n int, pieces ...string) []string {
 	all := []string{""}

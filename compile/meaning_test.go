@@ -1,0 +1,129 @@
+package compile_test
+
+import (
+	"slices"
+	"testing"
+
+	"martello/api"
+	"martello/denote"
+	"martello/inputs"
+	. "martello/samples"
+	"martello/sets"
+	"martello/simplify"
+	"martello/syntax"
+)
+
+// walked are the matches of a program's walk from a place, in order, by layer 12's words: each instruction is come to once at each place.
+func walked(p api.Prog, in *inputs.Input, from int) [][]int {
+	var matches [][]int
+	fit := slices.Repeat([]int{-1}, p.Caps)
+	fit[0] = from
+	met := map[[2]int]bool{}
+	var come func(pc, at int)
+	come = func(pc, at int) {
+		if met[[2]int{pc, at}] {
+			return
+		}
+		met[[2]int{pc, at}] = true
+		switch i := p.Insts[pc]; i.Op {
+		case api.InstMatch:
+			match := slices.Clone(fit)
+			match[1] = at
+			matches = append(matches, match)
+		case api.InstSet:
+			if sets.Has(i.Set, in.Rune(at)) {
+				come(i.Out, at+1)
+			}
+		case api.InstAlt:
+			come(i.Out, at)
+			come(i.Arg, at)
+		case api.InstCap:
+			was := fit[i.Arg]
+			fit[i.Arg] = at
+			come(i.Out, at)
+			fit[i.Arg] = was
+		case api.InstAt:
+			if in.At(at)&i.At != 0 {
+				come(i.Out, at)
+			}
+		}
+	}
+	come(p.Start, from)
+	return matches
+}
+
+// finds holds what walks through a tree's program find, from each place of texts, against what the tree means: the same ends in the same order, with the same groups.
+func finds(t *testing.T, tree api.Tree, groups int, texts ...string) {
+	t.Helper()
+	p := told(t, tree, groups)
+	for _, text := range texts {
+		in, e := inputs.New(api.KindText, []byte(text))
+		if e != api.OK {
+			t.Fatal(e)
+		}
+		for from := range in.Len() + 1 {
+			want, have := denote.List(tree, groups, in, from), walked(p, in, from)
+			if !slices.EqualFunc(have, want, slices.Equal) {
+				t.Errorf("%s in %q from %d, %d groups: %v; not %v: %s", brief(tree), text, from, groups, have, want, shown(p))
+			}
+		}
+	}
+}
+
+// bothFind is finds of a right tree made plain, and of the tree as it is, if it has no counted repeat.
+func bothFind(t *testing.T, tree api.Tree, texts ...string) {
+	t.Helper()
+	for groups := range groupsOf(tree) + 2 {
+		finds(t, simplify.Simple(tree), groups, texts...)
+		if !counted(tree) {
+			finds(t, tree, groups, texts...)
+		}
+	}
+}
+
+// patternTrees are patterns of each kind, and loops, read under several flags.
+func patternTrees() []api.Tree {
+	var all []api.Tree
+	for _, pattern := range slices.Concat(Patterns(), Loops()) {
+		for _, flags := range []api.Flag{0, api.FlagPerl, api.FlagPerl | api.FlagFold | api.FlagMulti, api.FlagPerl | api.FlagSwap | api.FlagDot, api.FlagLit} {
+			if tree, wrong := syntax.Parse(pattern, flags); wrong.E == api.OK {
+				all = append(all, tree)
+			}
+		}
+	}
+	return all
+}
+
+// TestMeaning: P13.3: of all small trees, and some greater ones.
+func TestMeaning(t *testing.T) {
+	for n, each := range []int{1, 1, 2, 61} {
+		for _, tree := range Around(n, each) {
+			bothFind(t, tree, "", "a", "xa", "aax", "axab")
+		}
+	}
+	for _, at := range sixAts {
+		for _, in := range Outers() {
+			bothFind(t, Numbered(Cat(in(Alt(At(at), Letter('a'))), Quest(Set('b', 'c')), At(at))), "", "a", "ab", "a\nb", "\n", "b a\n")
+		}
+	}
+}
+
+// TestMeaningOfPatterns: P13.3: of patterns of each kind of part.
+func TestMeaningOfPatterns(t *testing.T) {
+	for _, tree := range patternTrees() {
+		bothFind(t, tree, "", "aba", "abcdab", "kK\u212a.b\n\xff", "aab\nba")
+	}
+}
+
+// TestMeaningOfGroups: P13.3: of groups with any numbers, one in another by the same number.
+func TestMeaningOfGroups(t *testing.T) {
+	for _, tree := range Misnumbered() {
+		for groups := range 4 {
+			finds(t, tree, groups, "", "a", "aaa", "baa")
+		}
+	}
+	loop := Star(Group(1, "", Alt(Group(1, "", Letter('a')), Cat(Group(2, "", Letter('b')), Group(1, "", Empty())))))
+	for groups := range 4 {
+		finds(t, loop, groups, "", "a", "abab", "bba")
+	}
+}

@@ -10,7 +10,6 @@ import (
 	. "martello/samples"
 	"martello/sets"
 	"martello/simplify"
-	"martello/syntax"
 )
 
 // walked are the matches of a program's walk from a place, in order, by layer 12's words: each instruction is come to once at each place.
@@ -81,19 +80,6 @@ func bothFind(t *testing.T, tree api.Tree, texts ...string) {
 	}
 }
 
-// patternTrees are patterns of each kind, and loops, read under several flags.
-func patternTrees() []api.Tree {
-	var all []api.Tree
-	for _, pattern := range slices.Concat(Patterns(), Loops()) {
-		for _, flags := range []api.Flag{0, api.FlagPerl, api.FlagPerl | api.FlagFold | api.FlagMulti, api.FlagPerl | api.FlagSwap | api.FlagDot, api.FlagLit} {
-			if tree, wrong := syntax.Parse(pattern, flags); wrong.E == api.OK {
-				all = append(all, tree)
-			}
-		}
-	}
-	return all
-}
-
 // TestMeaning: P13.3: of all small trees, and some greater ones.
 func TestMeaning(t *testing.T) {
 	for n, each := range []int{1, 1, 2, 61} {
@@ -110,7 +96,7 @@ func TestMeaning(t *testing.T) {
 
 // TestMeaningOfPatterns: P13.3: of patterns of each kind of part.
 func TestMeaningOfPatterns(t *testing.T) {
-	for _, tree := range patternTrees() {
+	for _, tree := range PatternTrees() {
 		bothFind(t, tree, "", "aba", "abcdab", "kK\u212a.b\n\xff", "aab\nba")
 	}
 }

@@ -172,7 +172,7 @@ func TestModelGroups(t *testing.T) {
 // TestModelPatterns: P13.1, P13.2: patterns of each kind of part, under several flags, made plain.
 func TestModelPatterns(t *testing.T) {
 	count := 0
-	for _, tree := range patternTrees() {
+	for _, tree := range PatternTrees() {
 		for _, groups := range []int{0, 1, groupsOf(tree), 2000} {
 			asModelled(t, simplify.Simple(tree), groups)
 			if !counted(tree) {

@@ -87,12 +87,9 @@ func TestAlike(t *testing.T) {
 // TestAlikePatterns: P11.3, P11.4: patterns of each kind, under several flags; and loops in one another.
 func TestAlikePatterns(t *testing.T) {
 	read := 0
-	for _, pattern := range slices.Concat(Patterns(), Loops()) {
-		for _, flags := range []api.Flag{0, api.FlagPerl, api.FlagPerl | api.FlagFold | api.FlagMulti, api.FlagPerl | api.FlagSwap | api.FlagDot, api.FlagLit} {
-			tree, wrong := syntax.Parse(pattern, flags)
-			if wrong.E == api.OK && alike(t, tree, "", "aba", "abcdab", "kK\u212a.b\n\xff", "aab\nba") {
-				read++
-			}
+	for _, tree := range PatternTrees() {
+		if alike(t, tree, "", "aba", "abcdab", "kK\u212a.b\n\xff", "aab\nba") {
+			read++
 		}
 	}
 	if read < 800 {

@@ -1,6 +1,12 @@
 package samples
 
-import "strings"
+import (
+	"slices"
+	"strings"
+
+	"martello/api"
+	"martello/syntax"
+)
 
 // Patterns are of each kind of part that syntax reads.
 func Patterns() []string {
@@ -23,6 +29,19 @@ func Loops() []string {
 		"(a|ab)(c|bcd)?", "(|a)+", "(|a)*?", "(a*)*", "(?:a*?)*", "(?:a*)+?", "((a)|b)*?(b|)", "(a{0,2}){1,3}", "(a??){2,}", "(?:(a)|(b)){2,3}?", "(?:(|a)+b?)*",
 		"((a*)b*){2}", `(?:\b(a)|b)*`, "(?m)(?:^|(a))*$", "(a|(b)|)+c?", "(?:(a){0}b|a)*", "(?:a(b)?)*?(?:ba)?", "(a*)+", "(a*?)+?", "(?:a+|b*?)+(?:ab)??", "(?:(?:)+|(?:a|)*)+b", "((((a)*)+)?)*b",
 	}
+}
+
+// PatternTrees are the trees of all of these, each read under several flags.
+func PatternTrees() []api.Tree {
+	var all []api.Tree
+	for _, pattern := range slices.Concat(Patterns(), Loops()) {
+		for _, flags := range []api.Flag{0, api.FlagPerl, api.FlagPerl | api.FlagFold | api.FlagMulti, api.FlagPerl | api.FlagSwap | api.FlagDot, api.FlagLit} {
+			if tree, wrong := syntax.Parse(pattern, flags); wrong.E == api.OK {
+				all = append(all, tree)
+			}
+		}
+	}
+	return all
 }
 
 // Texts are all of up to n of these pieces, one behind the other.

@@ -17,9 +17,6 @@ import (
 // The call of the chapter, by its signature.
 var _ func(api.Tree, int) (api.Prog, api.Errno) = compile.Compile
 
-// sixAts are all that a place may be.
-var sixAts = []api.At{api.AtBegin, api.AtEnd, api.AtBeginLine, api.AtEndLine, api.AtWord, api.AtNoWord}
-
 // read is the tree of a pattern.
 func read(t *testing.T, pattern string, f api.Flag) api.Tree {
 	t.Helper()

@@ -8,48 +8,8 @@ import (
 	"martello/denote"
 	"martello/inputs"
 	. "martello/samples"
-	"martello/sets"
 	"martello/simplify"
 )
-
-// walked are the matches of a program's walk from a place, in order, by layer 12's words: each instruction is come to once at each place.
-func walked(p api.Prog, in *inputs.Input, from int) [][]int {
-	var matches [][]int
-	fit := slices.Repeat([]int{-1}, p.Caps)
-	fit[0] = from
-	met := map[[2]int]bool{}
-	var come func(pc, at int)
-	come = func(pc, at int) {
-		if met[[2]int{pc, at}] {
-			return
-		}
-		met[[2]int{pc, at}] = true
-		switch i := p.Insts[pc]; i.Op {
-		case api.InstMatch:
-			match := slices.Clone(fit)
-			match[1] = at
-			matches = append(matches, match)
-		case api.InstSet:
-			if sets.Has(i.Set, in.Rune(at)) {
-				come(i.Out, at+1)
-			}
-		case api.InstAlt:
-			come(i.Out, at)
-			come(i.Arg, at)
-		case api.InstCap:
-			was := fit[i.Arg]
-			fit[i.Arg] = at
-			come(i.Out, at)
-			fit[i.Arg] = was
-		case api.InstAt:
-			if in.At(at)&i.At != 0 {
-				come(i.Out, at)
-			}
-		}
-	}
-	come(p.Start, from)
-	return matches
-}
 
 // finds holds what walks through a tree's program find, from each place of texts, against what the tree means: the same ends in the same order, with the same groups.
 func finds(t *testing.T, tree api.Tree, groups int, texts ...string) {
@@ -61,7 +21,7 @@ func finds(t *testing.T, tree api.Tree, groups int, texts ...string) {
 			t.Fatal(e)
 		}
 		for from := range in.Len() + 1 {
-			want, have := denote.List(tree, groups, in, from), walked(p, in, from)
+			want, have := denote.List(tree, groups, in, from), Walked(p, in, from)
 			if !slices.EqualFunc(have, want, slices.Equal) {
 				t.Errorf("%s in %q from %d, %d groups: %v; not %v: %s", brief(tree), text, from, groups, have, want, shown(p))
 			}
@@ -87,7 +47,7 @@ func TestMeaning(t *testing.T) {
 			bothFind(t, tree, "", "a", "xa", "aax", "axab")
 		}
 	}
-	for _, at := range sixAts {
+	for _, at := range SixAts() {
 		for _, in := range Outers() {
 			bothFind(t, Numbered(Cat(in(Alt(At(at), Letter('a'))), Quest(Set('b', 'c')), At(at))), "", "a", "ab", "a\nb", "\n", "b a\n")
 		}

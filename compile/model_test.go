@@ -133,7 +133,7 @@ func TestModel(t *testing.T) {
 
 // TestModelAts: P13.1: each At in each Op, alone and beside others.
 func TestModelAts(t *testing.T) {
-	for _, at := range sixAts {
+	for _, at := range SixAts() {
 		for _, in := range Outers() {
 			for _, tree := range []api.Tree{in(At(at)), in(Cat(Letter('a'), At(at))), Alt(in(At(at)), At(api.AtEnd)), in(Star(At(at)))} {
 				tree = Numbered(tree)

@@ -4,6 +4,7 @@ import (
 	"slices"
 
 	"martello/api"
+	"martello/lookup"
 )
 
 // lay makes a part of a tree, from which ways lead on to then.
@@ -16,7 +17,7 @@ func (w *ways) lay(t *api.Tree, then part) part {
 	case api.OpRune:
 		return w.read(func(c rune) bool { return c == t.Rune }, then)
 	case api.OpSet:
-		return w.read(func(c rune) bool { return has(t.Set, c) }, then)
+		return w.read(func(c rune) bool { return lookup.Has(t.Set, c) }, then)
 	case api.OpAt:
 		return w.stand(t.At, then)
 	case api.OpCap:

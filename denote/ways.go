@@ -3,7 +3,6 @@ package denote
 import (
 	"slices"
 
-	"martello/api"
 	"martello/inputs"
 )
 
@@ -118,17 +117,3 @@ func (w *ways) keep(at int) {
 
 // put is what puts a group's place back where it was ahead of a way.
 func (w *ways) put(i int) part { return func(place int) { w.fit[i] = place } }
-
-// has: is the rune in the set?
-func has(set []api.Range, c rune) bool {
-	_, found := slices.BinarySearchFunc(set, c, func(r api.Range, c rune) int {
-		switch {
-		case r.Hi < c:
-			return -1
-		case r.Lo > c:
-			return 1
-		}
-		return 0
-	})
-	return found
-}

@@ -8,9 +8,6 @@ import (
 	. "martello/samples"
 )
 
-// sixAts are all that a place may be.
-var sixAts = []api.At{api.AtBegin, api.AtEnd, api.AtBeginLine, api.AtEndLine, api.AtWord, api.AtNoWord}
-
 // TestExamples: the chapter's table.
 func TestExamples(t *testing.T) {
 	begins(t, read(t, "ab(c)d*"), "abc", false)
@@ -28,7 +25,7 @@ func TestLeaves(t *testing.T) {
 	for _, set := range []api.Tree{Set('a', 'a'), Set('a', 'b'), Set(0, 0x10ffff), Set('a', 'a', 'c', 'c')} {
 		begins(t, set, "", false) // a set of just one rune is no OpRune
 	}
-	for _, at := range sixAts {
+	for _, at := range SixAts() {
 		begins(t, At(at), "", false)
 	}
 }

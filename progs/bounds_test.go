@@ -17,7 +17,7 @@ func made(n int, inst func(pc int) api.Inst) api.Prog {
 	for pc := range n {
 		insts = append(insts, inst(pc))
 	}
-	return prog(insts...)
+	return Program(insts...)
 }
 
 // from are the numbers from one on, up to another one, or down.
@@ -38,13 +38,13 @@ func from(first, last int) []int {
 func TestOneRing(t *testing.T) {
 	next := func(pc int) int { return (pc + 1) % most }
 	for name, inst := range map[string]func(pc int) api.Inst{
-		"InstAlt, both on":    func(pc int) api.Inst { return fork(next(pc), next(pc)) },
-		"InstAlt, one back":   func(pc int) api.Inst { return fork(next(pc), (pc+most-1)%most) },
-		"InstAlt, one astray": func(pc int) api.Inst { return fork(pc*pc%most, next(pc)) },
-		"InstCap":             func(pc int) api.Inst { return keep(2+pc%2, next(pc)) },
-		"InstAt":              func(pc int) api.Inst { return stand(sixAts[pc%6], next(pc)) },
+		"InstAlt, both on":    func(pc int) api.Inst { return Fork(next(pc), next(pc)) },
+		"InstAlt, one back":   func(pc int) api.Inst { return Fork(next(pc), (pc+most-1)%most) },
+		"InstAlt, one astray": func(pc int) api.Inst { return Fork(pc*pc%most, next(pc)) },
+		"InstCap":             func(pc int) api.Inst { return Keep(2+pc%2, next(pc)) },
+		"InstAt":              func(pc int) api.Inst { return Stand(SixAts()[pc%6], next(pc)) },
 		"all of these": func(pc int) api.Inst {
-			return []api.Inst{fork(next(pc), pc), keep(3, next(pc)), stand(api.AtWord, next(pc))}[pc%3]
+			return []api.Inst{Fork(next(pc), pc), Keep(3, next(pc)), Stand(api.AtWord, next(pc))}[pc%3]
 		},
 	} {
 		p := made(most, inst)
@@ -56,9 +56,9 @@ func TestOneRing(t *testing.T) {
 				}
 			}
 		}
-		p.Insts[7000] = read(7000, 'a', 'z')
+		p.Insts[7000] = Read(7000, 'a', 'z')
 		bothClose(t, p, []int{0}, 63, []int{7000}, false)
-		p.Insts[7000] = match()
+		p.Insts[7000] = Match()
 		bothClose(t, p, []int{7001}, 63, nil, true)
 		checks(t, made(most+1, func(pc int) api.Inst { return inst(pc % most) }), api.ErrProg)
 	}
@@ -66,7 +66,7 @@ func TestOneRing(t *testing.T) {
 
 // TestRingOfSets: of InstSets one leads to the next alone, rune by rune, all round.
 func TestRingOfSets(t *testing.T) {
-	p := made(most, func(pc int) api.Inst { return read((pc+1)%most, 'a', 'a') })
+	p := made(most, func(pc int) api.Inst { return Read((pc+1)%most, 'a', 'a') })
 	checks(t, p, api.OK)
 	pcs := from(0, most-1)
 	bothClose(t, p, pcs, 0, pcs, false)
@@ -80,12 +80,12 @@ func TestRingOfSets(t *testing.T) {
 // TestOneRow: MaxInsts instructions, each of which leads to the next, up to a match.
 func TestOneRow(t *testing.T) {
 	for name, inst := range map[string]func(pc int) api.Inst{
-		"InstAlt": func(pc int) api.Inst { return fork(pc+1, pc+1) },
-		"InstCap": func(pc int) api.Inst { return keep(2, pc+1) },
-		"InstAt":  func(pc int) api.Inst { return stand(sixAts[pc%6], pc+1) },
+		"InstAlt": func(pc int) api.Inst { return Fork(pc+1, pc+1) },
+		"InstCap": func(pc int) api.Inst { return Keep(2, pc+1) },
+		"InstAt":  func(pc int) api.Inst { return Stand(SixAts()[pc%6], pc+1) },
 	} {
 		p := made(most-1, inst)
-		p.Insts = append(p.Insts, match())
+		p.Insts = append(p.Insts, Match())
 		checks(t, p, api.OK)
 		for _, pcs := range [][]int{{0}, {most - 1}, from(most-1, 0)} {
 			for _, longest := range []bool{false, true} {
@@ -95,8 +95,8 @@ func TestOneRow(t *testing.T) {
 			}
 		}
 	}
-	p := made(most-1, func(pc int) api.Inst { return stand(sixAts[pc%6], pc+1) })
-	p.Insts = append(p.Insts, match())
+	p := made(most-1, func(pc int) api.Inst { return Stand(SixAts()[pc%6], pc+1) })
+	p.Insts = append(p.Insts, Match())
 	bothClose(t, p, []int{0}, 63-api.AtNoWord, nil, false)
 }
 
@@ -105,34 +105,34 @@ func TestRowOfForks(t *testing.T) {
 	const half = most / 2
 	ahead := made(most, func(pc int) api.Inst {
 		if pc < half {
-			return fork(pc+half, (pc+1)%half)
+			return Fork(pc+half, (pc+1)%half)
 		}
-		return read(0, 'a', 'a')
+		return Read(0, 'a', 'a')
 	})
 	behind := made(most, func(pc int) api.Inst {
 		if pc < half {
-			return fork((pc+1)%half, pc+half)
+			return Fork((pc+1)%half, pc+half)
 		}
-		return read(0, 'a', 'a')
+		return Read(0, 'a', 'a')
 	})
 	bothClose(t, ahead, []int{0}, 0, from(half, most-1), false)
 	bothClose(t, behind, []int{0}, 0, from(most-1, half), false)
-	ahead.Insts[half+9] = match()
+	ahead.Insts[half+9] = Match()
 	closes(t, ahead, []int{0}, 0, false, from(half, half+8), true)
 	closes(t, ahead, []int{0}, 0, true, append(from(half, half+8), from(half+10, most-1)...), true)
 }
 
 // TestHeap: a program that forks as often as it may, over and over.
 func TestHeap(t *testing.T) {
-	p := made(most, func(pc int) api.Inst { return fork((2*pc+1)%most, (2*pc+2)%most) })
+	p := made(most, func(pc int) api.Inst { return Fork((2*pc+1)%most, (2*pc+2)%most) })
 	bothClose(t, p, []int{0}, 0, nil, false)
-	p.Insts[most-1] = read(0, 'a', 'a')
+	p.Insts[most-1] = Read(0, 'a', 'a')
 	bothClose(t, p, []int{0}, 0, []int{most - 1}, false)
 }
 
 // TestManyRanges: as many Sets as may be, each of its own, and all of them the same.
 func TestManyRanges(t *testing.T) {
-	own := made(most, func(pc int) api.Inst { return read(pc, rune(0x100+pc*2), rune(0x100+pc*2)) })
+	own := made(most, func(pc int) api.Inst { return Read(pc, rune(0x100+pc*2), rune(0x100+pc*2)) })
 	var firsts []rune
 	for c := range rune(2 * most) {
 		firsts = append(firsts, 0x100+c)

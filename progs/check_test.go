@@ -11,32 +11,27 @@ import (
 	"martello/sets"
 )
 
-// eachOp is a right program with an instruction of each Op.
-func eachOp() api.Prog {
-	return prog(fork(1, 2), read(3, 'a', 'c', 'e', 'e'), stand(api.AtWord, 4), keep(3, 5), fail(), match())
-}
-
 // TestRight: G1: programs that are right, with both ends of what each field may be.
 func TestRight(t *testing.T) {
-	all := []api.Prog{eachOp(), {Insts: []api.Inst{match()}, Caps: 2}, {Insts: []api.Inst{fail()}, Caps: 2}, {Insts: []api.Inst{fork(0, 0)}, Caps: 2}, {Insts: []api.Inst{read(0, 0, 0)}, Caps: 2}}
-	for start := range eachOp().Insts {
-		p := eachOp()
+	all := []api.Prog{EachOp(), {Insts: []api.Inst{Match()}, Caps: 2}, {Insts: []api.Inst{Fail()}, Caps: 2}, {Insts: []api.Inst{Fork(0, 0)}, Caps: 2}, {Insts: []api.Inst{Read(0, 0, 0)}, Caps: 2}}
+	for start := range EachOp().Insts {
+		p := EachOp()
 		p.Start = start
 		all = append(all, p)
 	}
 	for _, caps := range []int{4, 6, 8, 2000, 4000, 4002} {
-		p := eachOp()
+		p := EachOp()
 		p.Caps = caps
 		all = append(all, p)
 		for _, arg := range []int{2, 3, caps - 2, caps - 1} {
-			all = append(all, api.Prog{Insts: []api.Inst{match(), keep(arg, 0)}, Start: 1, Caps: caps})
+			all = append(all, api.Prog{Insts: []api.Inst{Match(), Keep(arg, 0)}, Start: 1, Caps: caps})
 		}
 	}
-	for _, at := range sixAts {
-		all = append(all, prog(match(), stand(at, 0)), prog(match(), stand(at, 1)))
+	for _, at := range SixAts() {
+		all = append(all, Program(Match(), Stand(at, 0)), Program(Match(), Stand(at, 1)))
 	}
-	for _, set := range rightSets() {
-		all = append(all, prog(match(), api.Inst{Op: api.InstSet, Set: set}), prog(match(), api.Inst{Op: api.InstSet, Out: 1, Set: set}))
+	for _, set := range RightSets() {
+		all = append(all, Program(Match(), api.Inst{Op: api.InstSet, Set: set}), Program(Match(), api.Inst{Op: api.InstSet, Out: 1, Set: set}))
 	}
 	for _, p := range all {
 		checks(t, p, api.OK)
@@ -45,9 +40,9 @@ func TestRight(t *testing.T) {
 
 // TestEmptySet: a list without ranges, nil or not, is no set of an InstSet, and zero of all others.
 func TestEmptySet(t *testing.T) {
-	for i, inst := range eachOp().Insts {
+	for i, inst := range EachOp().Insts {
 		for _, none := range [][]api.Range{nil, {}, make([]api.Range, 0, 5)} {
-			p := eachOp()
+			p := EachOp()
 			p.Insts[i].Set = none
 			if inst.Op == api.InstSet {
 				checks(t, p, api.ErrProg)
@@ -63,7 +58,7 @@ func TestHowMany(t *testing.T) {
 	checks(t, api.Prog{}, api.ErrProg)
 	checks(t, api.Prog{Caps: 2}, api.ErrProg)
 	checks(t, api.Prog{Insts: []api.Inst{}, Caps: 2}, api.ErrProg)
-	for _, inst := range []api.Inst{match(), fail(), read(9, 'a', 'z'), fork(7, 8), keep(2, 0), stand(api.AtEnd, 1)} {
+	for _, inst := range []api.Inst{Match(), Fail(), Read(9, 'a', 'z'), Fork(7, 8), Keep(2, 0), Stand(api.AtEnd, 1)} {
 		for n, want := range map[int]api.Errno{10: api.OK, 9999: api.OK, 10000: api.OK, 10001: api.ErrProg, 10002: api.ErrProg, 70000: api.ErrProg} {
 			checks(t, api.Prog{Insts: slices.Repeat([]api.Inst{inst}, n), Start: 9, Caps: 4}, want)
 		}
@@ -72,26 +67,26 @@ func TestHowMany(t *testing.T) {
 
 // TestStart: G1: where a program begins must be an instruction.
 func TestStart(t *testing.T) {
-	for _, start := range append([]int{6, 7}, farInts...) {
-		p := eachOp()
+	for _, start := range append([]int{6, 7}, FarInts()...) {
+		p := EachOp()
 		p.Start = start
 		checks(t, p, api.ErrProg)
 	}
-	checks(t, api.Prog{Insts: []api.Inst{match()}, Start: 1, Caps: 2}, api.ErrProg)
+	checks(t, api.Prog{Insts: []api.Inst{Match()}, Start: 1, Caps: 2}, api.ErrProg)
 }
 
 // TestCaps: G1: as many places of groups as may be, and no more; an even number.
 func TestCaps(t *testing.T) {
 	for caps, want := range map[int]api.Errno{2: api.OK, 4: api.OK, 4000: api.OK, 4002: api.OK, 0: api.ErrProg, 1: api.ErrProg, 3: api.ErrProg, 5: api.ErrProg, 4001: api.ErrProg, 4003: api.ErrProg, 4004: api.ErrProg, -1: api.ErrProg, -2: api.ErrProg, -4: api.ErrProg, math.MinInt: api.ErrProg, math.MaxInt: api.ErrProg, math.MaxInt - 1: api.ErrProg} {
-		checks(t, api.Prog{Insts: []api.Inst{match()}, Caps: caps}, want)
+		checks(t, api.Prog{Insts: []api.Inst{Match()}, Caps: caps}, want)
 	}
 }
 
 // TestOneWrong: G1: one thing wrong each: of the first instruction, of the last, and of one between.
 func TestOneWrong(t *testing.T) {
-	for _, bad := range wrongInsts() {
+	for _, bad := range WrongInsts() {
 		for i := range 3 {
-			p := prog(read(1, 'a', 'z'), fork(2, 0), match())
+			p := Program(Read(1, 'a', 'z'), Fork(2, 0), Match())
 			p.Insts[i] = bad
 			p.Start = (i + 1) % 3
 			if n := faults(p); n != 1 {
@@ -100,60 +95,9 @@ func TestOneWrong(t *testing.T) {
 			checks(t, p, api.ErrProg)
 		}
 	}
-}
-
-// wrongInsts are instructions that stand in no program of three of them, with 4 Caps.
-func wrongInsts() []api.Inst {
-	var all []api.Inst
-	for _, op := range []api.InstOp{0, 7, 8, -1, -2, math.MinInt, math.MaxInt} {
-		all = append(all, api.Inst{Op: op})
+	for _, p := range WrongPrograms() {
+		checks(t, p, api.ErrProg)
 	}
-	for _, pc := range append([]int{3, 4}, farInts...) {
-		all = append(all, read(pc, 'a', 'a'), fork(pc, 0), fork(0, pc), keep(2, pc), stand(api.AtEnd, pc))
-	}
-	for _, arg := range append([]int{0, 1, 4, 5}, farInts...) {
-		all = append(all, keep(arg, 0))
-	}
-	for _, set := range wrongSets() {
-		all = append(all, api.Inst{Op: api.InstSet, Set: set})
-	}
-	for _, at := range wrongAts() {
-		all = append(all, stand(at, 0))
-	}
-	return append(all, otherFields()...)
-}
-
-// otherFields are instructions with a field that is not their Op's, and not zero.
-func otherFields() []api.Inst {
-	var all []api.Inst
-	for _, inst := range eachOp().Insts {
-		inst.Out, inst.Arg = min(inst.Out, 2), min(inst.Arg, 2)
-		outs, args, runes, ats := inst, inst, inst, inst
-		outs.Out, args.Arg, runes.Set, ats.At = 1, 2, Ranges('x', 'x'), api.AtEnd
-		switch inst.Op {
-		case api.InstMatch, api.InstFail:
-			all = append(all, outs, args, runes, ats)
-		case api.InstSet:
-			all = append(all, args, ats)
-		case api.InstAlt, api.InstCap:
-			all = append(all, runes, ats)
-		case api.InstAt:
-			all = append(all, args, runes)
-		}
-	}
-	return all
-}
-
-func rightSets() [][]api.Range {
-	return [][]api.Range{Ranges(0, 0), Ranges(0, 0x10ffff), Ranges(0x10ffff, 0x10ffff), Ranges(5, 5, 7, 7), Ranges('a', 'z'), Ranges(0, 1, 3, 3, 0xd800, 0xdfff, 0x10fffd, 0x10ffff)}
-}
-
-func wrongSets() [][]api.Range {
-	return [][]api.Range{nil, {}, Ranges(5, 4), Ranges(5, 5, 6, 6), Ranges(1, 5, 5, 9), Ranges(1, 9, 2, 3), Ranges(7, 9, 1, 5), Ranges(5, 5, 5, 5), Ranges(-1, 5), Ranges(-3, -2), Ranges(5, 0x110000), Ranges(0x110000, 0x110000), Ranges(math.MinInt32, math.MaxInt32), Ranges('a', 'b', 'z', 'y')}
-}
-
-func wrongAts() []api.At {
-	return []api.At{0, 3, 5, 6, 12, 17, 24, 33, 48, 63, 64, 65, 128, -1, -32, math.MinInt, math.MaxInt}
 }
 
 // faults are how many things are wrong with a program, by the chapter's words.
@@ -194,7 +138,7 @@ func faults(p api.Prog) int {
 			must(len(i.Set) == 0)
 		}
 		if i.Op == api.InstAt {
-			must(slices.Contains(sixAts, i.At))
+			must(slices.Contains(SixAts(), i.At))
 		} else {
 			must(i.At == 0)
 		}
@@ -209,10 +153,10 @@ func TestFields(t *testing.T) {
 	for _, op := range []api.InstOp{0, 1, 2, 3, 4, 5, 6, 7, -1, math.MaxInt} {
 		for _, out := range places {
 			for _, arg := range append([]int{5, 6}, places...) {
-				for _, set := range append(wrongSets(), rightSets()...) {
-					for _, at := range append(slices.Clone(sixAts), 0, 3, 63, 64, -1) {
+				for _, set := range append(WrongSets(), RightSets()...) {
+					for _, at := range append(slices.Clone(SixAts()), 0, 3, 63, 64, -1) {
 						for _, caps := range []int{2, 4, 6} {
-							p := api.Prog{Insts: []api.Inst{match(), {Op: op, Out: out, Arg: arg, Set: set, At: at}, fail()}, Start: 1, Caps: caps}
+							p := api.Prog{Insts: []api.Inst{Match(), {Op: op, Out: out, Arg: arg, Set: set, At: at}, Fail()}, Start: 1, Caps: caps}
 							want := api.OK
 							if faults(p) > 0 {
 								want = api.ErrProg

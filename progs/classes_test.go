@@ -16,7 +16,7 @@ var always = []rune{0, 0xa, 0xb, 0x30, 0x3a, 0x41, 0x5b, 0x5f, 0x60, 0x61, 0x7b}
 
 // of is a program with an instruction for each set.
 func of(all ...[]api.Range) api.Prog {
-	p := prog(match())
+	p := Program(Match())
 	for i, set := range all {
 		p.Insts = append(p.Insts, api.Inst{Op: api.InstSet, Out: i, Set: set})
 	}
@@ -35,8 +35,8 @@ func classes(t *testing.T, p api.Prog, more ...rune) {
 // TestClasses: G4: of no Sets, of Sets of all kinds: each class's first rune, rising, each once.
 func TestClasses(t *testing.T) {
 	classes(t, of())
-	classes(t, prog(fail()))
-	classes(t, prog(fork(0, 1), keep(2, 1), stand(api.AtEnd, 0)))
+	classes(t, Program(Fail()))
+	classes(t, Program(Fork(0, 1), Keep(2, 1), Stand(api.AtEnd, 0)))
 	classes(t, of(Ranges('b', 'd')), 'b', 'e')
 	classes(t, of(Ranges('b', 'b')), 'b', 'c')
 	classes(t, of(Ranges('b', 'd', 'f', 'f', 'x', 'y')), 'b', 'e', 'f', 'g', 'x', 'z')
@@ -62,7 +62,7 @@ func TestClasses(t *testing.T) {
 
 // TestClassesOfAll: G4: all Insts count, those too to which no way leads.
 func TestClassesOfAll(t *testing.T) {
-	p := prog(read(0, 'b', 'b'), read(0, 'd', 'd'), match(), read(3, 'f', 'f'))
+	p := Program(Read(0, 'b', 'b'), Read(0, 'd', 'd'), Match(), Read(3, 'f', 'f'))
 	classes(t, p, 'b', 'c', 'd', 'e', 'f', 'g')
 	p.Start = 3
 	classes(t, p, 'b', 'c', 'd', 'e', 'f', 'g')
@@ -88,7 +88,7 @@ func told(p api.Prog, c rune) [3]int {
 // TestAlike: P12.2: rune by rune: a class begins just where another thing is told of a rune than of the one below it, and Class tells which.
 func TestAlike(t *testing.T) {
 	for _, p := range []api.Prog{
-		of(), eachOp(), of(Ranges('b', 'd'), Ranges('e', 'f'), Ranges('c', 'x')), of(Ranges(0, 9, 0xb, 0x10ffff), Ranges(0xa, 0xa)), of(Ranges(0x10ffff, 0x10ffff), Ranges(0x10fffe, 0x10fffe), Ranges(0, 0x10ffff), Ranges(0, 0)),
+		of(), EachOp(), of(Ranges('b', 'd'), Ranges('e', 'f'), Ranges('c', 'x')), of(Ranges(0, 9, 0xb, 0x10ffff), Ranges(0xa, 0xa)), of(Ranges(0x10ffff, 0x10ffff), Ranges(0x10fffe, 0x10fffe), Ranges(0, 0x10ffff), Ranges(0, 0)),
 		of(Ranges('k', 'k', 0x212a, 0x212a), Ranges('0', '9', 0x660, 0x669), Ranges(0x100, 0xd7ff), Ranges(0xd800, 0xdfff), Ranges(0xe000, 0x10ffff)), of(Ranges('0', '8', 'B', 'Z', '_', '`', 'b', 'y'), Ranges('@', '@', '[', '^'), Ranges(9, 11)),
 	} {
 		l := progs.Classes(p)

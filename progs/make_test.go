@@ -2,7 +2,6 @@ package progs_test
 
 import (
 	"fmt"
-	"math"
 	"slices"
 	"testing"
 
@@ -19,26 +18,6 @@ var (
 	_ func(api.Prog) []rune                             = progs.Classes
 	_ func([]rune, rune) int                            = progs.Class
 )
-
-// The instructions of each Op.
-
-func match() api.Inst                { return api.Inst{Op: api.InstMatch} }
-func fail() api.Inst                 { return api.Inst{Op: api.InstFail} }
-func fork(out, arg int) api.Inst     { return api.Inst{Op: api.InstAlt, Out: out, Arg: arg} }
-func keep(arg, out int) api.Inst     { return api.Inst{Op: api.InstCap, Arg: arg, Out: out} }
-func stand(a api.At, o int) api.Inst { return api.Inst{Op: api.InstAt, At: a, Out: o} }
-func read(out int, ends ...rune) api.Inst {
-	return api.Inst{Op: api.InstSet, Out: out, Set: Ranges(ends...)}
-}
-
-// prog is a program that begins at its first instruction, with places for one group.
-func prog(insts ...api.Inst) api.Prog { return api.Prog{Insts: insts, Caps: 4} }
-
-// sixAts are all that a place may be.
-var sixAts = []api.At{api.AtBegin, api.AtEnd, api.AtBeginLine, api.AtEndLine, api.AtWord, api.AtNoWord}
-
-// farInts are numbers that are no instruction's place.
-var farInts = []int{-1, -2, 100, 10000, math.MinInt32, math.MaxInt32, math.MinInt, math.MaxInt}
 
 // all are the places of all instructions.
 func all(p api.Prog) []int {
@@ -111,12 +90,12 @@ func leads(t *testing.T, p api.Prog, pcs []int, c rune, want ...int) {
 
 // TestExamples: the chapter's table.
 func TestExamples(t *testing.T) {
-	p := api.Prog{Insts: []api.Inst{match(), read(0, 'a', 'a'), fork(1, 0)}, Start: 2, Caps: 2}
+	p := api.Prog{Insts: []api.Inst{Match(), Read(0, 'a', 'a'), Fork(1, 0)}, Start: 2, Caps: 2}
 	checks(t, p, api.OK)
 	bothClose(t, p, []int{2}, 0, []int{1}, true)
 	leads(t, p, []int{1}, 'a', 0)
 	leads(t, p, []int{1}, 'b')
-	p.Insts[2] = fork(0, 1)
+	p.Insts[2] = Fork(0, 1)
 	closes(t, p, []int{2}, 0, false, nil, true)
 	closes(t, p, []int{2}, 0, true, []int{1}, true)
 }

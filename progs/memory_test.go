@@ -17,13 +17,9 @@ func roomy[Item any](list []Item, spare ...Item) []Item {
 
 // memoryProgs are programs of each kind, right ones and wrong ones, whose lists have spare room.
 func memoryProgs() []api.Prog {
-	list := []api.Prog{eachOp(), {Insts: []api.Inst{fork(1, 2), read(0, 'a', 'b'), read(1, 'a', 'a', 'c', 'c'), match()}, Caps: 2}, of(Ranges('b', 'd'), Ranges('a', 'z'), Ranges(0, 0x10ffff)), {}, prog(read(0, 5, 4)), prog(read(0, 'a', 'b'), read(7, 'a', 'b')), {Insts: []api.Inst{read(0, 'a', 'b')}, Caps: 3}}
+	list := []api.Prog{EachOp(), {Insts: []api.Inst{Fork(1, 2), Read(0, 'a', 'b'), Read(1, 'a', 'a', 'c', 'c'), Match()}, Caps: 2}, of(Ranges('b', 'd'), Ranges('a', 'z'), Ranges(0, 0x10ffff)), {}, Program(Read(0, 5, 4)), Program(Read(0, 'a', 'b'), Read(7, 'a', 'b')), {Insts: []api.Inst{Read(0, 'a', 'b')}, Caps: 3}}
 	for i, p := range list {
-		insts := roomy(p.Insts, read(9, 'x', 'y'), fork(7, 8))
-		for pc := range insts {
-			insts[pc].Set = roomy(insts[pc].Set, Ranges(7, 7, 9, 9)...)
-		}
-		list[i].Insts = insts
+		list[i] = RoomyProg(p)
 	}
 	return list
 }
@@ -35,15 +31,6 @@ func memoryPcs() [][]int {
 		lists = append(lists, roomy(pcs, 1, 0, -7))
 	}
 	return lists
-}
-
-// wholly is all that a program has, the spare room of its lists, too.
-func wholly(p api.Prog) string {
-	text := fmt.Sprint(p)
-	for _, i := range p.Insts[:cap(p.Insts)] {
-		text += fmt.Sprint(i, i.Set[:cap(i.Set)])
-	}
-	return text
 }
 
 // room is all that a list has, its spare room, too.
@@ -82,10 +69,10 @@ func fill[Item any](lists [][]Item, with Item) {
 func TestUnchanged(t *testing.T) {
 	for _, p := range memoryProgs() {
 		lists := memoryPcs()
-		before, pcs := wholly(p), fmt.Sprint(lists)
+		before, pcs := fmt.Sprint(WholeProg(p)), fmt.Sprint(lists)
 		_, outs, runes := answers(p, lists)
 		for range 2 {
-			if now := wholly(p); now != before {
+			if now := fmt.Sprint(WholeProg(p)); now != before {
 				t.Errorf("%s; was %s", now, before)
 			}
 			if now := fmt.Sprint(lists); now != pcs {
@@ -114,11 +101,7 @@ func TestNotKept(t *testing.T) {
 		_, outs, runes := answers(p, lists)
 		before := fmt.Sprint(outs, runes)
 		fill(lists, 3)
-		for i := range p.Insts[:cap(p.Insts)] {
-			inst := &p.Insts[:cap(p.Insts)][i]
-			fill([][]api.Range{inst.Set}, api.Range{Lo: 1, Hi: 2})
-			*inst = fork(1, 1)
-		}
+		SpoilProg(p)
 		if now := fmt.Sprint(outs, runes); now != before {
 			t.Errorf("%s; was %s", now, before)
 		}

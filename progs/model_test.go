@@ -6,6 +6,7 @@ import (
 
 	"martello/api"
 	"martello/progs"
+	. "martello/samples"
 	"martello/sets"
 )
 
@@ -66,38 +67,10 @@ func modelNext(p api.Prog, pcs []int, c rune) []int {
 	return outs
 }
 
-// repertoire are the instructions that may stand in a program of n: each Op with each place to which it may lead.
-func repertoire(n int) []api.Inst {
-	list := []api.Inst{match(), fail()}
-	for out := range n {
-		list = append(list, read(out, 'a', 'b'), read(out, 'b', 'c'), keep(2+out%2, out), stand(api.AtEnd, out))
-		for arg := range n {
-			list = append(list, fork(out, arg))
-		}
-	}
-	return list
-}
-
-// small hands on one of each so many of all programs of n instructions.
-func small(n, each int, yield func(api.Prog)) {
-	list := repertoire(n)
-	count := 1
-	for range n {
-		count *= len(list)
-	}
-	for number := 0; number < count; number += each {
-		var insts []api.Inst
-		for rest := number; len(insts) < n; rest /= len(list) {
-			insts = append(insts, list[rest%len(list)])
-		}
-		yield(prog(insts...))
-	}
-}
-
 // TestSmall: P12.1, P12.3: all programs of up to three instructions, and some of four and five, from each instruction, and from several.
 func TestSmall(t *testing.T) {
 	for i, each := range []int{1, 1, 1, 97, 40009} {
-		small(i+1, each, func(p api.Prog) { againstModel(t, p) })
+		SmallPrograms(i+1, each, func(p api.Prog) { againstModel(t, p) })
 	}
 }
 
@@ -133,9 +106,9 @@ func TestGreater(t *testing.T) {
 			for i := range n {
 				x := seed*31 + i*(seed%7+3) + i*i
 				out, arg := (x/3)%n, (x/5+i)%n
-				insts = append(insts, []api.Inst{fork(out, arg), read(out, 'a', 'b'), fork(arg, out), keep(2, out), stand(api.AtEnd, arg), match(), fork(out, (i+1)%n), read(arg, 'b', 'c')}[x%8])
+				insts = append(insts, []api.Inst{Fork(out, arg), Read(out, 'a', 'b'), Fork(arg, out), Keep(2, out), Stand(api.AtEnd, arg), Match(), Fork(out, (i+1)%n), Read(arg, 'b', 'c')}[x%8])
 			}
-			againstModel(t, prog(insts...))
+			againstModel(t, Program(insts...))
 		}
 	}
 }

@@ -11,7 +11,7 @@ import (
 
 // TestNext: G3: by runes that no Set has, that one has, that several have.
 func TestNext(t *testing.T) {
-	p := prog(match(), read(4, 'a', 'c'), read(5, 'b', 'd', 'x', 'x'), read(4, 'c', 'c', 'y', 'z'), read(1, 0, 'a'), read(2, 0x10ffff, 0x10ffff))
+	p := Program(Match(), Read(4, 'a', 'c'), Read(5, 'b', 'd', 'x', 'x'), Read(4, 'c', 'c', 'y', 'z'), Read(1, 0, 'a'), Read(2, 0x10ffff, 0x10ffff))
 	pcs := []int{1, 2, 3, 4, 5}
 	leads(t, p, pcs, 'a', 4, 1)
 	leads(t, p, pcs, 'b', 4, 5)
@@ -30,7 +30,7 @@ func TestNext(t *testing.T) {
 
 // TestNextOrder: G3: Outs stand in the order of those that are asked, each once, where it stands first.
 func TestNextOrder(t *testing.T) {
-	p := prog(read(3, 'a', 'a'), read(2, 'a', 'b'), read(1, 'a', 'c'), read(2, 'a', 'd'), read(3, 'b', 'b'))
+	p := Program(Read(3, 'a', 'a'), Read(2, 'a', 'b'), Read(1, 'a', 'c'), Read(2, 'a', 'd'), Read(3, 'b', 'b'))
 	for _, x := range [][2][]int{
 		{nil, nil}, {{}, nil}, {{0}, {3}}, {{0, 1, 2}, {3, 2, 1}}, {{2, 1, 0}, {1, 2, 3}}, {{1, 3}, {2}}, {{3, 1}, {2}}, {{3, 0, 1}, {2, 3}}, {{0, 0, 0}, {3}}, {{2, 0, 2, 1, 0}, {1, 3, 2}}, {{4}, nil}, {{4, 0}, {3}}, {{4, 4, 1, 4}, {2}},
 	} {
@@ -42,14 +42,14 @@ func TestNextOrder(t *testing.T) {
 
 // TestNextOthers: G3: only InstSets lead on; those that are none, or no instruction's place, are passed over.
 func TestNextOthers(t *testing.T) {
-	p := prog(match(), fail(), fork(6, 5), keep(2, 5), stand(api.AtEnd, 5), read(1, 'a', 'a'), fork(5, 5))
+	p := Program(Match(), Fail(), Fork(6, 5), Keep(2, 5), Stand(api.AtEnd, 5), Read(1, 'a', 'a'), Fork(5, 5))
 	for pc := range 7 {
 		if pc != 5 {
 			leads(t, p, []int{pc}, 'a')
 		}
 	}
 	leads(t, p, []int{0, 1, 2, 3, 4, 5, 6}, 'a', 1)
-	for _, bad := range append([]int{7, 8}, farInts...) {
+	for _, bad := range append([]int{7, 8}, FarInts()...) {
 		leads(t, p, []int{bad}, 'a')
 		leads(t, p, []int{bad, 5}, 'a', 1)
 		leads(t, p, []int{5, bad}, 'a', 1)
@@ -59,7 +59,7 @@ func TestNextOthers(t *testing.T) {
 
 // TestNextNoRune: G3: what is no rune is in no Set.
 func TestNextNoRune(t *testing.T) {
-	p := prog(read(0, 0, 0x10ffff))
+	p := Program(Read(0, 0, 0x10ffff))
 	for _, c := range []rune{-1, -2, 0x110000, 0x110001, math.MinInt32, math.MaxInt32} {
 		leads(t, p, []int{0}, c)
 	}
@@ -71,7 +71,7 @@ func TestNextNoRune(t *testing.T) {
 // TestNextSets: G3: each rune at an end of a range, and beside it.
 func TestNextSets(t *testing.T) {
 	set := Ranges(0, 2, 4, 4, 10, 20, 0xd7ff, 0xe000, 0x10fff0, 0x10ffff)
-	p := prog(api.Inst{Op: api.InstSet, Out: 0, Set: set})
+	p := Program(api.Inst{Op: api.InstSet, Out: 0, Set: set})
 	for _, r := range set {
 		for _, c := range []rune{r.Lo - 1, r.Lo, r.Lo + 1, r.Hi - 1, r.Hi, r.Hi + 1} {
 			if slices.ContainsFunc(set, func(r api.Range) bool { return r.Lo <= c && c <= r.Hi }) {

@@ -122,28 +122,12 @@ func TestToldAgain(t *testing.T) {
 // TestAtOnce: rule P3: calls at the same time tell what they tell one by one, of the same trees.
 func TestAtOnce(t *testing.T) {
 	all := memoryTrees()
-	var want []string
-	for _, tree := range all {
-		p, e := compile.Compile(tree, 1)
-		want = append(want, text(p, e))
-	}
-	wrong := make(chan int)
-	for range 8 {
-		go func() {
-			bad := -1
-			for i, tree := range all {
-				p, e := compile.Compile(tree, 1)
-				if text(p, e) != want[i] {
-					bad = i
-				}
-				spoil(p)
-			}
-			wrong <- bad
-		}()
-	}
-	for range 8 {
-		if i := <-wrong; i >= 0 {
-			t.Errorf("Compile of %s: told otherwise", brief(all[i]))
-		}
+	if i := AtOnce(len(all), func(i int) string {
+		p, e := compile.Compile(all[i], 1)
+		told := text(p, e)
+		spoil(p)
+		return told
+	}); i >= 0 {
+		t.Errorf("Compile of %s: told otherwise", brief(all[i]))
 	}
 }

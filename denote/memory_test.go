@@ -117,29 +117,12 @@ func TestToldAgain(t *testing.T) {
 // TestAtOnce: rule P3: calls at the same time, of the same trees and the same input, tell what they tell one by one.
 func TestAtOnce(t *testing.T) {
 	all, in := memoryTrees(), made(t, "abac\xffab")
-	var want []string
-	for _, tree := range all {
-		text, _ := answers(tree, in)
-		want = append(want, text)
-	}
-	wrong := make(chan int)
-	for range 8 {
-		go func() {
-			bad := -1
-			for i, tree := range all {
-				text, told := answers(tree, in)
-				if text != want[i] {
-					bad = i
-				}
-				fill(told)
-			}
-			wrong <- bad
-		}()
-	}
-	for range 8 {
-		if i := <-wrong; i >= 0 {
-			t.Errorf("%s: told otherwise", Shown(all[i]))
-		}
+	if i := AtOnce(len(all), func(i int) string {
+		text, told := answers(all[i], in)
+		fill(told)
+		return text
+	}); i >= 0 {
+		t.Errorf("%s: told otherwise", Shown(all[i]))
 	}
 }
 

@@ -114,26 +114,8 @@ func TestListNotKept(t *testing.T) {
 // TestAtOnce: rule P3: calls at the same time, of the same trees and the same input, tell what they tell one by one.
 func TestAtOnce(t *testing.T) {
 	all, in := memoryTrees(), made(t, "abac\xffab")
-	var want []string
-	for _, tree := range all {
-		want = append(want, both(tree, in))
-	}
-	wrong := make(chan int)
-	for range 8 {
-		go func() {
-			bad := -1
-			for i, tree := range all {
-				if both(tree, in) != want[i] {
-					bad = i
-				}
-			}
-			wrong <- bad
-		}()
-	}
-	for range 8 {
-		if i := <-wrong; i >= 0 {
-			t.Errorf("%s: told otherwise", Shown(all[i]))
-		}
+	if i := AtOnce(len(all), func(i int) string { return both(all[i], in) }); i >= 0 {
+		t.Errorf("%s: told otherwise", Shown(all[i]))
 	}
 }
 

@@ -52,27 +52,11 @@ func TestToldAgain(t *testing.T) {
 // TestAtOnce: rule P3: calls at the same time tell what they tell one by one, of trees that share parts, too.
 func TestAtOnce(t *testing.T) {
 	all := memoryTrees()
-	var want []string
-	for _, tree := range all {
-		text, _ := printer.Print(tree)
-		want = append(want, text)
-	}
-	wrong := make(chan int)
-	for range 8 {
-		go func() {
-			bad := -1
-			for i, tree := range all {
-				if text, _ := printer.Print(tree); text != want[i] {
-					bad = i
-				}
-			}
-			wrong <- bad
-		}()
-	}
-	for range 8 {
-		if i := <-wrong; i >= 0 {
-			t.Errorf("Print of %v: told otherwise", all[i])
-		}
+	if i := AtOnce(len(all), func(i int) string {
+		text, _ := printer.Print(all[i])
+		return text
+	}); i >= 0 {
+		t.Errorf("Print of %v: told otherwise", all[i])
 	}
 }
 

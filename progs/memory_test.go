@@ -147,29 +147,12 @@ func TestToldAgain(t *testing.T) {
 // TestAtOnce: rule P3: calls at the same time, of the same programs, tell what they tell one by one.
 func TestAtOnce(t *testing.T) {
 	list, pcs := memoryProgs(), memoryPcs()
-	var want []string
-	for _, p := range list {
-		text, _, _ := answers(p, pcs)
-		want = append(want, text)
-	}
-	wrong := make(chan int)
-	for range 8 {
-		go func() {
-			bad := -1
-			for i, p := range list {
-				text, outs, runes := answers(p, pcs)
-				if text != want[i] {
-					bad = i
-				}
-				fill(outs, 5)
-				fill(runes, 5)
-			}
-			wrong <- bad
-		}()
-	}
-	for range 8 {
-		if i := <-wrong; i >= 0 {
-			t.Errorf("%s: told otherwise", shown(list[i]))
-		}
+	if i := AtOnce(len(list), func(i int) string {
+		text, outs, runes := answers(list[i], pcs)
+		fill(outs, 5)
+		fill(runes, 5)
+		return text
+	}); i >= 0 {
+		t.Errorf("%s: told otherwise", shown(list[i]))
 	}
 }

@@ -92,28 +92,13 @@ func TestToldAgain(t *testing.T) {
 // TestAtOnce: rule P3: calls at the same time tell what they tell one by one, of trees that share parts, too.
 func TestAtOnce(t *testing.T) {
 	all := memoryTrees()
-	var want []api.Tree
-	for _, tree := range all {
-		want = append(want, simplify.Simple(tree))
-	}
-	wrong := make(chan int)
-	for range 8 {
-		go func() {
-			bad := -1
-			for i, tree := range all {
-				told := simplify.Simple(tree)
-				if !Same(told, want[i]) {
-					bad = i
-				}
-				Spoil(told)
-			}
-			wrong <- bad
-		}()
-	}
-	for range 8 {
-		if i := <-wrong; i >= 0 {
-			t.Errorf("Simple of %s: told otherwise", Shown(all[i]))
-		}
+	if i := AtOnce(len(all), func(i int) string {
+		told := simplify.Simple(all[i])
+		text := Shown(told)
+		Spoil(told)
+		return text
+	}); i >= 0 {
+		t.Errorf("Simple of %s: told otherwise", Shown(all[i]))
 	}
 }
 

@@ -70,7 +70,7 @@ func modelNext(p api.Prog, pcs []int, c rune) []int {
 // TestSmall: P12.1, P12.3: all programs of up to three instructions, and some of four and five, from each instruction, and from several.
 func TestSmall(t *testing.T) {
 	for i, each := range []int{1, 1, 1, 97, 40009} {
-		SmallPrograms(i+1, each, func(p api.Prog) { againstModel(t, p) })
+		SmallPrograms(i+1, each, Repertoire(i+1), func(p api.Prog) { againstModel(t, p) })
 	}
 }
 

@@ -36,8 +36,8 @@ func FarInts() []int {
 	return []int{-1, -2, 100, 10000, math.MinInt32, math.MaxInt32, math.MinInt, math.MaxInt}
 }
 
-// repertoire are the instructions that may stand in a program of n: each Op with each place to which it may lead.
-func repertoire(n int) []api.Inst {
+// Repertoire are instructions that may stand in a program of n: each Op with each place to which it may lead.
+func Repertoire(n int) []api.Inst {
 	list := []api.Inst{Match(), Fail()}
 	for out := range n {
 		list = append(list, Read(out, 'a', 'b'), Read(out, 'b', 'c'), Keep(2+out%2, out), Stand(api.AtEnd, out))
@@ -48,9 +48,8 @@ func repertoire(n int) []api.Inst {
 	return list
 }
 
-// SmallPrograms hands on one of each so many of all programs of n instructions.
-func SmallPrograms(n, each int, yield func(api.Prog)) {
-	list := repertoire(n)
+// SmallPrograms hands on one of each so many of all programs of n instructions of a list.
+func SmallPrograms(n, each int, list []api.Inst, yield func(api.Prog)) {
 	count := 1
 	for range n {
 		count *= len(list)

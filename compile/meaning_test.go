@@ -6,7 +6,6 @@ import (
 
 	"martello/api"
 	"martello/denote"
-	"martello/inputs"
 	. "martello/samples"
 	"martello/simplify"
 )
@@ -16,10 +15,7 @@ func finds(t *testing.T, tree api.Tree, groups int, texts ...string) {
 	t.Helper()
 	p := told(t, tree, groups)
 	for _, text := range texts {
-		in, e := inputs.New(api.KindText, []byte(text))
-		if e != api.OK {
-			t.Fatal(e)
-		}
+		in := Made(t, text)
 		for from := range in.Len() + 1 {
 			want, have := denote.List(tree, groups, in, from), Walked(p, in, from)
 			if !slices.EqualFunc(have, want, slices.Equal) {

@@ -25,7 +25,7 @@ func alike(t *testing.T, tree api.Tree, texts ...string) (again bool) {
 		t.Fatalf("%s: printed %q, %d, %+v", Shown(tree), pattern, e, wrong)
 	}
 	for _, text := range texts {
-		in := made(t, text)
+		in := Made(t, text)
 		sameLists(t, tree, simplify.Simple(tree), groups, in)
 		if again {
 			sameLists(t, tree, written, groups, in)
@@ -99,9 +99,9 @@ func TestAlikePatterns(t *testing.T) {
 
 // TestAlikeGroups: P11.3: made plain and printed a tree keeps its groups, turned it has none.
 func TestAlikeGroups(t *testing.T) {
-	tree := read(t, "(?:(a)|(b)){2,3}(c)?")
+	tree := Parsed(t, "(?:(a)|(b)){2,3}(c)?")
 	pattern, _ := printer.Print(tree)
-	for _, other := range []api.Tree{tree, simplify.Simple(tree), read(t, pattern)} {
+	for _, other := range []api.Tree{tree, simplify.Simple(tree), Parsed(t, pattern)} {
 		lists(t, other, 3, "abb", 0, "3 0-1 2-3 ., 2 0-1 1-2 .")
 		lists(t, other, 3, "babc", 0, "4 1-2 2-3 3-4, 3 1-2 2-3 ., 2 1-2 0-1 .")
 	}

@@ -22,7 +22,7 @@ func TestAnyDepth(t *testing.T) {
 		{func(kid api.Tree) api.Tree { return Group(1, "", kid) }, "1 0-1"}, {func(kid api.Tree) api.Tree { return Group(2, "x", kid) }, "1 ."}, {func(kid api.Tree) api.Tree { return Repeat(1, 1, kid) }, "1 ."}, {func(kid api.Tree) api.Tree { return Repeat(0, -1, kid) }, "2 ., 1 ., 0 ."},
 	} {
 		for _, depth := range []int{49, 50, 51, 1000, 1<<16 - 1} {
-			in := made(t, "aab")
+			in := Made(t, "aab")
 			tree := Nested(depth, Letter('a'), x.in)
 			if fits := shown(listed(t, tree, 1, in, 0)); fits != x.want {
 				t.Errorf("%.60s, %d deep: %s, not %s", Shown(x.in(Letter('a'))), depth, fits, x.want)
@@ -51,7 +51,7 @@ func TestAnyWeight(t *testing.T) {
 		{Nested(3, a, times(1000, 1000)), 50, -1, -1}, {Nested(70, a, times(1000, 1000)), 50, -1, -1}, {Nested(70, a, times(1000, -1)), 50, -1, -1}, {Nested(3, a, times(1, 1000)), 50, 50, 50}, {Lazy(Nested(70, a, times(1, -1))), 50, 50, 50},
 		{Nested(2, Empty(), times(1000, 1000)), 0, 0, 0}, {Nested(2, Quest(a), times(0, 300)), 5, 5, 5}, {Nested(2, Lazy(Quest(a)), times(300, -1)), 5, 0, 5},
 	} {
-		in := made(t, strings.Repeat("a", x.length))
+		in := Made(t, strings.Repeat("a", x.length))
 		for longest, end := range map[bool]int{false: x.first, true: x.longer} {
 			want := []int{0, end}
 			if end < 0 {
@@ -77,13 +77,13 @@ func TestLongTexts(t *testing.T) {
 		{"(a*)+b", as, nil, nil}, {"(?:a|aa)+?b", as, nil, nil}, {"(a)*?b", as[1:] + "b", []int{0, n, n - 2, n - 1}, []int{0, n, n - 2, n - 1}}, {"(?:a*)*?(b)", as[1:] + "b", []int{0, n, n - 1, n}, []int{0, n, n - 1, n}}, {"b()", as[1:] + "b", []int{n - 1, n, n, n}, []int{n - 1, n, n, n}}, {"$", as, []int{n, n, -1, -1}, []int{n, n, -1, -1}}, {"^a", "\n" + as[1:], nil, nil},
 		{"(?s).*", strings.Repeat("\xff", n), []int{0, n, -1, -1}, []int{0, n, -1, -1}}, {".*", as[1:] + "\n", []int{0, n - 1, -1, -1}, []int{0, n - 1, -1, -1}}, {"(é)+", strings.Repeat("é", n/2), []int{0, n / 2, n/2 - 1, n / 2}, []int{0, n / 2, n/2 - 1, n / 2}},
 	} {
-		in, tree := made(t, x.text), read(t, x.pattern)
+		in, tree := Made(t, x.text), Parsed(t, x.pattern)
 		same(t, tree, 0, x.first, false, "Find", denote.Find, 1, in)
 		same(t, tree, -5, x.longer, true, "Find", denote.Find, 1, in)
 	}
-	in := made(t, as)
+	in := Made(t, as)
 	for pattern, first := range map[string]int{"a*": n, "a*?": 0, "(?:a|a)*": n, "(?:a??)+?": 0} {
-		fits := denote.List(read(t, pattern), 0, in, 0)
+		fits := denote.List(Parsed(t, pattern), 0, in, 0)
 		if len(fits) != n+1 || fits[0][1] != first {
 			t.Fatalf("%s: %d ends, %v", pattern, len(fits), fits[:1])
 		}
@@ -93,15 +93,15 @@ func TestLongTexts(t *testing.T) {
 			}
 		}
 	}
-	turned := made(t, strings.Repeat("\xff", n)).Turned() // above MaxText
-	same(t, read(t, "(.)+"), 0, []int{0, n, n - 1, n}, false, "Match", denote.Match, 1, turned)
-	same(t, read(t, "(.)+"), n, nil, false, "Find", denote.Find, 1, turned)
+	turned := Made(t, strings.Repeat("\xff", n)).Turned() // above MaxText
+	same(t, Parsed(t, "(.)+"), 0, []int{0, n, n - 1, n}, false, "Match", denote.Match, 1, turned)
+	same(t, Parsed(t, "(.)+"), n, nil, false, "Find", denote.Find, 1, turned)
 }
 
 // TestLists: many ends, each with as many groups as may be.
 func TestLists(t *testing.T) {
 	tree := Star(Group(1, "", Alt(Group(api.MaxGroups, "", Letter('a')), Letter('b'))))
-	fits := listed(t, tree, api.MaxGroups, made(t, strings.Repeat("ab", 60)), 0)
+	fits := listed(t, tree, api.MaxGroups, Made(t, strings.Repeat("ab", 60)), 0)
 	if len(fits) != 121 {
 		t.Fatal(len(fits))
 	}

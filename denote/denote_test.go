@@ -12,12 +12,12 @@ import (
 
 // TestExamples: the chapter's table.
 func TestExamples(t *testing.T) {
-	lists(t, read(t, "a*"), 0, "aab", 0, "2, 1, 0")
-	lists(t, read(t, "(|a)+"), 0, "aa", 0, "0, 2, 1")
-	lists(t, read(t, "(a*)*"), 1, "a", 0, "1 0-1, 0 .")
-	lists(t, read(t, "(?:a*?)*"), 0, "aa", 0, "1, 2, 0")
-	lists(t, read(t, "(a|ab)(c|bcd)?"), 0, "abcd", 0, "4, 1, 3, 2")
-	lists(t, read(t, "(a|ab)(c|bcd)?"), 2, "abcd", 0, "4 0-1 1-4, 1 0-1 ., 3 0-2 2-3, 2 0-2 .")
+	lists(t, Parsed(t, "a*"), 0, "aab", 0, "2, 1, 0")
+	lists(t, Parsed(t, "(|a)+"), 0, "aa", 0, "0, 2, 1")
+	lists(t, Parsed(t, "(a*)*"), 1, "a", 0, "1 0-1, 0 .")
+	lists(t, Parsed(t, "(?:a*?)*"), 0, "aa", 0, "1, 2, 0")
+	lists(t, Parsed(t, "(a|ab)(c|bcd)?"), 0, "abcd", 0, "4, 1, 3, 2")
+	lists(t, Parsed(t, "(a|ab)(c|bcd)?"), 2, "abcd", 0, "4 0-1 1-4, 1 0-1 ., 3 0-2 2-3, 2 0-2 .")
 }
 
 // TestExamplesOfTheWhole: what the document's first page finds.
@@ -40,19 +40,19 @@ func TestExamplesOfTheWhole(t *testing.T) {
 		{`\b`, 0, "a b", 0, false, []int{0, 0}}, {`\b`, 0, "a b", 1, false, []int{1, 1}}, {`\b`, 0, "a b", 2, false, []int{2, 2}}, {`\b`, 0, "a b", 3, false, []int{3, 3}},
 		{"(?P<x>a)(b)?", 2, "ab-a", 0, false, []int{0, 2, 0, 1, 1, 2}}, {"(?P<x>a)(b)?", 2, "ab-a", 2, false, []int{3, 4, 3, 4, -1, -1}},
 	} {
-		tree := read(t, x.pattern)
-		fit, ok := denote.Find(tree, x.groups, made(t, x.text), x.from, x.longest)
+		tree := Parsed(t, x.pattern)
+		fit, ok := denote.Find(tree, x.groups, Made(t, x.text), x.from, x.longest)
 		if ok != (x.want != nil) || !slices.Equal(fit, x.want) {
 			t.Errorf("%s in %q from %d, longest %t: %v, %t; not %v", x.pattern, x.text, x.from, x.longest, fit, ok, x.want)
 		}
-		finds(t, tree, x.groups, made(t, x.text))
+		finds(t, tree, x.groups, Made(t, x.text))
 	}
 }
 
 // from holds what a tree fits from each place of a text: a list for each.
 func from(t *testing.T, tree api.Tree, text string, want ...string) {
 	t.Helper()
-	if n := made(t, text).Len() + 1; n != len(want) {
+	if n := Made(t, text).Len() + 1; n != len(want) {
 		t.Fatalf("%q has %d places", text, n)
 	}
 	for at, list := range want {
@@ -113,7 +113,7 @@ func TestAt(t *testing.T) {
 		{"\xff9\xffé_", api.AtBegin, "0"}, {"\xff9\xffé_", api.AtEnd, "5"}, {"\xff9\xffé_", api.AtBeginLine, "0"}, {"\xff9\xffé_", api.AtEndLine, "5"}, {"\xff9\xffé_", api.AtWord, "1245"}, {"\xff9\xffé_", api.AtNoWord, "03"},
 		{"a\r\nZ", api.AtBeginLine, "03"}, {"a\r\nZ", api.AtEndLine, "24"}, {"a\r\nZ", api.AtWord, "0134"}, {"a\r\nZ", api.AtNoWord, "2"},
 	} {
-		for at := range made(t, x.text).Len() + 1 {
+		for at := range Made(t, x.text).Len() + 1 {
 			want, digit := "", string(rune('0'+at))
 			if strings.Contains(x.want, digit) {
 				want = digit
@@ -164,7 +164,7 @@ func TestChoices(t *testing.T) {
 	from(t, Quest(Quest(a)), "a", "1, 0", "1")
 	from(t, Quest(Lazy(Quest(a))), "a", "0, 1", "1")
 	from(t, Lazy(Quest(Quest(a))), "a", "0, 1", "1")
-	lists(t, read(t, "()?"), 1, "", 0, "0 0-0")
-	lists(t, read(t, "()??"), 1, "", 0, "0 .")
-	lists(t, read(t, "(a)?(ab)?"), 2, "ab", 0, "1 0-1 ., 2 . 0-2, 0 . .")
+	lists(t, Parsed(t, "()?"), 1, "", 0, "0 0-0")
+	lists(t, Parsed(t, "()??"), 1, "", 0, "0 .")
+	lists(t, Parsed(t, "(a)?(ab)?"), 2, "ab", 0, "1 0-1 ., 2 . 0-2, 0 . .")
 }

@@ -22,7 +22,7 @@ func TestGroups(t *testing.T) {
 	told(t, "(a*)(a*)", 2, "aa", "2 0-2 2-2, 1 0-1 1-1, 0 0-0 0-0")
 	told(t, "(a*?)(a*)", 2, "aa", "2 0-0 0-2, 1 0-0 0-1, 0 0-0 0-0")
 	told(t, `(\b)a`, 1, "a", "1 0-0")
-	lists(t, read(t, "(?P<x>a)(?P<y>b)"), 2, "xab", 1, "3 1-2 2-3")
+	lists(t, Parsed(t, "(?P<x>a)(?P<y>b)"), 2, "xab", 1, "3 1-2 2-3")
 }
 
 // TestLastTime: groups within repeats have the places of the last time around, also of the times ahead of one that did not meet them.
@@ -86,7 +86,7 @@ func TestAbove(t *testing.T) {
 // TestManyGroups: from none to MaxGroups; one more, or one less, is nothing.
 func TestManyGroups(t *testing.T) {
 	last := Group(api.MaxGroups, "", Letter('a'))
-	in := made(t, "aab")
+	in := Made(t, "aab")
 	for groups, want := range map[int][]int{api.MaxGroups: {1, 2}, api.MaxGroups - 1: {-1, -1}, 0: nil} {
 		fit := slices.Repeat([]int{-1}, 2*groups+2)
 		fit[0], fit[1] = 1, 2

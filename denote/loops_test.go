@@ -10,7 +10,7 @@ import (
 // told holds the List of a pattern, with as many groups as are shown, from the beginning of a text.
 func told(t *testing.T, pattern string, groups int, text, want string) {
 	t.Helper()
-	lists(t, read(t, pattern), groups, text, 0, want)
+	lists(t, Parsed(t, pattern), groups, text, 0, want)
 }
 
 // TestStars: OpStar and OpPlus, greedy and lazy, over a Kid that reads.

@@ -11,7 +11,6 @@ import (
 	"martello/denote"
 	"martello/inputs"
 	. "martello/samples"
-	"martello/syntax"
 )
 
 // The calls of the chapter, by their signatures.
@@ -20,28 +19,6 @@ var (
 	_ func(api.Tree, int, *inputs.Input, int, bool) ([]int, bool) = denote.Match
 	_ func(api.Tree, int, *inputs.Input, int, bool) ([]int, bool) = denote.Find
 )
-
-// kinds are all that there are.
-var kinds = []api.Kind{api.KindText, api.KindBytes, api.KindReader}
-
-func made(t *testing.T, text string) *inputs.Input {
-	t.Helper()
-	in, e := inputs.New(kinds[len(text)%len(kinds)], []byte(text))
-	if e != api.OK {
-		t.Fatalf("New of %.40q: %v", text, e)
-	}
-	return in
-}
-
-// read is the tree of a pattern.
-func read(t *testing.T, pattern string) api.Tree {
-	t.Helper()
-	tree, wrong := syntax.Parse(pattern, api.FlagPerl)
-	if wrong.E != api.OK {
-		t.Fatalf("Parse of %q: %+v", pattern, wrong)
-	}
-	return tree
-}
 
 // shown is fits as a text: the end of each, and behind it each group's places, or a point.
 func shown(fits [][]int) string {
@@ -88,7 +65,7 @@ func between(fit []int) bool {
 // lists holds List of a tree, from a place of a text, against fits as they are shown; and then D2 in that text against List.
 func lists(t *testing.T, tree api.Tree, groups int, text string, at int, want string) {
 	t.Helper()
-	in := made(t, text)
+	in := Made(t, text)
 	if have := shown(listed(t, tree, groups, in, at)); have != want {
 		t.Errorf("%.400s in %.40q from %d: %q, not %q", Shown(tree), text, at, have, want)
 	}

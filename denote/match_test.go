@@ -7,6 +7,7 @@ import (
 	"testing"
 
 	"martello/denote"
+	. "martello/samples"
 )
 
 // TestMatch: D2: the first fit, or the one that ends farthest, and of that the first way's groups.
@@ -33,11 +34,11 @@ func TestMatch(t *testing.T) {
 		{"(a|b)*?(b)?", 2, "ab", 0, []int{0, 0, -1, -1, -1, -1}, []int{0, 2, 0, 1, 1, 2}},
 		{"a(b)|(a)b", 2, "ab", 0, []int{0, 2, 1, 2, -1, -1}, []int{0, 2, 1, 2, -1, -1}},
 	} {
-		in := made(t, x.text)
+		in := Made(t, x.text)
 		for longest, want := range map[bool][]int{false: x.first, true: x.longer} {
-			same(t, read(t, x.pattern), x.at, want, longest, "Match", denote.Match, x.groups, in)
+			same(t, Parsed(t, x.pattern), x.at, want, longest, "Match", denote.Match, x.groups, in)
 		}
-		finds(t, read(t, x.pattern), x.groups, in)
+		finds(t, Parsed(t, x.pattern), x.groups, in)
 	}
 }
 
@@ -56,7 +57,7 @@ func TestFind(t *testing.T) {
 		{"$", "a\nb", 0, []int{3, 3}, []int{3, 3}}, {"(?m)$", "a\nb", 0, []int{1, 1}, []int{1, 1}}, {"(?m)^", "a\nb", 1, []int{2, 2}, []int{2, 2}}, {"^", "a\nb", 1, nil, nil}, {`\Bb`, "b bb", 0, []int{3, 4}, []int{3, 4}},
 		{`[^\x{0}-\x{10ffff}]`, "ab", 0, nil, nil}, {".", "\n\xff", 0, []int{1, 2}, []int{1, 2}},
 	} {
-		in, tree := made(t, x.text), read(t, x.pattern)
+		in, tree := Made(t, x.text), Parsed(t, x.pattern)
 		for longest, want := range map[bool][]int{false: x.first, true: x.longer} {
 			same(t, tree, x.from, want, longest, "Find", denote.Find, 0, in)
 		}
@@ -75,7 +76,7 @@ func TestFindGroups(t *testing.T) {
 		{"(?:(a)|(b)|(c))+d", "abxcd", []int{3, 5, -1, -1, -1, -1, 3, 4}},
 		{"(a*)*(b*)*(c*)*d", "aabbxccd", []int{5, 8, -1, -1, -1, -1, 5, 7}},
 	} {
-		in, tree := made(t, x.text), read(t, x.pattern)
+		in, tree := Made(t, x.text), Parsed(t, x.pattern)
 		for _, longest := range []bool{false, true} {
 			same(t, tree, 0, x.want, longest, "Find", denote.Find, 3, in)
 		}
@@ -87,29 +88,29 @@ func TestFindGroups(t *testing.T) {
 func TestFindAll(t *testing.T) {
 	for _, pattern := range []string{"(a|ab)(c|bcd)?", "(a*)+b", "(?:a*?)*c", "(|a)+b", "((a)|b)*c", `\b(\w+)\b`, "(?m)^(.*)$", "(?m)(?:^|x)*(a)??$", "(a{2}|b{1,2}){2}", "[^ab]*(a)", "(?:a+b?)+?c"} {
 		for _, text := range []string{"abcdabcd", strings.Repeat("aab", 7) + "c" + strings.Repeat("a", 9) + "b", "ab ba\nabc\n\ncab", strings.Repeat("a", 40), "\xffab\xffaabb\xff", "baacab\n"} {
-			finds(t, read(t, pattern), 2, made(t, text))
+			finds(t, Parsed(t, pattern), 2, Made(t, text))
 		}
 	}
 }
 
 // TestSteps: rule P1: what goes wrong after many ways is told soon; each part is gone on from once at each place.
 func TestSteps(t *testing.T) {
-	as := made(t, strings.Repeat("a", 30))
+	as := Made(t, strings.Repeat("a", 30))
 	for _, pattern := range []string{"(a*)+b", "(?:a*)*b", "(?:a|a)*b", "(?:a|aa)+b", "(?:(?:a*)*)*b", "(?:a+)+b", "(?:a?){30}a{31}", "(?:(?:a*?)+?)+?b", "(a|a|a|a)*(?:a|a)*b", "(?:a{0,30}){0,30}b", "(?:aa?a??){1,30}b", "(?:|a|a)+b"} {
-		tree := read(t, pattern)
+		tree := Parsed(t, pattern)
 		for at := range 31 {
 			if fits := denote.List(tree, 1, as, at); len(fits) > 0 {
 				t.Errorf("%s from %d: %v", pattern, at, fits)
 			}
 		}
 		same(t, tree, 0, nil, true, "Find", denote.Find, 1, as)
-		some := made(t, strings.Repeat("a", 30)+"b")
+		some := Made(t, strings.Repeat("a", 30)+"b")
 		if strings.HasSuffix(pattern, "b") {
 			same(t, tree, 0, []int{0, 31}, false, "Find", denote.Find, 0, some)
 		}
 	}
-	tree := read(t, "(?:a|aa|aaa)*")
-	fits := denote.List(tree, 0, made(t, strings.Repeat("a", 500)), 0)
+	tree := Parsed(t, "(?:a|aa|aaa)*")
+	fits := denote.List(tree, 0, Made(t, strings.Repeat("a", 500)), 0)
 	if len(fits) != 501 || !slices.Equal(fits[0], []int{0, 500}) {
 		t.Errorf("%d ends, %v", len(fits), fits[:1])
 	}

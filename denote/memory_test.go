@@ -38,7 +38,7 @@ func answers(tree api.Tree, in *inputs.Input) (text string, all [][]int) {
 
 // TestUnchanged: rule P3: the tree that is handed in, its spare room, and the input stay as they were, while they are asked, and when what was told is written over.
 func TestUnchanged(t *testing.T) {
-	in := made(t, "abac\xffab")
+	in := Made(t, "abac\xffab")
 	was := fmt.Sprint(*in)
 	for _, tree := range memoryTrees() {
 		tree = Roomy(tree)
@@ -51,34 +51,17 @@ func TestUnchanged(t *testing.T) {
 			if fmt.Sprint(*in) != was {
 				t.Fatalf("%s: the input is %v; was %s", Shown(before), *in, was)
 			}
-			fill(told)
-		}
-	}
-}
-
-// fill writes over lists, and their spare room.
-func fill(all [][]int) {
-	for _, list := range all {
-		for i := range list[:cap(list)] {
-			list[:cap(list)][i] = -77
+			Fill(told, -77)
 		}
 	}
 }
 
 // TestOwnLists: rule P3: no two lists of one answer share any memory, be it spare room, nor do those of several answers.
 func TestOwnLists(t *testing.T) {
-	in := made(t, "abac\xffab")
+	in := Made(t, "abac\xffab")
 	for _, tree := range memoryTrees() {
-		_, all := answers(tree, in)
-		seen := map[*int]bool{}
-		for _, list := range all {
-			whole := list[:cap(list)]
-			for i := range whole {
-				if seen[&whole[i]] {
-					t.Fatalf("%s: lists are shared", Shown(tree))
-				}
-				seen[&whole[i]] = true
-			}
+		if _, all := answers(tree, in); !Apart(all) {
+			t.Fatalf("%s: lists are shared", Shown(tree))
 		}
 	}
 	fits := denote.List(Star(Set('a', 'c')), 1, in, 0)
@@ -97,11 +80,11 @@ func TestToldAgain(t *testing.T) {
 	all := memoryTrees()
 	var first []string
 	for _, tree := range all {
-		text, told := answers(tree, made(t, "abac\xffab"))
+		text, told := answers(tree, Made(t, "abac\xffab"))
 		first = append(first, text)
-		fill(told)
+		Fill(told, -77)
 	}
-	for _, k := range kinds {
+	for _, k := range Kinds() {
 		in, e := inputs.New(k, []byte("abac\xffab"))
 		if e != api.OK {
 			t.Fatal(e)
@@ -116,10 +99,10 @@ func TestToldAgain(t *testing.T) {
 
 // TestAtOnce: rule P3: calls at the same time, of the same trees and the same input, tell what they tell one by one.
 func TestAtOnce(t *testing.T) {
-	all, in := memoryTrees(), made(t, "abac\xffab")
+	all, in := memoryTrees(), Made(t, "abac\xffab")
 	if i := AtOnce(len(all), func(i int) string {
 		text, told := answers(all[i], in)
-		fill(told)
+		Fill(told, -77)
 		return text
 	}); i >= 0 {
 		t.Errorf("%s: told otherwise", Shown(all[i]))
@@ -134,7 +117,7 @@ func TestTextKept(t *testing.T) {
 		t.Fatal(e)
 	}
 	copy(text, "xyz")
-	if fits := shown(denote.List(read(t, "a*"), 0, in, 0)); fits != "2, 1, 0" {
+	if fits := shown(denote.List(Parsed(t, "a*"), 0, in, 0)); fits != "2, 1, 0" {
 		t.Error(fits)
 	}
 }

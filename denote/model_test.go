@@ -212,7 +212,7 @@ func modelList(t api.Tree, groups int, in *inputs.Input, at int) (fits [][]int, 
 func holds(t *testing.T, tree api.Tree, groups int, texts ...string) (held int) {
 	t.Helper()
 	for i, text := range texts {
-		in := made(t, text)
+		in := Made(t, text)
 		for at := range in.Len() + 1 {
 			want, all := modelList(tree, groups, in, at)
 			if !all {

@@ -117,7 +117,7 @@ func reaches(t api.Tree, in *inputs.Input) reach {
 // endsAll holds the ends of a tree's lists, from each place, against those that there are.
 func endsAll(t *testing.T, tree api.Tree, text string) {
 	t.Helper()
-	in := made(t, text)
+	in := Made(t, text)
 	for at, want := range reaches(tree, in) {
 		have := make([]bool, in.Len()+1)
 		for _, fit := range listed(t, tree, 2, in, at) {
@@ -136,7 +136,7 @@ func TestReach(t *testing.T) {
 		"(a*)*", "(a*)+b", "(|a)+", "(?:a*?)*", "(a|ab)*(c|bcd)?", "(?:a|aa|ab|b)*", "(?:(?:a|b)*c?)*", "(?:a{2}|b{1,2}|(?:ab){2,})*", "(?:a{3}|a{5})*", "(?:a{3}|a{5}){2,}?", "(?:aa){0,7}", "((a?){3}b?){2,4}", "(?:(?:a{2,3}){2,3}){1,2}", "(?:a+|b+)+?c", `(?:\b\w+\b|\W)*`, `(?m)(?:^.*$|\n)*`, "(?:[ab]{2})*", "(?:.*b)?.*a", "(?s)(?:.{3})*", "(?:(a*)(b*))*c?", "(?:(?:a??)+?(?:b|)+)*?", "(?:a|b|ab|ba|aab){3,9}", "(?:(?:(?:a?)*b?)+c?)*?d?",
 	} {
 		for _, text := range texts {
-			endsAll(t, read(t, pattern), text)
+			endsAll(t, Parsed(t, pattern), text)
 		}
 	}
 	for n, each := range []int{1, 1, 23, 1201} {

@@ -11,7 +11,7 @@ import (
 
 // TestMisshapen: D1, rule P2: of trees that are not shaped, of each kind, there is nothing.
 func TestMisshapen(t *testing.T) {
-	in := made(t, "ab")
+	in := Made(t, "ab")
 	for _, bad := range Misshapen() {
 		if trees.Shaped(bad) {
 			t.Error(Shown(bad))
@@ -46,7 +46,7 @@ func TestNoInput(t *testing.T) {
 // TestNoPlaces: from what is no place there is nothing, but that Find begins at 0 below it: so finds holds it, too.
 func TestNoPlaces(t *testing.T) {
 	for _, text := range []string{"", "a", "é\xff", "世界"} {
-		in := made(t, text)
+		in := Made(t, text)
 		for _, at := range []int{in.Len() + 1, in.Len() + 2, in.Len() + 64, math.MaxInt32, math.MaxInt - 1, math.MaxInt} {
 			for _, tree := range []api.Tree{Empty(), Star(Set(0, 0x10ffff)), Cat(), At(api.AtEnd), At(api.AtNoWord), Group(1, "", Empty())} {
 				nothing(t, tree, 1, in, at)
@@ -66,7 +66,7 @@ func TestNoPlaces(t *testing.T) {
 
 // TestSeveralWrongs: a tree, groups, an input and a place that may not be, in any sum, are nothing.
 func TestSeveralWrongs(t *testing.T) {
-	in := made(t, "aa")
+	in := Made(t, "aa")
 	for _, tree := range []api.Tree{Empty(), {}, Star(None()), Letter(-1)} {
 		for _, groups := range []int{0, -1, 2001} {
 			for _, at := range []int{0, 1, 3} {

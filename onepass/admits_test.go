@@ -15,7 +15,7 @@ func TestPatterns(t *testing.T) {
 		"^a*", "^a+", "^a?", "^a*?", "^a+?", "^a??", "^a*b", "^a+b", "^a?b", "^a*?b", "^(?:a|b)*c", "^(a|b)+?c", "^(?:a*b)*c", "^a{3}", "^a{2,4}b", "^a*$", "^[a-c]*[d-f]", "^[^x]*x", "^(?s:.)*$", `^.*\n`, "^(?i:k)(?i:s)", "^(?:a(?:b(?:c)?)?)?d",
 		`^[^\x{0}-\x{10ffff}]`, `[^\x{0}-\x{10ffff}]`, `(?:^a|[^\x{0}-\x{10ffff}])`,
 	} {
-		_, p := read(t, pattern)
+		p := ProgOf(t, pattern)
 		admits(t, p, true)
 	}
 	for _, patterns := range [][]string{
@@ -24,7 +24,7 @@ func TestPatterns(t *testing.T) {
 		{"", "a", "a^", "a|b", "^a|b", "a|^b", "(?:^|a)b", "a?^b", "(?:a|)^b", "(?m:^)a", "(?m:^a)", "$", "$a", `\b`, `\Ba`, "()", "a*", "^*a", "^?a", "(?:^a)?", "(?:^a)*"},
 	} {
 		for _, pattern := range patterns {
-			_, p := read(t, pattern)
+			p := ProgOf(t, pattern)
 			admits(t, p, false)
 		}
 	}

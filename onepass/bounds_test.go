@@ -30,16 +30,16 @@ func TestRow(t *testing.T) {
 	letters := strings.Repeat("a", n)
 	reads := row(n, func(pc int) api.Inst { return Read(pc+1, 'a', 'a') })
 	admits(t, reads, true)
-	bothMatch(t, reads, made(t, letters), fit(n, -1, -1))
-	bothMatch(t, reads, made(t, letters+"ab"), fit(n, -1, -1))
-	bothMatch(t, reads, made(t, letters[1:]), nil)
+	bothMatch(t, reads, Made(t, letters), fit(n, -1, -1))
+	bothMatch(t, reads, Made(t, letters+"ab"), fit(n, -1, -1))
+	bothMatch(t, reads, Made(t, letters[1:]), nil)
 	keeps := row(n, func(pc int) api.Inst { return Keep(2+pc%2, pc+1) })
 	admits(t, keeps, true)
-	bothMatch(t, keeps, made(t, letters), fit(0, 0, 0))
+	bothMatch(t, keeps, Made(t, letters), fit(0, 0, 0))
 	stands := row(n, func(pc int) api.Inst { return Stand(SixAts()[pc%5], pc+1) })
 	admits(t, stands, true)
-	bothMatch(t, stands, made(t, ""), nil)
-	bothMatch(t, row(n, func(pc int) api.Inst { return Stand(SixAts()[pc%4], pc+1) }), made(t, ""), fit(0, -1, -1))
+	bothMatch(t, stands, Made(t, ""), nil)
+	bothMatch(t, row(n, func(pc int) api.Inst { return Stand(SixAts()[pc%4], pc+1) }), Made(t, ""), fit(0, -1, -1))
 	admits(t, row(n+1, func(pc int) api.Inst { return Read(pc+1, 'a', 'a') }), false)
 	// Of the last two, one is come to from both.
 	reads.Insts[most-2] = Fork(most-1, most-1)
@@ -52,10 +52,10 @@ func TestRing(t *testing.T) {
 	admits(t, p, false)
 	p.Insts[5000] = Read(5001, 'a', 'a')
 	admits(t, p, true)
-	bothMatch(t, p, made(t, "aaa"), nil)
+	bothMatch(t, p, Made(t, "aaa"), nil)
 	p.Insts[5001] = Fork(5002, most-1)
 	admits(t, p, true)
-	bothMatch(t, p, made(t, "aaa"), fit(3, 2, 2)) // the ring was gone round ahead of the last rune
+	bothMatch(t, p, Made(t, "aaa"), fit(3, 2, 2)) // the ring was gone round ahead of the last rune
 	p.Insts[5003] = Fork(5004, 5001)
 	admits(t, p, false)
 }
@@ -85,7 +85,7 @@ func TestWide(t *testing.T) {
 	for i := range rune(300) {
 		text += string(0x100 + 2*((7*i*i)%n))
 	}
-	bothMatch(t, p, made(t, text+"a"), fit(300, -1, -1))
+	bothMatch(t, p, Made(t, text+"a"), fit(300, -1, -1))
 	p.Insts[n+50].Set = Ranges(0x100+2*77, 0x100+2*77)
 	admits(t, p, false)
 }
@@ -103,7 +103,7 @@ func TestManyPlaces(t *testing.T) {
 	admits(t, forks, false) // they are a ring
 	forks.Insts[n] = Fork(2*n, 2*n+1)
 	admits(t, forks, true)
-	bothMatch(t, forks, made(t, string([]rune{n + 5, n + 6, n + 9, n + 8, n + 9})), fit(3, -1, -1))
+	bothMatch(t, forks, Made(t, string([]rune{n + 5, n + 6, n + 9, n + 8, n + 9})), fit(3, -1, -1))
 }
 
 // TestManyRanges: H1: sets of many ranges, that lie between one another; and one that stands in all instructions.
@@ -118,7 +118,7 @@ func TestManyRanges(t *testing.T) {
 		p.Insts[n+i].Set = set
 	}
 	admits(t, p, true)
-	bothMatch(t, p, made(t, string([]rune{0x400, 0x401, 0x404, 0x403 + 3*n, 0x402})), fit(4, -1, -1))
+	bothMatch(t, p, Made(t, string([]rune{0x400, 0x401, 0x404, 0x403 + 3*n, 0x402})), fit(4, -1, -1))
 	p.Insts[n+7].Set = append(slices.Clone(sets[7]), Ranges(0x20000, 0x20000)...)
 	admits(t, p, true)
 	p.Insts[n+9].Set = append(slices.Clone(sets[9]), Ranges(0x20000, 0x20000)...)
@@ -136,7 +136,7 @@ func TestManyRanges(t *testing.T) {
 	}
 	two := Program(Stand(api.AtBegin, 1), Fork(2, 3), api.Inst{Op: api.InstSet, Set: odd, Out: 1}, Read(1, 0, 0), Match())
 	admits(t, two, true)
-	bothMatch(t, two, made(t, "a"), nil)
+	bothMatch(t, two, Made(t, "a"), nil)
 	two.Insts[3].Set = Ranges(0x10ffff, 0x10ffff)
 	admits(t, two, false)
 }
@@ -156,13 +156,13 @@ func TestMostGroups(t *testing.T) {
 	for i := 2; i < caps-2; i++ {
 		want = append(want, i)
 	}
-	bothMatch(t, p, made(t, strings.Repeat("a", caps)), want)
-	bothMatch(t, p, made(t, strings.Repeat("a", caps-1)), nil)
+	bothMatch(t, p, Made(t, strings.Repeat("a", caps)), want)
+	bothMatch(t, p, Made(t, strings.Repeat("a", caps-1)), nil)
 	loop := row(2, func(pc int) api.Inst { return []api.Inst{{}, Fork(2, 3), Read(1, 'a', 'a')}[pc] })
 	loop.Caps = caps
 	want = slices.Repeat([]int{-1}, caps)
 	want[0], want[1] = 0, 2000
-	bothMatch(t, loop, made(t, strings.Repeat("a", 2000)), want)
+	bothMatch(t, loop, Made(t, strings.Repeat("a", 2000)), want)
 }
 
 // TestLongText: H2: texts of MaxText bytes, whose ends both modes find, or only one.
@@ -177,8 +177,8 @@ func TestLongText(t *testing.T) {
 
 // TestEarly: H2: steps are taken as far as the walk goes alone.
 func TestEarly(t *testing.T) {
-	_, p := read(t, "^abc")
-	short, long := made(t, "abx"), made(t, "abx"+strings.Repeat("abc", 20000))
+	p := ProgOf(t, "^abc")
+	short, long := Made(t, "abx"), Made(t, "abx"+strings.Repeat("abc", 20000))
 	bothMatch(t, p, short, nil)
 	bothMatch(t, p, long, nil)
 	_, _, few := onepass.Match(p, short, false)

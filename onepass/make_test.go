@@ -6,13 +6,9 @@ import (
 	"testing"
 
 	"martello/api"
-	"martello/compile"
 	"martello/inputs"
 	"martello/onepass"
 	. "martello/samples"
-	"martello/simplify"
-	"martello/syntax"
-	"martello/trees"
 )
 
 // The calls of the chapter, by their signatures.
@@ -20,40 +16,6 @@ var (
 	_ func(api.Prog) bool                                    = onepass.Admits
 	_ func(api.Prog, *inputs.Input, bool) ([]int, bool, int) = onepass.Match
 )
-
-// made is the input of a text, of one of the kinds.
-func made(t *testing.T, text string) *inputs.Input {
-	t.Helper()
-	kinds := []api.Kind{api.KindText, api.KindBytes, api.KindReader}
-	in, e := inputs.New(kinds[len(text)%len(kinds)], []byte(text))
-	if e != api.OK {
-		t.Fatalf("New of %.40q: %v", text, e)
-	}
-	return in
-}
-
-// compiled is the program of a shaped tree, made plain if it is right, with places for so many groups.
-func compiled(t *testing.T, tree api.Tree, groups int) api.Prog {
-	t.Helper()
-	if trees.Right(tree) {
-		tree = simplify.Simple(tree)
-	}
-	p, e := compile.Compile(tree, groups)
-	if e != api.OK {
-		t.Fatalf("Compile of %.400s: %v", Shown(tree), e)
-	}
-	return p
-}
-
-// read is the tree of a pattern, and the program of it with all its groups.
-func read(t *testing.T, pattern string) (api.Tree, api.Prog) {
-	t.Helper()
-	tree, wrong := syntax.Parse(pattern, api.FlagPerl)
-	if wrong.E != api.OK {
-		t.Fatalf("Parse of %q: %+v", pattern, wrong)
-	}
-	return tree, compiled(t, tree, len(trees.Caps(tree))-1)
-}
 
 // shown is a program, or a fit, as a text, which ends where it is long.
 func shown(x any) string { return fmt.Sprintf("%.400s", fmt.Sprint(x)) }
@@ -65,8 +27,8 @@ func admits(t *testing.T, p api.Prog, want bool) {
 		t.Errorf("Admits of %s: %t", shown(p), is)
 	}
 	if !want {
-		tellsNothing(t, p, made(t, ""))
-		tellsNothing(t, p, made(t, "ab"))
+		tellsNothing(t, p, Made(t, ""))
+		tellsNothing(t, p, Made(t, "ab"))
 	}
 	tellsNothing(t, p, nil)
 }
@@ -113,7 +75,7 @@ func behindBegin(p api.Prog) api.Prog {
 // TestExamples: the chapter's table.
 func TestExamples(t *testing.T) {
 	for pattern, want := range map[string]bool{"^a(b*)c": true, "a": false, "^a*a": false, "^(?:a|ab)": false} {
-		_, p := read(t, pattern)
+		p := ProgOf(t, pattern)
 		admits(t, p, want)
 	}
 }

@@ -10,10 +10,10 @@ import (
 // fits holds Match of an admitted pattern in a text, in both modes.
 func fits(t *testing.T, pattern, text string, first, farthest []int) {
 	t.Helper()
-	_, p := read(t, pattern)
+	p := ProgOf(t, pattern)
 	admits(t, p, true)
-	matches(t, p, made(t, text), false, first)
-	matches(t, p, made(t, text), true, farthest)
+	matches(t, p, Made(t, text), false, first)
+	matches(t, p, Made(t, text), true, farthest)
 }
 
 // bothFit is fits where both modes tell the same.
@@ -79,28 +79,28 @@ func TestModes(t *testing.T) {
 func TestMatchAhead(t *testing.T) {
 	p := Program(Stand(api.AtBegin, 1), Fork(2, 3), Read(5, 'a', 'a'), Fork(4, 6), Keep(2, 5), Match(), Read(5, 'b', 'b'))
 	admits(t, p, true)
-	bothMatch(t, p, made(t, "a"), []int{0, 1, -1, -1})
-	matches(t, p, made(t, "b"), false, []int{0, 0, 0, -1})
-	matches(t, p, made(t, "b"), true, []int{0, 1, -1, -1})
-	bothMatch(t, p, made(t, "c"), []int{0, 0, 0, -1})
-	bothMatch(t, p, made(t, ""), []int{0, 0, 0, -1})
+	bothMatch(t, p, Made(t, "a"), []int{0, 1, -1, -1})
+	matches(t, p, Made(t, "b"), false, []int{0, 0, 0, -1})
+	matches(t, p, Made(t, "b"), true, []int{0, 1, -1, -1})
+	bothMatch(t, p, Made(t, "c"), []int{0, 0, 0, -1})
+	bothMatch(t, p, Made(t, ""), []int{0, 0, 0, -1})
 }
 
 // TestKept: H2: what a way keeps is its own: not that of a way beside it, or of one that ends; kept twice, the later one.
 func TestKept(t *testing.T) {
 	// 2 keeps, and fails; 3 keeps nothing, and matches.
 	p := Program(Stand(api.AtBegin, 1), Fork(2, 3), Keep(2, 4), Match(), Fail())
-	bothMatch(t, p, made(t, "a"), []int{0, 0, -1, -1})
+	bothMatch(t, p, Made(t, "a"), []int{0, 0, -1, -1})
 	p = Program(Stand(api.AtBegin, 1), Fork(2, 3), Keep(2, 4), Keep(3, 5), Read(6, 'a', 'a'), Read(6, 'b', 'b'), Match())
-	bothMatch(t, p, made(t, "a"), []int{0, 1, 0, -1})
-	bothMatch(t, p, made(t, "b"), []int{0, 1, -1, 0})
+	bothMatch(t, p, Made(t, "a"), []int{0, 1, 0, -1})
+	bothMatch(t, p, Made(t, "b"), []int{0, 1, -1, 0})
 	p = Program(Stand(api.AtBegin, 1), Keep(2, 2), Keep(2, 3), Read(4, 'a', 'a'), Keep(2, 5), Fork(6, 7), Read(4, 'b', 'b'), Keep(3, 8), Match())
-	bothMatch(t, p, made(t, "abbc"), []int{0, 3, 3, 3})
-	bothMatch(t, p, made(t, "c"), nil)
+	bothMatch(t, p, Made(t, "abbc"), []int{0, 3, 3, 3})
+	bothMatch(t, p, Made(t, "c"), nil)
 	// What is kept where the way begins, and behind a condition that holds, or does not.
 	p = Program(Keep(2, 1), Stand(api.AtBegin, 2), Fork(3, 4), Stand(api.AtEnd, 5), Read(6, 'a', 'a'), Keep(3, 6), Match())
-	bothMatch(t, p, made(t, ""), []int{0, 0, 0, 0})
-	bothMatch(t, p, made(t, "a"), []int{0, 1, 0, -1})
+	bothMatch(t, p, Made(t, ""), []int{0, 0, 0, 0})
+	bothMatch(t, p, Made(t, "a"), []int{0, 1, 0, -1})
 }
 
 // TestPlaces: H2: each of the six at each place of a text.
@@ -109,7 +109,7 @@ func TestPlaces(t *testing.T) {
 	for _, at := range SixAts() {
 		p := Program(Stand(api.AtBegin, 1), Fork(2, 3), Read(1, 0, 0x10ffff), Stand(at, 4), Match())
 		admits(t, p, true)
-		in := made(t, text)
+		in := Made(t, text)
 		last := 0
 		for place := range in.Len() + 1 {
 			if in.At(place)&at != 0 {

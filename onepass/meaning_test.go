@@ -16,13 +16,13 @@ func asMeant(t *testing.T, tree api.Tree, texts ...string) bool {
 	t.Helper()
 	admitted := false
 	for groups := range len(trees.Caps(tree)) {
-		p := compiled(t, tree, groups)
+		p := Compiled(t, tree, groups)
 		if !onepass.Admits(p) {
 			continue
 		}
 		admitted = true
 		for _, text := range texts {
-			in := made(t, text)
+			in := Made(t, text)
 			for _, longest := range []bool{false, true} {
 				want, is := denote.Match(tree, groups, in, 0, longest)
 				if !is {
@@ -72,15 +72,15 @@ func TestRows(t *testing.T) {
 			tree = Numbered(Cat(append([]api.Tree{At(api.AtBegin)}, row.Kids...)...))
 		}
 		for groups := range len(trees.Caps(tree)) + 1 {
-			admits(t, compiled(t, tree, groups), true)
+			admits(t, Compiled(t, tree, groups), true)
 		}
 		if !asMeant(t, tree, texts[trees.Weight(tree)%2:]...) || t.Failed() {
 			t.Fatal(Shown(tree))
 		}
 	}
 	for _, pattern := range []string{`\A`, `\Aa`, `\Aabc`, `\A(a)`, `\A()`, `\A(a)(b)`, `\A((a)b(c(d)))`, `\A\x{10ffff}(é)`, `\Aaaaa(aa(aa))`, `\A(?P<x>k)(?P<y>K)`} {
-		tree, p := read(t, pattern)
-		admits(t, p, true)
+		tree := Parsed(t, pattern)
+		admits(t, ProgOf(t, pattern), true)
 		asMeant(t, tree, "", "a", "abc", "abcd", "kK", "aaaaaaaa")
 	}
 }
@@ -123,18 +123,18 @@ func TestMeaningOfGroups(t *testing.T) {
 	for _, tree := range Misnumbered() {
 		tree = Cat(At(api.AtBegin), tree)
 		for groups := range 4 {
-			p := compiled(t, tree, groups)
+			p := Compiled(t, tree, groups)
 			if !onepass.Admits(p) {
 				continue
 			}
 			some++
 			for _, text := range []string{"", "a", "aaa", "baa"} {
 				for _, longest := range []bool{false, true} {
-					want, is := denote.Match(tree, groups, made(t, text), 0, longest)
+					want, is := denote.Match(tree, groups, Made(t, text), 0, longest)
 					if !is {
 						want = nil
 					}
-					matches(t, p, made(t, text), longest, want)
+					matches(t, p, Made(t, text), longest, want)
 				}
 			}
 		}

@@ -15,7 +15,7 @@ import (
 func memoryProgs(t *testing.T) []api.Prog {
 	all := []api.Prog{{}, EachOp(), behindBegin(EachOp()), Program(Read(9, 'a', 'a')), {Insts: []api.Inst{Fork(0, 0)}, Caps: 3}}
 	for _, pattern := range []string{"^a(b*)c", "^(a)*?", "^(?:(a)|(b)|[c-x])*", "^$", "a", "^a*a", "^((a)b(c(d)?)?)?", `^[^\x{0}-\x{10ffff}]`, "^[^b]*(b)"} {
-		_, p := read(t, pattern)
+		p := ProgOf(t, pattern)
 		all = append(all, p)
 	}
 	return all
@@ -23,7 +23,7 @@ func memoryProgs(t *testing.T) []api.Prog {
 
 // memoryInputs are inputs of all kinds, and none.
 func memoryInputs(t *testing.T) []*inputs.Input {
-	return []*inputs.Input{nil, made(t, ""), made(t, "abbc"), made(t, "aab"), made(t, "\xffab"), made(t, "abcdabcd")}
+	return []*inputs.Input{nil, Made(t, ""), Made(t, "abbc"), Made(t, "aab"), Made(t, "\xffab"), Made(t, "abcdabcd")}
 }
 
 // answers are all that is told of a program, as a text, and its fits.
@@ -37,15 +37,6 @@ func answers(p api.Prog, ins []*inputs.Input) (text string, fits [][]int) {
 		}
 	}
 	return text, fits
-}
-
-// fill writes over fits, and their spare room.
-func fill(fits [][]int) {
-	for _, fit := range fits {
-		for i := range fit[:cap(fit)] {
-			fit[:cap(fit)][i] = -77
-		}
-	}
 }
 
 // TestUnchanged: rule P3: programs, and their spare room, and inputs stay as they were, while they are asked, and when what was told is written over.
@@ -63,7 +54,7 @@ func TestUnchanged(t *testing.T) {
 			if now := shownInputs(ins); now != was {
 				t.Errorf("%s; was %s", now, was)
 			}
-			fill(fits)
+			Fill(fits, -77)
 		}
 	}
 }
@@ -92,9 +83,9 @@ func TestNotKept(t *testing.T) {
 		}
 	}
 	p := Program(Stand(api.AtBegin, 1), Read(2, 'a', 'a'), Match())
-	bothMatch(t, p, made(t, "a"), []int{0, 1, -1, -1})
+	bothMatch(t, p, Made(t, "a"), []int{0, 1, -1, -1})
 	p.Insts[1].Set[0] = api.Range{Lo: 'b', Hi: 'b'}
-	bothMatch(t, p, made(t, "a"), nil)
+	bothMatch(t, p, Made(t, "a"), nil)
 	p.Insts[1] = Fork(1, 2)
 	admits(t, p, false)
 }
@@ -105,15 +96,8 @@ func TestOwnLists(t *testing.T) {
 	for _, p := range memoryProgs(t) {
 		_, fits := answers(p, ins)
 		_, more := answers(p, ins)
-		seen := map[*int]bool{}
-		for _, fit := range slices.Concat(fits, more) {
-			for i := range fit[:cap(fit)] {
-				at := &fit[:cap(fit)][i]
-				if seen[at] {
-					t.Fatalf("%s: fits are shared", shown(p))
-				}
-				seen[at] = true
-			}
+		if !Apart(slices.Concat(fits, more)) {
+			t.Fatalf("%s: fits are shared", shown(p))
 		}
 	}
 }
@@ -125,7 +109,7 @@ func TestToldAgain(t *testing.T) {
 	for _, p := range all {
 		text, fits := answers(p, ins)
 		first = append(first, text)
-		fill(fits)
+		Fill(fits, -77)
 	}
 	for i, p := range slices.Backward(all) {
 		for _, p := range []api.Prog{p, RoomyProg(p)} {
@@ -141,7 +125,7 @@ func TestAtOnce(t *testing.T) {
 	all, ins := memoryProgs(t), memoryInputs(t)
 	if i := AtOnce(len(all), func(i int) string {
 		text, fits := answers(all[i], ins)
-		fill(fits)
+		Fill(fits, -77)
 		return text
 	}); i >= 0 {
 		t.Errorf("%s: told otherwise", shown(all[i]))

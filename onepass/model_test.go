@@ -74,7 +74,7 @@ func asModelled(t *testing.T, p api.Prog, texts ...string) bool {
 		return is
 	}
 	for _, text := range texts {
-		in := made(t, text)
+		in := Made(t, text)
 		for _, longest := range []bool{false, true} {
 			matches(t, p, in, longest, WalksMatch(p, in, 0, longest))
 		}
@@ -124,14 +124,7 @@ func TestMade(t *testing.T) {
 	some := 0
 	for n := 4; n <= 9; n++ {
 		for seed := range 1000 {
-			var insts []api.Inst
-			for i := range n {
-				x := seed*31 + i*(seed%7+3) + i*i
-				next, out := (i+1)%n, (x/5+i)%n
-				one := 'a' + rune(x/3)%4
-				insts = append(insts, []api.Inst{Fork(next, out), Read(next, one, one), Read(out, one, one), Keep(2+x%2, next), Match(), Fork(out, next), Read(next, 'a', one)}[x%7])
-			}
-			if asModelled(t, behindBegin(Program(insts...)), texts...) {
+			if asModelled(t, behindBegin(Ruled(n, seed)), texts...) {
 				some++
 			}
 			if t.Failed() {
@@ -147,7 +140,7 @@ func TestMade(t *testing.T) {
 // TestModel: the model itself, of the chapter's examples.
 func TestModel(t *testing.T) {
 	for pattern, want := range map[string]bool{"^a(b*)c": true, "a": false, "^a*a": false, "^(?:a|ab)": false} {
-		if _, p := read(t, pattern); modelAdmits(p) != want || onepass.Admits(p) != want {
+		if p := ProgOf(t, pattern); modelAdmits(p) != want || onepass.Admits(p) != want {
 			t.Error(pattern)
 		}
 	}

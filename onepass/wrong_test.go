@@ -25,8 +25,8 @@ func TestWrongPrograms(t *testing.T) {
 // TestNotAdmitted: H2, rule P2: of right programs that are not admitted nothing is told, though their walks have matches.
 func TestNotAdmitted(t *testing.T) {
 	for _, pattern := range []string{"", "a", "^a*a", "^(?:a|ab)", "^(a*)*", "(?m:^a)", "a|^b"} {
-		_, p := read(t, pattern)
-		in := made(t, "aaab")
+		p := ProgOf(t, pattern)
+		in := Made(t, "aaab")
 		if len(Walked(p, in, 0)) == 0 {
 			t.Errorf("%q: no match", pattern)
 		}
@@ -38,7 +38,7 @@ func TestNotAdmitted(t *testing.T) {
 // TestNoInput: H2: without an input nothing is told, whatever the program is.
 func TestNoInput(t *testing.T) {
 	for _, pattern := range []string{"^", "^a", "a", `^[^\x{0}-\x{10ffff}]`} {
-		_, p := read(t, pattern)
+		p := ProgOf(t, pattern)
 		tellsNothing(t, p, nil)
 	}
 	for _, p := range WrongPrograms() {
@@ -49,7 +49,7 @@ func TestNoInput(t *testing.T) {
 // TestNotMade: rule P1: an input that no call has made has no runes, and no call panics.
 func TestNotMade(t *testing.T) {
 	for _, pattern := range []string{"^", "^a", "^a*", "^(?:a|b)*$"} {
-		_, p := read(t, pattern)
+		p := ProgOf(t, pattern)
 		for _, longest := range []bool{false, true} {
 			onepass.Match(p, new(inputs.Input), longest)
 		}
@@ -59,8 +59,8 @@ func TestNotMade(t *testing.T) {
 // TestNoMatch: H2: no match is nothing and false, but steps were taken.
 func TestNoMatch(t *testing.T) {
 	for _, pattern := range []string{"^a", "^ab", "^$", `^[^\x{0}-\x{10ffff}]`, "^a*c"} {
-		_, p := read(t, pattern)
-		bothMatch(t, p, made(t, "xab"), nil)
+		p := ProgOf(t, pattern)
+		bothMatch(t, p, Made(t, "xab"), nil)
 	}
-	bothMatch(t, Program(Fail()), made(t, ""), nil)
+	bothMatch(t, Program(Fail()), Made(t, ""), nil)
 }

@@ -69,7 +69,7 @@ func TestWide(t *testing.T) {
 // TestLongTexts: F2: in the greatest texts, what stands at the end, nowhere, and everywhere but for one rune.
 func TestLongTexts(t *testing.T) {
 	text := strings.Repeat("a", api.MaxText-1) + "b"
-	in := made(t, text)
+	in := Made(t, text)
 	n := in.Len()
 	repeat := func(n int) []rune { return slices.Repeat([]rune{'a'}, n) }
 	stands(t, in, []rune("b"), 0, n-1)
@@ -95,7 +95,7 @@ func TestLongTexts(t *testing.T) {
 
 // TestTurnedTexts: F2: an input turned may have more bytes than a text may; places are those of its runes.
 func TestTurnedTexts(t *testing.T) {
-	in := made(t, "ab"+strings.Repeat("\xff", api.MaxText-2)).Turned()
+	in := Made(t, "ab"+strings.Repeat("\xff", api.MaxText-2)).Turned()
 	n := in.Len()
 	stands(t, in, []rune("ba"), 0, n-2)
 	stands(t, in, []rune{0xfffd, 'b'}, 0, n-3)

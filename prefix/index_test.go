@@ -41,7 +41,7 @@ func TestIndex(t *testing.T) {
 		{"é世é世x", "世x", 0, 3}, {"é世é世x", "世", 2, 3}, {"a\xffb\ufffd", "\ufffd", 0, 1}, {"a\xffb\ufffd", "\ufffd", 2, 3}, {"\xe4\xb8", "\ufffd\ufffd", 0, 0}, {"\u212ak", "k", 0, 1}, {"K", "k", 0, -1},
 		{"", "", 0, 0}, {"", "", -1, 0}, {"", "", 1, -1}, {"", "a", 0, -1}, {"ab", "", 0, 0}, {"ab", "", -7, 0}, {"ab", "", 1, 1}, {"ab", "", 2, 2}, {"ab", "", 3, -1},
 	} {
-		stands(t, made(t, x.text), []rune(x.what), x.from, x.want)
+		stands(t, Made(t, x.text), []rune(x.what), x.from, x.want)
 	}
 }
 
@@ -53,12 +53,12 @@ func TestShortTexts(t *testing.T) {
 	}
 	for _, text := range Texts(7, "a", "b") {
 		for _, l := range lists {
-			asIndexed(t, made(t, text), l)
+			asIndexed(t, Made(t, text), l)
 		}
 	}
 	for _, text := range Texts(5, "a", "é", "b") {
 		for _, l := range lists {
-			asIndexed(t, made(t, text), l)
+			asIndexed(t, Made(t, text), l)
 		}
 	}
 }
@@ -67,7 +67,7 @@ func TestShortTexts(t *testing.T) {
 func TestOddRunes(t *testing.T) {
 	odd := []rune{-1, -2, math.MinInt32, 0, 'a', 0xff, 0xd800, 0xdfff, 0xfffd, 0x10ffff, 0x110000, math.MaxInt32}
 	for _, text := range Texts(3, "\xff", "a", "\ufffd", "\x00", "\U0010ffff", "\xed\xa0\x80") {
-		in := made(t, text)
+		in := Made(t, text)
 		for _, c := range odd {
 			asIndexed(t, in, []rune{c})
 			for _, d := range odd {
@@ -76,9 +76,9 @@ func TestOddRunes(t *testing.T) {
 		}
 	}
 	for _, c := range []rune{-1, math.MinInt32, 0x110000} {
-		stands(t, made(t, "ab"), []rune{'b', c}, 0, -1)
-		stands(t, made(t, "ab"), []rune{c, 'a'}, 0, -1)
-		stands(t, made(t, ""), []rune{c}, 0, -1)
+		stands(t, Made(t, "ab"), []rune{'b', c}, 0, -1)
+		stands(t, Made(t, "ab"), []rune{c, 'a'}, 0, -1)
+		stands(t, Made(t, ""), []rune{c}, 0, -1)
 	}
 }
 
@@ -94,7 +94,7 @@ func repeating() []string {
 // TestWhatStands: P14.3: Index of what stands at a place is no greater than it; from there it is just that.
 func TestWhatStands(t *testing.T) {
 	for _, text := range repeating() {
-		in := made(t, text)
+		in := Made(t, text)
 		for i := range in.Len() + 1 {
 			for j := i; j <= in.Len(); j++ {
 				l := between(in, i, j)
@@ -114,7 +114,7 @@ func TestWhatStands(t *testing.T) {
 // TestRepeating: P14.1 of F2: what stands in such texts, with one rune of it another one.
 func TestRepeating(t *testing.T) {
 	for _, text := range repeating() {
-		in := made(t, text)
+		in := Made(t, text)
 		for i := 0; i < in.Len(); i += 3 {
 			for j := i; j <= in.Len(); j += 2 {
 				l := between(in, i, j)
@@ -134,7 +134,7 @@ func TestRepeating(t *testing.T) {
 // TestKinds: rule P3: an input's kind changes nothing.
 func TestKinds(t *testing.T) {
 	for _, text := range []string{"", "abcabc", "é\xffaé\xff"} {
-		for _, k := range kinds {
+		for _, k := range Kinds() {
 			in, e := inputs.New(k, []byte(text))
 			if e != api.OK {
 				t.Fatal(e)

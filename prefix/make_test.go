@@ -9,7 +9,6 @@ import (
 	"martello/inputs"
 	"martello/prefix"
 	. "martello/samples"
-	"martello/syntax"
 )
 
 // The calls of the chapter, by their signatures.
@@ -17,28 +16,6 @@ var (
 	_ func(api.Tree) ([]rune, bool)        = prefix.Prefix
 	_ func(*inputs.Input, []rune, int) int = prefix.Index
 )
-
-// kinds are all that there are.
-var kinds = []api.Kind{api.KindText, api.KindBytes, api.KindReader}
-
-func made(t *testing.T, text string) *inputs.Input {
-	t.Helper()
-	in, e := inputs.New(kinds[len(text)%len(kinds)], []byte(text))
-	if e != api.OK {
-		t.Fatalf("New of %.40q: %v", text, e)
-	}
-	return in
-}
-
-// read is the tree of a pattern.
-func read(t *testing.T, pattern string) api.Tree {
-	t.Helper()
-	tree, wrong := syntax.Parse(pattern, api.FlagPerl)
-	if wrong.E != api.OK {
-		t.Fatalf("Parse of %q: %+v", pattern, wrong)
-	}
-	return tree
-}
 
 // brief is a tree as a text; of a great one its Op, and how many Kids it has.
 func brief(tree api.Tree) string {

@@ -26,7 +26,7 @@ func fits(t *testing.T, tree api.Tree, texts ...string) (n int) {
 	t.Helper()
 	l, exact := prefix.Prefix(tree)
 	for _, text := range texts {
-		in := made(t, text)
+		in := Made(t, text)
 		for at := range in.Len() + 1 {
 			list := denote.List(tree, 0, in, at)
 			n += len(list)

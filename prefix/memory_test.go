@@ -82,7 +82,7 @@ func TestToldAgain(t *testing.T) {
 
 // TestIndexUnchanged: rule P3: the input and the list, and its spare room, stay as they were, and what is told hangs on them alone.
 func TestIndexUnchanged(t *testing.T) {
-	in := made(t, "abac\xffab")
+	in := Made(t, "abac\xffab")
 	was := fmt.Sprint(*in)
 	for _, s := range append(Texts(3, "a", "b"), "\ufffda", "abac\ufffdab") {
 		room := append([]rune(s), 'a', 'b', 'a')
@@ -90,7 +90,7 @@ func TestIndexUnchanged(t *testing.T) {
 		for _, from := range []int{-1, 0, 3, 7, 8} {
 			want := modelIndex(in, l, from)
 			stands(t, in, l, from, want)
-			stands(t, made(t, "bbbb"), []rune("b"), 0, 0)
+			stands(t, Made(t, "bbbb"), []rune("b"), 0, 0)
 			stands(t, in, l, from, want)
 		}
 		if !slices.Equal(room, before) || fmt.Sprint(*in) != was {
@@ -101,7 +101,7 @@ func TestIndexUnchanged(t *testing.T) {
 
 // TestListNotKept: rule P3: a list may be written over, and be asked anew.
 func TestListNotKept(t *testing.T) {
-	in := made(t, "abcab")
+	in := Made(t, "abcab")
 	l := []rune("ab")
 	stands(t, in, l, 1, 3)
 	copy(l, []rune("bc"))
@@ -113,7 +113,7 @@ func TestListNotKept(t *testing.T) {
 
 // TestAtOnce: rule P3: calls at the same time, of the same trees and the same input, tell what they tell one by one.
 func TestAtOnce(t *testing.T) {
-	all, in := memoryTrees(), made(t, "abac\xffab")
+	all, in := memoryTrees(), Made(t, "abac\xffab")
 	if i := AtOnce(len(all), func(i int) string { return both(all[i], in) }); i >= 0 {
 		t.Errorf("%s: told otherwise", Shown(all[i]))
 	}

@@ -10,9 +10,9 @@ import (
 
 // TestExamples: the chapter's table.
 func TestExamples(t *testing.T) {
-	begins(t, read(t, "ab(c)d*"), "abc", false)
-	begins(t, read(t, "(ab)c"), "abc", true)
-	begins(t, read(t, "a+b"), "a", false)
+	begins(t, Parsed(t, "ab(c)d*"), "abc", false)
+	begins(t, Parsed(t, "(ab)c"), "abc", true)
+	begins(t, Parsed(t, "a+b"), "a", false)
 }
 
 // TestLeaves: F1: each Op without Kids.
@@ -121,6 +121,6 @@ func TestPatterns(t *testing.T) {
 		{"", "", true}, {"a", "a", true}, {"é世\n", "é世\n", true}, {`\x{41}\.\n`, "A.\n", true}, {`\Qa*b\E`, "a*b", true}, {"(?:ab)", "ab", true}, {"()", "", true}, {"(a)(b)", "ab", true}, {"(?P<x>a(b)c)d", "abcd", true}, {"(?:)a(?:)", "a", true}, {"((((a))))", "a", true},
 		{"^ab", "", false}, {"ab$", "ab", false}, {`\Aab\z`, "", false}, {`a\bb`, "a", false}, {"a.b", "a", false}, {"a[b]c", "a", false}, {"a|b", "", false}, {"ab|ab", "", false}, {"a(?:b|b)", "a", false}, {"(ab)*", "", false}, {"ab*", "a", false}, {"ab+c", "ab", false}, {"(ab)+c", "ab", false}, {"(a(b)+?c)d", "ab", false}, {"ab?", "a", false}, {"ab{2}c", "ab", false}, {"a(?:bc){2,}", "abc", false}, {"a(?:bc){0,3}", "a", false}, {"ab{1}c", "ab", false}, {"(?:ab{2}c){3}d", "ab", false}, {"(?i)1a", "1", false}, {"(?i)12", "12", true}, {"1(?i:k)2", "1", false}, {`[^\x{0}-\x{10ffff}]a`, "", false}, {`a\PL`, "a", false},
 	} {
-		begins(t, read(t, x.pattern), x.want, x.exact)
+		begins(t, Parsed(t, x.pattern), x.want, x.exact)
 	}
 }

@@ -41,8 +41,8 @@ func TestEmptyLists(t *testing.T) {
 	begins(t, api.Tree{Op: api.OpCat, Kids: []api.Tree{}}, "", true)
 	begins(t, api.Tree{Op: api.OpEmpty, Kids: make([]api.Tree, 0, 3)}, "", true)
 	begins(t, api.Tree{Op: api.OpAlt, Kids: []api.Tree{}}, "", false) // no tree
-	stands(t, made(t, "a"), nil, 0, 0)
-	stands(t, made(t, "a"), []rune{}, 1, 1)
+	stands(t, Made(t, "a"), nil, 0, 0)
+	stands(t, Made(t, "a"), []rune{}, 1, 1)
 }
 
 // TestNoInput: F2: without an input nothing stands anywhere, not even nothing.

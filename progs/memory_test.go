@@ -56,15 +56,6 @@ func answers(p api.Prog, lists [][]int) (text string, outs [][]int, runes [][]ru
 	return text, outs, runes
 }
 
-// fill writes over lists, and their spare room.
-func fill[Item any](lists [][]Item, with Item) {
-	for _, list := range lists {
-		for i := range list[:cap(list)] {
-			list[:cap(list)][i] = with
-		}
-	}
-}
-
 // TestUnchanged: rule P3: what is handed in, and its spare room, stays as it was, while it is asked, and when what was told is written over.
 func TestUnchanged(t *testing.T) {
 	for _, p := range memoryProgs() {
@@ -83,8 +74,8 @@ func TestUnchanged(t *testing.T) {
 					t.Errorf("%s; was %s", now, room(list))
 				}
 			}
-			fill(outs, -77)
-			fill(runes, -77)
+			Fill(outs, -77)
+			Fill(runes, -77)
 		}
 	}
 	l := roomy([]rune{5, 1, 3}, 0, 9)
@@ -100,7 +91,7 @@ func TestNotKept(t *testing.T) {
 		lists := memoryPcs()
 		_, outs, runes := answers(p, lists)
 		before := fmt.Sprint(outs, runes)
-		fill(lists, 3)
+		Fill(lists, 3)
 		SpoilProg(p)
 		if now := fmt.Sprint(outs, runes); now != before {
 			t.Errorf("%s; was %s", now, before)
@@ -114,15 +105,8 @@ func TestOwnLists(t *testing.T) {
 		lists := memoryPcs()
 		_, outs, _ := answers(p, lists)
 		_, more, _ := answers(p, lists)
-		seen := map[*int]bool{}
-		for _, list := range slices.Concat(lists, outs, more) {
-			for i := range list[:cap(list)] {
-				if at := &list[:cap(list)][i]; seen[at] {
-					t.Fatalf("%s: lists are shared", shown(p))
-				} else {
-					seen[at] = true
-				}
-			}
+		if !Apart(slices.Concat(lists, outs, more)) {
+			t.Fatalf("%s: lists are shared", shown(p))
 		}
 	}
 }
@@ -134,8 +118,8 @@ func TestToldAgain(t *testing.T) {
 	for _, p := range list {
 		text, outs, runes := answers(p, memoryPcs())
 		first = append(first, text)
-		fill(outs, 1)
-		fill(runes, 'b')
+		Fill(outs, 1)
+		Fill(runes, 'b')
 	}
 	for i, p := range slices.Backward(list) {
 		if again, _, _ := answers(p, memoryPcs()); again != first[i] {
@@ -149,8 +133,8 @@ func TestAtOnce(t *testing.T) {
 	list, pcs := memoryProgs(), memoryPcs()
 	if i := AtOnce(len(list), func(i int) string {
 		text, outs, runes := answers(list[i], pcs)
-		fill(outs, 5)
-		fill(runes, 5)
+		Fill(outs, 5)
+		Fill(runes, 5)
 		return text
 	}); i >= 0 {
 		t.Errorf("%s: told otherwise", shown(list[i]))

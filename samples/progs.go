@@ -63,6 +63,18 @@ func SmallPrograms(n, each int, list []api.Inst, yield func(api.Prog)) {
 	}
 }
 
+// Ruled is a program of n instructions that hang together by a rule, most of which fork and read; there are some thousands, each by its seed.
+func Ruled(n, seed int) api.Prog {
+	var insts []api.Inst
+	for i := range n {
+		x := seed*31 + i*(seed%7+3) + i*i
+		next, out := (i+1)%n, (x/5+i)%n
+		one := 'a' + rune(x/3)%4
+		insts = append(insts, []api.Inst{Fork(next, out), Read(next, one, one), Read(out, one, one), Keep(2+x%2, next), Match(), Fork(out, next), Read(next, 'a', one)}[x%7])
+	}
+	return Program(insts...)
+}
+
 // WrongPrograms are programs that are not right, each for one thing.
 func WrongPrograms() []api.Prog {
 	all := []api.Prog{{}, {Caps: 2}, {Insts: []api.Inst{}, Caps: 2}, {Insts: slices.Repeat([]api.Inst{Match()}, api.MaxInsts+1), Caps: 2}}

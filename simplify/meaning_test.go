@@ -6,7 +6,6 @@ import (
 
 	"martello/api"
 	"martello/denote"
-	"martello/inputs"
 	. "martello/samples"
 	"martello/simplify"
 	"martello/trees"
@@ -17,10 +16,7 @@ func fitsAlike(t *testing.T, tree api.Tree, texts ...string) {
 	t.Helper()
 	told, groups := simplify.Simple(tree), len(trees.Caps(tree))-1
 	for _, text := range texts {
-		in, e := inputs.New(api.KindText, []byte(text))
-		if e != api.OK {
-			t.Fatal(e)
-		}
+		in := Made(t, text)
 		for from := range in.Len() + 1 {
 			want, have := fmt.Sprint(denote.List(tree, groups, in, from)), fmt.Sprint(denote.List(told, groups, in, from))
 			if have != want {
